@@ -1,0 +1,1 @@
+"""Overfloors: endless floors laid over one another."""

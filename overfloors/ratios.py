@@ -1,0 +1,235 @@
+"""Exact numbers: ratios of integers of any size."""
+
+from math import gcd, lcm
+
+from overfloors.errors import BadNumber, NoSuch
+from overfloors.order import ranked
+
+
+def is_int(value):
+    """True for integers; True and False are none."""
+    return isinstance(value, int) and not isinstance(value, bool)
+
+
+def is_number(value):
+    """True for integers and Ratios."""
+    return isinstance(value, Ratio) or is_int(value)
+
+
+def ratio_of(number):
+    """A number as a Ratio."""
+    if isinstance(number, Ratio):
+        return number
+    if is_int(number):
+        return Ratio(number)
+    raise BadNumber(number)
+
+
+def floor_quotient(one, other):
+    """The floor of the exact quotient of two numbers."""
+    if not other:
+        raise BadNumber(other)
+    first = ratio_of(one)
+    second = ratio_of(other)
+    return (first.top * second.bottom) // (first.bottom * second.top)
+
+
+def whole_power(base, number):
+    """An integer to the power of an integer from 0 on."""
+    found = 1
+    factor = base
+    left = number
+    while left > 0:
+        if left & 1:
+            found = found * factor
+        left = left >> 1
+        # The last square would be as long as the whole result and is not needed.
+        if left > 0:
+            factor = factor * factor
+    return found
+
+
+class Ratio:
+    """A fraction in lowest terms with a bottom above 0."""
+
+    def __init__(self, top, bottom=1):
+        if not is_int(top):
+            raise BadNumber(top)
+        if not is_int(bottom):
+            raise BadNumber(bottom)
+        if bottom == 0:
+            raise BadNumber(0)
+        common = gcd(top, bottom)
+        if bottom < 0:
+            common = -common
+        self.top = top // common
+        self.bottom = bottom // common
+
+    def over(self, number):
+        """The exact quotient by a number."""
+        if not is_number(number) or not number:
+            raise BadNumber(number)
+        divisor = ratio_of(number)
+        return Ratio(self.top * divisor.bottom, self.bottom * divisor.top)
+
+    def floor(self):
+        """The greatest integer that is not above the number."""
+        return self.top // self.bottom
+
+    def ceiling(self):
+        """The least integer that is not below the number."""
+        return -(-self.top // self.bottom)
+
+    def whole(self):
+        """True if the number is an integer."""
+        return self.bottom == 1
+
+    def sign(self):
+        """-1, 0 or 1."""
+        if self.top < 0:
+            return -1
+        return 1 if self.top > 0 else 0
+
+    def __str__(self):
+        if self.bottom == 1:
+            return str(self.top)
+        return f"{self.top}/{self.bottom}"
+
+    def __bool__(self):
+        return bool(self.top != 0)
+
+    def __neg__(self):
+        return Ratio(-self.top, self.bottom)
+
+    def __abs__(self):
+        return Ratio(abs(self.top), self.bottom)
+
+    def __eq__(self, other):
+        if isinstance(other, Ratio):
+            return self.top == other.top and self.bottom == other.bottom
+        return is_int(other) and self.bottom == 1 and self.top == other
+
+    def __lt__(self, other):
+        if not is_number(other):
+            return NotImplemented
+        bound = ratio_of(other)
+        return self.top * bound.bottom < bound.top * self.bottom
+
+    def __le__(self, other):
+        if not is_number(other):
+            return NotImplemented
+        bound = ratio_of(other)
+        return self.top * bound.bottom <= bound.top * self.bottom
+
+    def __gt__(self, other):
+        if not is_number(other):
+            return NotImplemented
+        bound = ratio_of(other)
+        return self.top * bound.bottom > bound.top * self.bottom
+
+    def __ge__(self, other):
+        if not is_number(other):
+            return NotImplemented
+        bound = ratio_of(other)
+        return self.top * bound.bottom >= bound.top * self.bottom
+
+    def __add__(self, other):
+        if not is_number(other):
+            return NotImplemented
+        added = ratio_of(other)
+        return Ratio(self.top * added.bottom + added.top * self.bottom, self.bottom * added.bottom)
+
+    def __radd__(self, other):
+        if not is_number(other):
+            return NotImplemented
+        return self + other
+
+    def __sub__(self, other):
+        if not is_number(other):
+            return NotImplemented
+        return self + -other
+
+    def __rsub__(self, other):
+        if not is_number(other):
+            return NotImplemented
+        return -self + other
+
+    def __mul__(self, other):
+        if not is_number(other):
+            return NotImplemented
+        factor = ratio_of(other)
+        return Ratio(self.top * factor.top, self.bottom * factor.bottom)
+
+    def __rmul__(self, other):
+        if not is_number(other):
+            return NotImplemented
+        return self * other
+
+    def __floordiv__(self, other):
+        if not is_number(other):
+            return NotImplemented
+        return floor_quotient(self, other)
+
+    def __rfloordiv__(self, other):
+        if not is_number(other):
+            return NotImplemented
+        return floor_quotient(other, self)
+
+    def __mod__(self, other):
+        if not is_number(other):
+            return NotImplemented
+        return self - other * floor_quotient(self, other)
+
+    def __rmod__(self, other):
+        if not is_number(other):
+            return NotImplemented
+        return other - self * floor_quotient(other, self)
+
+    def __pow__(self, other):
+        if not is_int(other) or other < 0:
+            return NotImplemented
+        return Ratio(whole_power(self.top, other), whole_power(self.bottom, other))
+
+
+def gcd_of(first, second):
+    """The greatest common divisor of two integers; 0 if both are 0."""
+    return gcd(first, second)
+
+
+def lcm_of(first, second):
+    """The least common multiple of two integers; 0 if one of them is 0."""
+    return lcm(first, second)
+
+
+def bezout(first, second):
+    """(g, s, t) with s * first + t * second = g, the greatest common divisor."""
+    upper, lower = first, second
+    s, following = 1, 0
+    while lower != 0:
+        many = upper // lower
+        upper, lower = lower, upper - many * lower
+        s, following = following, s - many * following
+    if upper < 0:
+        upper, s = -upper, -s
+    t = (upper - s * first) // second if second != 0 else 0
+    return upper, s, t
+
+
+def ascending(numbers):
+    """The numbers as Ratios, the least one first."""
+    ratios = [ratio_of(number) for number in numbers]
+    return [ratios[index] for index in ranked([(ratio,) for ratio in ratios])]
+
+
+def least(numbers):
+    """The least one of some numbers."""
+    if len(numbers) == 0:
+        raise NoSuch(0)
+    return ascending(numbers)[0]
+
+
+def greatest(numbers):
+    """The greatest one of some numbers."""
+    if len(numbers) == 0:
+        raise NoSuch(0)
+    return ascending(numbers)[-1]

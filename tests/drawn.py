@@ -1,0 +1,85 @@
+"""Values that the tests draw, always the same ones, and values that are wrong."""
+
+from fractions import Fraction
+from random import Random
+
+from overfloors.errors import Flat
+from overfloors.lattices import Lattice
+from overfloors.points import Form, Point
+from overfloors.ratios import Ratio
+
+HUNDRED = 10 ** 100
+
+
+class Other:
+    """An object of a class that the package does not know."""
+
+
+def nested(depth):
+    value = []
+    for _ in range(depth):
+        value = [value]
+    return value
+
+
+def no_integers():
+    """Values that are no integers; Ratios are left out, since they are numbers."""
+    return [
+        None, True, False, "", "1", "ab", (), (1,), (1, 2), [], [1], {}, {"a": 1}, {1: 2},
+        nested(20), Other(), Point(1, 2), Form(1, 2), Lattice.square(1),
+    ]
+
+
+def no_points():
+    """Values that are no Points."""
+    others = [value for value in no_integers() if not isinstance(value, Point)]
+    return others + [0, 5, Ratio(1, 2), [Point(1, 2)], (Point(1, 2), Point(0, 1))]
+
+
+class Draw:
+    """Draws numbers, points and lattices in an order that a seed fixes."""
+
+    def __init__(self, seed):
+        self.random = Random(seed)
+
+    def integer(self, size):
+        return self.random.randint(-size, size)
+
+    def ratio(self, size):
+        return Ratio(self.integer(size), self.random.randint(1, size))
+
+    def point(self, size):
+        return Point(self.ratio(size), self.ratio(size))
+
+    def whole_point(self, size):
+        return Point(self.integer(size), self.integer(size))
+
+    def lattice(self, size, points=2):
+        while True:
+            try:
+                return Lattice([self.point(size) for _ in range(points)])
+            except Flat:
+                continue
+
+    def whole_lattice(self, size, points=2):
+        while True:
+            try:
+                return Lattice([self.whole_point(size) for _ in range(points)])
+            except Flat:
+                continue
+
+    def member(self, lattice, size):
+        first, second = lattice.rows()
+        return first * self.integer(size) + second * self.integer(size)
+
+
+def fraction(number):
+    """A number of the package as one of Python's own fractions."""
+    if isinstance(number, Ratio):
+        return Fraction(number.top, number.bottom)
+    return Fraction(number)
+
+
+def pair(point):
+    """The coordinates of a point as fractions."""
+    return fraction(point.x), fraction(point.y)
