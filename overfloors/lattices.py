@@ -3,7 +3,7 @@
 from math import gcd
 
 from overfloors.errors import BadNumber, BadPoint, Flat, NotWithin
-from overfloors.points import Form, Point, value_at
+from overfloors.points import Form, Point, carried
 from overfloors.ratios import Ratio, bezout, is_number, lcm_of
 
 
@@ -111,9 +111,7 @@ class Lattice:
 
     def moved(self, motion):
         """The lattice of the images of the rows under the table of a motion."""
-        above, below = motion.table
-        forms = (Form(above[0], above[1]), Form(below[0], below[1]))
-        return Lattice([Point(value_at(forms[0], row), value_at(forms[1], row)) for row in self.rows()])
+        return Lattice([carried(row, motion.table) for row in self.rows()])
 
     def __contains__(self, point):
         first, second = self.steps(point)

@@ -91,3 +91,9 @@ def value_at(form, point):
 def ascending_points(points):
     """The points ordered by x, then by y."""
     return [points[index] for index in ranked([(point.x, point.y) for point in points])]
+
+
+def carried(point, table):
+    """The point to which the table ((a, b), (c, d)) of a motion takes a point."""
+    above, below = table
+    return Point(above[0] * point.x + above[1] * point.y, below[0] * point.x + below[1] * point.y)

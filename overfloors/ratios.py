@@ -1,6 +1,6 @@
 """Exact numbers: ratios of integers of any size."""
 
-from math import gcd, lcm
+from math import gcd, isqrt, lcm
 
 from overfloors.errors import BadNumber, NoSuch
 from overfloors.order import ranked
@@ -14,6 +14,11 @@ def is_int(value):
 def is_number(value):
     """True for integers and Ratios."""
     return isinstance(value, Ratio) or is_int(value)
+
+
+def is_count(value):
+    """True for integers from 1 on."""
+    return is_int(value) and value >= 1
 
 
 def ratio_of(number):
@@ -34,9 +39,9 @@ def floor_quotient(one, other):
     return (first.top * second.bottom) // (first.bottom * second.top)
 
 
-def whole_power(base, number):
-    """An integer to the power of an integer from 0 on."""
-    found = 1
+def power_of(base, number, unit):
+    """The product of so many equal factors, an integer from 0 on; of none the unit."""
+    found = unit
     factor = base
     left = number
     while left > 0:
@@ -188,7 +193,7 @@ class Ratio:
     def __pow__(self, other):
         if not is_int(other) or other < 0:
             return NotImplemented
-        return Ratio(whole_power(self.top, other), whole_power(self.bottom, other))
+        return Ratio(power_of(self.top, other, 1), power_of(self.bottom, other, 1))
 
 
 def gcd_of(first, second):
@@ -199,6 +204,13 @@ def gcd_of(first, second):
 def lcm_of(first, second):
     """The least common multiple of two integers; 0 if one of them is 0."""
     return lcm(first, second)
+
+
+def divisors_of(number):
+    """The divisors of an integer from 1 on, the least one first."""
+    low = [divisor for divisor in range(1, isqrt(number) + 1) if number % divisor == 0]
+    high = [number // divisor for divisor in low[::-1] if divisor * divisor != number]
+    return low + high
 
 
 def bezout(first, second):

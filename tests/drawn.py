@@ -5,6 +5,7 @@ from random import Random
 
 from overfloors.errors import Flat
 from overfloors.lattices import Lattice
+from overfloors.layers import Layer
 from overfloors.points import Form, Point
 from overfloors.ratios import Ratio
 
@@ -34,6 +35,17 @@ def no_points():
     """Values that are no Points."""
     others = [value for value in no_integers() if not isinstance(value, Point)]
     return others + [0, 5, Ratio(1, 2), [Point(1, 2)], (Point(1, 2), Point(0, 1))]
+
+
+def no_lattices():
+    """Values that are no Lattices."""
+    others = [value for value in no_points() if not isinstance(value, Lattice)]
+    return others + [Point(1, 2), Layer(Point(0, 0), Lattice.square(1))]
+
+
+def no_counts():
+    """Values that are no integers from 1 on."""
+    return no_integers() + [0, -1, -HUNDRED, Ratio(1), Ratio(5), Ratio(1, 2), Ratio(-3)]
 
 
 class Draw:
@@ -68,6 +80,19 @@ class Draw:
             except Flat:
                 continue
 
+    def layer(self, size):
+        return Layer(self.point(size), self.lattice(size))
+
+    def narrow_lattice(self, index):
+        """A lattice of whole points with this index among all of them."""
+        height = self.random.choice([number for number in range(1, index + 1) if index % number == 0])
+        return Lattice([Point(index // height, self.random.randrange(height)), Point(0, height)])
+
+    def narrow_layer(self, indexes):
+        """A layer of whole points, whose lattice has one of the indexes."""
+        index = self.random.choice(indexes)
+        return Layer(self.whole_point(index), self.narrow_lattice(index))
+
     def member(self, lattice, size):
         first, second = lattice.rows()
         return first * self.integer(size) + second * self.integer(size)
@@ -83,3 +108,15 @@ def fraction(number):
 def pair(point):
     """The coordinates of a point as fractions."""
     return fraction(point.x), fraction(point.y)
+
+
+def members(lattice, size):
+    """The points (x, y) of a lattice of whole points with 0 <= x < size and 0 <= y < size."""
+    a, b, d = lattice.a.top, lattice.b.top, lattice.d.top
+    return {(x, y) for x in range(0, size, a) for y in range(x // a * b % d, size, d)}
+
+
+def places(layer, size):
+    """The points of a layer of whole points in the same square; its lattice must hold (size, 0) and (0, size)."""
+    left, low = layer.point.x.top, layer.point.y.top
+    return {((x + left) % size, (y + low) % size) for x, y in members(layer.lattice, size)}

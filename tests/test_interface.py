@@ -1,4 +1,4 @@
-"""[2], [50] to [54]: what stands where, under which names and with which arguments."""
+"""[2], [50] to [59]: what stands where, under which names and with which arguments."""
 
 import importlib
 import inspect
@@ -14,6 +14,18 @@ FUNCTIONS = {
     },
     "overfloors.lines": {
         "lines_of": ["one", "other"], "fits": ["lines", "one", "other"], "split": ["point", "one", "other"],
+    },
+    "overfloors.many": {
+        "gather": ["layers"], "bar_of": ["layers"], "bars": ["bar", "layers"], "fullest": ["layers"],
+        "woven": ["one", "two", "three"],
+    },
+    "overfloors.toldback": {
+        "sublattices": ["lattice", "number"], "superlattices": ["lattice", "number"],
+        "partners": ["lattice", "common", "number"], "count_partners": ["lattice", "common", "number"],
+        "complements": ["lattice", "common", "joint"],
+    },
+    "overfloors.motions": {
+        "shifting": ["point"], "stretching": ["number"], "indices": ["lattice", "motion"],
     },
 }
 ARITHMETIC = ["__add__", "__sub__", "__mul__", "__rmul__", "__neg__", "__eq__"]
@@ -38,6 +50,25 @@ CLASSES = {
     },
     "overfloors.lines": {
         "Lines": (["u", "v", "r", "s"], {"lattices": [], "common": [], "joint": []}, []),
+    },
+    "overfloors.layers": {
+        "Layer": (["point", "lattice"], {"shifted": ["point"], "moved": ["motion"]}, ARITHMETIC + [
+            "thickness", "__contains__", "__le__", "__and__",
+        ]),
+    },
+    "overfloors.many": {
+        "Bar": (["numbers", "forms", "value"], {}, []),
+    },
+    "overfloors.stretches": {
+        "Stretches": (["one", "other"], {
+            "meets": ["number"], "meeting": ["number"], "room": ["number"], "first_win": [],
+        }, []),
+    },
+    "overfloors.motions": {
+        "Motion": (["table", "shift"], {
+            "__call__": ["point"], "power": ["number"], "factor": [], "straight": [], "stretch": ["ground"],
+            "kind": ["ground"], "kept": [], "order": [],
+        }, ["__eq__", "__mul__", "__invert__"]),
     },
 }
 
@@ -75,10 +106,17 @@ class InterfaceTest(unittest.TestCase):
         self.assertIsInstance(vars(lattices.Lattice)["square"], classmethod)
         self.assertIsInstance(vars(lattices.Lattice)["oblong"], classmethod)
         self.assertIsInstance(vars(lattices.Lattice)["cell"], property)
+        layers = importlib.import_module("overfloors.layers")
+        self.assertIsInstance(vars(layers.Layer)["thickness"], property)
 
-    def test_default_bottom(self):
-        ratios = importlib.import_module("overfloors.ratios")
-        self.assertEqual(inspect.signature(ratios.Ratio).parameters["bottom"].default, 1)
+    def test_defaults(self):
+        expected = {("overfloors.ratios", "Ratio"): {"bottom": 1}, ("overfloors.motions", "Motion"): {"shift": None}}
+        for place, classes in CLASSES.items():
+            for name in classes:
+                made = getattr(importlib.import_module(place), name)
+                told = {one.name: one.default for one in inspect.signature(made).parameters.values()}
+                told = {key: value for key, value in told.items() if value is not inspect.Parameter.empty}
+                self.assertEqual(told, expected.get((place, name), {}), name)
 
 
 if __name__ == "__main__":
