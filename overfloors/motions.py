@@ -23,17 +23,6 @@ def undone(table):
     return (below[1] * part, -above[1] * part), (-below[0] * part, above[0] * part)
 
 
-def measure_of(ground, point):
-    """The squared length of a point in a ground."""
-    return ground.a * point.x * point.x + ground.b * point.x * point.y + ground.c * point.y * point.y
-
-
-def pair_of(ground, one, other):
-    """The measure of the sum of two points less the measures of both."""
-    both = one.x * other.y + one.y * other.x
-    return 2 * ground.a * one.x * other.x + ground.b * both + 2 * ground.c * one.y * other.y
-
-
 class Motion:
     """The motion that takes (x, y) to (a x + b y, c x + d y) and adds the shift."""
 
@@ -82,8 +71,8 @@ class Motion:
         """The Ratio by which the squared lengths of a ground are multiplied, or None."""
         (a, b), (c, d) = self.table
         first, second = Point(a, c), Point(b, d)
-        many = measure_of(ground, first).over(ground.a)
-        if pair_of(ground, first, second) != many * ground.b or measure_of(ground, second) != many * ground.c:
+        many = ground.measure(first).over(ground.a)
+        if ground.pair(first, second) != many * ground.b or ground.measure(second) != many * ground.c:
             return None
         return many
 

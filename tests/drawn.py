@@ -6,7 +6,7 @@ from random import Random
 from overfloors.errors import Flat
 from overfloors.lattices import Lattice
 from overfloors.layers import Layer
-from overfloors.points import Form, Point
+from overfloors.points import Form, Point, cross
 from overfloors.ratios import Ratio
 
 HUNDRED = 10 ** 100
@@ -65,6 +65,13 @@ class Draw:
 
     def whole_point(self, size):
         return Point(self.integer(size), self.integer(size))
+
+    def base(self, size):
+        """Two points that are not on one line with (0, 0)."""
+        while True:
+            one, other = self.point(size), self.point(size)
+            if cross(one, other):
+                return one, other
 
     def lattice(self, size, points=2):
         while True:

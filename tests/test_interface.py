@@ -1,4 +1,4 @@
-"""[2], [50] to [59]: what stands where, under which names and with which arguments."""
+"""[2], [50] to [64]: what stands where, under which names and with which arguments."""
 
 import importlib
 import inspect
@@ -26,6 +26,16 @@ FUNCTIONS = {
     },
     "overfloors.motions": {
         "shifting": ["point"], "stretching": ["number"], "indices": ["lattice", "motion"],
+    },
+    "overfloors.turns": {
+        "mirror": ["ground", "point"], "turn": ["ground", "point"], "direction": ["ground", "motion"],
+        "turn_index": ["ground", "point"], "turns_of": ["ground", "index", "most"], "indices_to": ["ground", "most"],
+    },
+    "overfloors.sectors": {
+        "least_turn": ["ground", "one", "other"],
+    },
+    "overfloors.bases": {
+        "least_bases": ["ground", "lattice"], "shape_of": ["ground", "lattice"],
     },
 }
 ARITHMETIC = ["__add__", "__sub__", "__mul__", "__rmul__", "__neg__", "__eq__"]
@@ -70,6 +80,19 @@ CLASSES = {
             "kind": ["ground"], "kept": [], "order": [],
         }, ["__eq__", "__mul__", "__invert__"]),
     },
+    "overfloors.turnings": {
+        "Turning": (["ground", "points"], {"relations": [], "made": ["point"]}, ["is_free"]),
+    },
+    "overfloors.grounds": {
+        "Ground": (["a", "b", "c"], {"measure": ["point"], "pair": ["one", "other"]}, ["__eq__"]),
+    },
+    "overfloors.bases": {
+        "Base": (["ground", "u", "v"], {"is_least": [], "point_at": ["x", "y"], "figures": ["point"]}, ["__eq__"]),
+    },
+}
+# The arguments that are passed by name only, with their defaults.
+NAMED = {
+    "turns_of": {"most": 500},
 }
 
 
@@ -108,6 +131,18 @@ class InterfaceTest(unittest.TestCase):
         self.assertIsInstance(vars(lattices.Lattice)["cell"], property)
         layers = importlib.import_module("overfloors.layers")
         self.assertIsInstance(vars(layers.Layer)["thickness"], property)
+        turnings = importlib.import_module("overfloors.turnings")
+        self.assertIsInstance(vars(turnings.Turning)["is_free"], property)
+
+    def test_by_name_only(self):
+        for place, functions in FUNCTIONS.items():
+            for name in functions:
+                parameters = inspect.signature(getattr(importlib.import_module(place), name)).parameters.values()
+                named = {one.name: one.default for one in parameters if one.kind == inspect.Parameter.KEYWORD_ONLY}
+                others = [one for one in parameters if one.kind != inspect.Parameter.KEYWORD_ONLY]
+                self.assertEqual(named, NAMED.get(name, {}), name)
+                for one in others:
+                    self.assertEqual((one.kind, one.default), (inspect.Parameter.POSITIONAL_OR_KEYWORD, inspect.Parameter.empty))
 
     def test_defaults(self):
         expected = {("overfloors.ratios", "Ratio"): {"bottom": 1}, ("overfloors.motions", "Motion"): {"shift": None}}

@@ -7,6 +7,7 @@ import unittest
 from fractions import Fraction
 
 from overfloors.errors import BadNumber, Flat
+from overfloors.grounds import Ground
 from overfloors.lattices import Lattice
 from overfloors.layers import Layer
 from overfloors.motions import Motion, indices, shifting, stretching
@@ -17,19 +18,6 @@ from drawn import Draw, HUNDRED, Other, fraction, members, no_integers, pair
 STILL = [[1, 0], [0, 1]]
 FIFTHS = [[Ratio(3, 5), Ratio(-4, 5)], [Ratio(4, 5), Ratio(3, 5)]]
 Z = Lattice.square(1)
-
-
-class Ground:
-    """Stands for a ground of [63]."""
-
-    def __init__(self, a, b, c):
-        self.a, self.b, self.c = a, b, c
-
-    def measure(self, point):
-        return self.a * point.x * point.x + self.b * point.x * point.y + self.c * point.y * point.y
-
-    def pair(self, one, other):
-        return self.measure(one + other) - self.measure(one) - self.measure(other)
 
 
 SQUARES, TRIANGLES = Ground(1, 0, 1), Ground(1, 1, 1)
