@@ -18,6 +18,17 @@ def is_least_shape(shape):
     return 0 <= q and q <= p and p <= r
 
 
+def figures_by(u, v, point):
+    """The Ratios x and y for which u * x + v * y is a point."""
+    area = cross(u, v)
+    return cross(point, v).over(area), cross(u, point).over(area)
+
+
+def steps_around(u, v):
+    """Six steps around (0, 0); for a least base u, v two neighbours always are a base at no obtuse angle."""
+    return [u, v, v - u, -u, -v, u - v]
+
+
 class Base:
     """Two points u, v that make a lattice, in a ground."""
 
@@ -42,8 +53,7 @@ class Base:
         """The Ratios x and y that lead to a point."""
         if not isinstance(point, Point):
             raise BadPoint(point)
-        area = cross(self.u, self.v)
-        return cross(point, self.v).over(area), cross(self.u, point).over(area)
+        return figures_by(self.u, self.v, point)
 
     def __eq__(self, other):
         if not isinstance(other, Base):
@@ -82,7 +92,7 @@ def least_bases(ground, lattice):
     """All least bases, ascending by the coordinates of u, then by those of v."""
     u, v = least_pair(ground, lattice)
     # Of the steps that are no multiples of u no other one is as short as v.
-    steps = [u, v, v - u, -u, -v, u - v]
+    steps = steps_around(u, v)
     pairs = [(one, other) for one in steps for other in steps if cross(one, other)]
     pairs = [pair for pair in pairs if is_least_shape(shape_by(ground, pair[0], pair[1]))]
     keys = [(one.x, one.y, other.x, other.y) for one, other in pairs]

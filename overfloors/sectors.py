@@ -1,6 +1,6 @@
 """The turn with the least index among those whose directions lie in a sector."""
 
-from overfloors.bases import least_pair
+from overfloors.bases import least_pair, steps_around
 from overfloors.errors import Flat
 from overfloors.grounds import Ground
 from overfloors.lattices import Lattice
@@ -50,11 +50,9 @@ def with_divisor(ground, number):
 
 
 def spokes_of(ground, lattice):
-    """Six steps of a lattice around (0, 0), two neighbours always a base at an angle that is not obtuse."""
+    """The six steps around (0, 0) of a least base, from right to left."""
     u, v = least_pair(ground, lattice)
-    if cross(u, v) < 0:
-        u, v = v, u
-    return [u, v, v - u, -u, -v, u - v]
+    return steps_around(u, v) if cross(u, v) > 0 else steps_around(v, u)
 
 
 def shortest_between(ground, lattice, one, other):

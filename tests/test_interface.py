@@ -1,4 +1,4 @@
-"""[2], [50] to [64]: what stands where, under which names and with which arguments."""
+"""[2], [50] to [69]: what stands where, under which names and with which arguments."""
 
 import importlib
 import inspect
@@ -36,6 +36,23 @@ FUNCTIONS = {
     },
     "overfloors.bases": {
         "least_bases": ["ground", "lattice"], "shape_of": ["ground", "lattice"],
+    },
+    "overfloors.near": {
+        "nearest": ["ground", "layer", "point"], "distance": ["ground", "layer", "point"],
+        "within": ["ground", "layer", "point", "far", "most"], "differences": ["one", "other"],
+        "gap": ["ground", "ones", "others"], "least_shifts": ["ground", "one", "other"],
+    },
+    "overfloors.holes": {
+        "holes": ["ground", "lattice"], "clearance": ["ground", "one", "other"],
+    },
+    "overfloors.keys": {
+        "least_key": ["ground", "tile", "mirrors", "stretch"],
+        "alike": ["ground", "tile", "other_ground", "other", "mirrors", "stretch"],
+        "pair_key": ["ground", "one", "other", "mirrors"],
+        "alike_pairs": ["ground", "one", "other", "other_ground", "third", "fourth", "mirrors"],
+    },
+    "overfloors.own": {
+        "own_motions": ["ground", "tile"], "centres": ["ground", "tile"], "common_motions": ["ground", "one", "other"],
     },
 }
 ARITHMETIC = ["__add__", "__sub__", "__mul__", "__rmul__", "__neg__", "__eq__"]
@@ -89,10 +106,20 @@ CLASSES = {
     "overfloors.bases": {
         "Base": (["ground", "u", "v"], {"is_least": [], "point_at": ["x", "y"], "figures": ["point"]}, ["__eq__"]),
     },
+    "overfloors.tiles": {
+        "Tile": (["lattice", "marks"], {
+            "letters": [], "marks": ["letter"], "layers_of": ["letter"], "letter_at": ["point"], "moved": ["motion"],
+        }, ["__eq__"]),
+    },
 }
 # The arguments that are passed by name only, with their defaults.
 NAMED = {
     "turns_of": {"most": 500},
+    "within": {"most": 200},
+    "least_key": {"mirrors": True, "stretch": False},
+    "alike": {"mirrors": True, "stretch": False},
+    "pair_key": {"mirrors": True},
+    "alike_pairs": {"mirrors": True},
 }
 
 
