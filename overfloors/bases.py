@@ -4,7 +4,7 @@ from overfloors.errors import BadPoint
 from overfloors.lattices import Lattice, common_bottom
 from overfloors.order import ranked
 from overfloors.points import Point, cross
-from overfloors.ratios import Ratio, ratio_of
+from overfloors.ratios import ratio_of
 
 
 def shape_by(ground, u, v):

@@ -8,7 +8,7 @@ from overfloors.bases import Base, least_bases, shape_of
 from overfloors.errors import BadNumber, BadPoint, Flat
 from overfloors.grounds import Ground
 from overfloors.lattices import Lattice
-from overfloors.points import Point, cross
+from overfloors.points import Point
 from overfloors.ratios import Ratio
 from overfloors.turns import mirror, turn
 from drawn import Draw, HUNDRED, Other, no_integers, no_points
