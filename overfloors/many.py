@@ -1,8 +1,9 @@
 """Many layers: what they have in common, or the bar that keeps them apart."""
 
-from itertools import combinations
+from math import gcd, lcm
 
 from overfloors.errors import Apart, NoSuch, TooMany
+from overfloors.layers import meet
 from overfloors.lines import split
 from overfloors.points import Form, Point, value_at
 from overfloors.ratios import Ratio, bezout, is_int, lcm_of, ratio_of
@@ -50,22 +51,60 @@ def value_of(forms, layers):
     return total % 1
 
 
-def meet(one, other):
-    """True if two layers have a common point."""
-    return one.point - other.point in one.lattice + other.lattice
+def choices(many, size):
+    """All lists of so many of the first integers from 0 on, each in ascending order, the least list first."""
+    found = [[]]
+    for _ in range(size):
+        found = [[*chosen, number] for chosen in found for number in range(chosen[-1] + 1 if chosen else 0, many)]
+    return found
 
 
-def apart(layers):
+def pairs_of(layers):
+    """A dict from the twos of indexes of layers, the first one below the second one, to their common layer or None."""
+    return {(first, second): layers[first] & layers[second] for first, second in choices(len(layers), 2)}
+
+
+def apart(layers, pairs):
     """The twos, and the threes of which the first two meet, of indexes of layers without a common point."""
     found = []
-    for first, second in combinations(range(len(layers)), 2):
-        common = layers[first] & layers[second]
+    for first, second in choices(len(layers), 2):
+        common = pairs[first, second]
         if common is None:
             found.append([first, second])
             continue
         thirds = [third for third in range(second + 1, len(layers)) if not meet(common, layers[third])]
         found.extend([[first, second, third] for third in thirds])
     return found
+
+
+def mask_of(numbers):
+    """An integer that tells a choice of indexes by its bits."""
+    return sum([1 << number for number in numbers])
+
+
+def common_cells(layers):
+    """The cells of what the layers of each mask have in common, None for nothing; the item 0 means nothing.
+
+    The dual of a common part is the sum of the duals, and its cell is told by areas of two points,
+    each of one dual. So the cell of a common part is the least common multiple of those of all twos.
+    """
+    pairs = pairs_of(layers)
+    barred = {mask_of(numbers): True for numbers in apart(layers, pairs)}
+    cells = [Ratio(0)] + [None] * ((1 << len(layers)) - 1)
+    for index, layer in enumerate(layers):
+        cells[1 << index] = layer.lattice.cell
+    twos = {mask_of(numbers): pairs[numbers] for numbers in pairs}
+    for mask in twos:
+        cells[mask] = None if twos[mask] is None else twos[mask].lattice.cell
+    bits = [1 << index for index in range(len(layers))]
+    for mask in range(1, 1 << len(layers)):
+        low, high = mask & -mask, 1 << (mask.bit_length() - 1)
+        if low + high >= mask or mask in barred or any([cells[mask ^ bit] is None for bit in bits if mask & bit]):
+            continue
+        parts = (cells[mask ^ low], cells[mask ^ high], cells[low | high])
+        top = lcm(parts[0].top, parts[1].top, parts[2].top)
+        cells[mask] = Ratio(top, gcd(parts[0].bottom, parts[1].bottom, parts[2].bottom))
+    return cells
 
 
 def forms_of(barred):
@@ -83,7 +122,7 @@ def forms_of(barred):
 
 def first_bar(layers):
     """A bar of the first two layers without a common point, else of the first three, else None."""
-    found = apart(layers)
+    found = apart(layers, pairs_of(layers))
     if len(found) == 0:
         return None
     twos = [told for told in found if len(told) == 2]
@@ -139,11 +178,11 @@ def bars(bar, layers):
 def fullest(layers):
     """The longest choice of layers with a common point, of several the first one, and their common layer."""
     check_many(layers)
-    barred = apart(layers)
+    barred = apart(layers, pairs_of(layers))
     for size in range(len(layers), 0, -1):
-        for chosen in combinations(range(len(layers)), size):
+        for chosen in choices(len(layers), size):
             if not any([all([number in chosen for number in numbers]) for numbers in barred]):
-                return list(chosen), gather([layers[number] for number in chosen])
+                return chosen, gather([layers[number] for number in chosen])
 
 
 def woven(one, two, three):

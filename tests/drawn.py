@@ -100,9 +100,23 @@ class Draw:
         index = self.random.choice(indexes)
         return Layer(self.whole_point(index), self.narrow_lattice(index))
 
+    def small_layers(self, many, indexes=(1, 2, 3, 4, 6, 12)):
+        """Different layers of whole points, which all repeat by (12, 0) and (0, 12)."""
+        found = []
+        while len(found) < many:
+            layer = self.narrow_layer(indexes)
+            if layer not in found:
+                found.append(layer)
+        return found
+
     def member(self, lattice, size):
         first, second = lattice.rows()
         return first * self.integer(size) + second * self.integer(size)
+
+
+def columns(width, first=0):
+    """The layer of all whole points with x = first modulo the width."""
+    return Layer(Point(first, 0), Lattice.oblong(width, 1))
 
 
 def fraction(number):

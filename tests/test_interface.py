@@ -1,4 +1,4 @@
-"""[2], [50] to [69]: what stands where, under which names and with which arguments."""
+"""[2], [50] to [79]: what stands where, under which names and with which arguments."""
 
 import importlib
 import inspect
@@ -53,6 +53,15 @@ FUNCTIONS = {
     },
     "overfloors.own": {
         "own_motions": ["ground", "tile"], "centres": ["ground", "tile"], "common_motions": ["ground", "one", "other"],
+    },
+    "overfloors.covers": {
+        "covers": ["layers", "layer"], "uncovered": ["layers", "layer"], "window_points": ["layer", "many"],
+    },
+    "overfloors.windows": {
+        "count_in": ["places", "window"],
+    },
+    "overfloors.floors": {
+        "meetings": ["one", "other"],
     },
 }
 ARITHMETIC = ["__add__", "__sub__", "__mul__", "__rmul__", "__neg__", "__eq__"]
@@ -110,6 +119,26 @@ CLASSES = {
         "Tile": (["lattice", "marks"], {
             "letters": [], "marks": ["letter"], "layers_of": ["letter"], "letter_at": ["point"], "moved": ["motion"],
         }, ["__eq__"]),
+    },
+    "overfloors.places": {
+        "Places": (["layers"], {
+            "inside": ["other"], "thick": [], "patterns": [], "witness": [], "shifted": ["point"], "moved": ["motion"],
+        }, ["__or__", "__and__", "__sub__", "__xor__", "__contains__", "__eq__", "__bool__"]),
+    },
+    "overfloors.windows": {
+        "Window": (["left", "right", "low", "high"], {}, ["__contains__", "__eq__"]),
+    },
+    "overfloors.corridors": {
+        "Corridor": (["along", "across", "low", "high"], {
+            "step_of": ["point"], "amount": ["places", "first", "last"], "next_from": ["places", "first"],
+            "kth": ["places", "first", "number"], "share": ["places"], "gaps": ["layer"],
+        }, ["__contains__"]),
+    },
+    "overfloors.floors": {
+        "Floor": (["laid"], {
+            "letters": [], "places": ["letter"], "letter_at": ["point"], "thick_of": ["letter"], "shifted": ["point"],
+            "moved": ["motion"], "without": ["letter"], "renamed": ["names"],
+        }, ["__eq__", "__or__", "__and__"]),
     },
 }
 # The arguments that are passed by name only, with their defaults.
@@ -172,7 +201,10 @@ class InterfaceTest(unittest.TestCase):
                     self.assertEqual((one.kind, one.default), (inspect.Parameter.POSITIONAL_OR_KEYWORD, inspect.Parameter.empty))
 
     def test_defaults(self):
-        expected = {("overfloors.ratios", "Ratio"): {"bottom": 1}, ("overfloors.motions", "Motion"): {"shift": None}}
+        expected = {
+            ("overfloors.ratios", "Ratio"): {"bottom": 1}, ("overfloors.motions", "Motion"): {"shift": None},
+            ("overfloors.places", "Places"): {"layers": ()},
+        }
         for place, classes in CLASSES.items():
             for name in classes:
                 made = getattr(importlib.import_module(place), name)
