@@ -143,7 +143,7 @@ class Corridor:
         return self.kth(places, first, 0)
 
     def kth(self, places, first, number):
-        """The place of a set with so many ahead of it among those in the corridor with a step from first on, or None."""
+        """The place of a set in the corridor with so many ahead of it that have a step from first on, or None."""
         if len(places.layers) > MOST:
             raise TooMany(MOST)
         if not is_int(number) or number < 0:

@@ -106,7 +106,7 @@ def common_parts(one, other):
 
 
 def meetings(one, other):
-    """A dict from pairs of letters to how thick the points lie that have the first letter here and the second one there."""
+    """A dict from pairs of letters, one of each floor, to how thick the points lie that have both."""
     found = {}
     for letter, another, common in common_parts(one, other):
         found[letter, another] = found.get((letter, another), Ratio(0)) + common.thickness

@@ -165,8 +165,9 @@ class Places:
         many = len(self.layers)
         present = self.present
         weights, unit = self.weights
-        found = [numbers for size in range(1, many + 1) for numbers in choices(many, size) if mask_of(numbers) in present]
-        return [(tuple(numbers), unit * weights[mask_of(numbers)]) for numbers in found]
+        found = [numbers for size in range(1, many + 1) for numbers in choices(many, size)]
+        masks = {tuple(numbers): mask_of(numbers) for numbers in found}
+        return [(numbers, unit * weights[masks[numbers]]) for numbers in masks if masks[numbers] in present]
 
     def witness(self):
         """A point of the set, or None."""
