@@ -1,7 +1,8 @@
 """Windows: how many places of a set they hold, and which ones, however many columns there are."""
 
 from overfloors.layers import grid_of, scaled, scales_of
-from overfloors.ratios import ratio_of
+from overfloors.points import Point
+from overfloors.ratios import Ratio, ratio_of
 
 
 class Window:
@@ -149,3 +150,15 @@ class Trail:
     def places(self, first, end):
         """The pairs (x, y) of these places."""
         return [self.place(index) for index in range(first, end) if self.inside(index)]
+
+
+def places_in(layer, window):
+    """The places of a layer in a window, ordered by x, then by y."""
+    if count_layer(layer, window) == 0:
+        return []
+    across, upward = scales_of([layer])
+    low = ceiling(window.low, upward)
+    trail = Trail(grid_of(layer, across, upward), low, ceiling(window.high, upward))
+    first = trail.index_from(ceiling(window.left, across), low)
+    end = trail.index_from(ceiling(window.right, across), low)
+    return [Point(Ratio(x, across), Ratio(y, upward)) for x, y in trail.places(first, end)]

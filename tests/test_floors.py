@@ -26,11 +26,11 @@ def no_letters():
     ]
 
 
-def drawn_floor(draw, many, letters="abc"):
+def drawn_floor(draw, many, letters="abc", indexes=(2, 3, 4, 6, 12)):
     """A floor of at most so many small layers, and what it lays in the square of SIZE."""
     laid, cells = [], {}
     for _ in range(40):
-        layer = draw.narrow_layer([2, 3, 4, 6, 12])
+        layer = draw.narrow_layer(indexes)
         held = places(layer, SIZE)
         if len(laid) < many and not held & set(cells):
             letter = draw.random.choice(letters)

@@ -63,6 +63,12 @@ FUNCTIONS = {
     "overfloors.floors": {
         "meetings": ["one", "other"],
     },
+    "overfloors.spots": {
+        "spots": ["layer", "floor", "window"],
+    },
+    "overfloors.shifts": {
+        "best_shifts": ["one", "other", "weights"],
+    },
 }
 ARITHMETIC = ["__add__", "__sub__", "__mul__", "__rmul__", "__neg__", "__eq__"]
 CLASSES = {
@@ -139,6 +145,21 @@ CLASSES = {
             "letters": [], "places": ["letter"], "letter_at": ["point"], "thick_of": ["letter"], "shifted": ["point"],
             "moved": ["motion"], "without": ["letter"], "renamed": ["names"],
         }, ["__eq__", "__or__", "__and__"]),
+    },
+    "overfloors.formulas": {
+        "Formula": (["text"], {"names": [], "places": ["floors"]}, ["__eq__"]),
+    },
+    "overfloors.promises": {
+        "Never": (["text"], {"is_kept": ["floors"]}, []),
+        "Always": (["text", "wider"], {"is_kept": ["floors"]}, []),
+        "Thick": (["text", "low", "high"], {"is_kept": ["floors"]}, []),
+    },
+    "overfloors.desk": {
+        "Desk": ([], {
+            "put": ["name", "floor"], "take": ["name"], "slide": ["name", "point"], "move_all": ["motion"],
+            "keep": ["name", "promise"], "free": ["name"], "floors": [], "promises": [], "places": ["text"], "undo": [],
+            "undoable": [], "attempt": ["action"], "explore": ["action"],
+        }, ["__getitem__", "__contains__", "__len__"]),
     },
 }
 # The arguments that are passed by name only, with their defaults.

@@ -1,0 +1,97 @@
+"""Spots: what of a floor is seen around the points of a layer, and how often."""
+
+from overfloors.errors import TooMany
+from overfloors.layers import Layer, grid_of, scaled, scales_of
+from overfloors.order import ranked
+from overfloors.ratios import Ratio
+from overfloors.tiles import key_of
+from overfloors.windows import Window, count_below, count_layer, places_in
+
+MOST = 20
+
+
+def common_lattice(floor):
+    """The common part of the lattices of all layers of a floor."""
+    lattices = [layer.lattice for _, layer in floor.laid]
+    common = lattices[0]
+    for lattice in lattices[1:]:
+        common = common & lattice
+    return common
+
+
+def marks_in(floor, window):
+    """The pairs (letter, point) of a floor in a window, ordered by x, then by y."""
+    if sum([count_layer(layer, window) for _, layer in floor.laid]) > MOST:
+        raise TooMany(MOST)
+    found = [(letter, point) for letter, layer in floor.laid for point in places_in(layer, window)]
+    return [found[index] for index in ranked([(point.x, point.y) for _, point in found])]
+
+
+def spans_of(figures, low, high, scale, end):
+    """For each coordinate of a mark the first integer from which on it is seen, and the first behind these.
+
+    The integers tell from how many parts of a unit the mark is seen; they go from 0 on, below the end.
+    """
+    found = []
+    for figure in figures:
+        sides = [((figure - side) * scale).floor() + 1 for side in (high, low)]
+        found.append(tuple([max(0, side) if side < end else end for side in sides]))
+    return found
+
+
+def edges_of(spans, end):
+    """All integers from 0 to the end at which something else is seen than before, ascending."""
+    sides = [side for span in spans for side in span]
+    return sorted(set([int(side) for side in [0, end, *sides]]))
+
+
+def seen_at(spans, figure):
+    """Whether each span holds an integer."""
+    return [start <= figure and figure < end for start, end in spans]
+
+
+def counts_of(grid, across, upward, ends):
+    """A dict from tuples of the indexes of the marks that are seen to the number of places of a grid that see them.
+
+    The spans of the marks in both directions are told, and the ends of the oblong in which places count.
+    """
+    columns, rows = edges_of(across, ends[0]), edges_of(upward, ends[1])
+    heights = [seen_at(upward, low) for low in rows[:-1]]
+    found = {}
+    for left, right in zip(columns, columns[1:]):
+        widths = seen_at(across, left)
+        below = [count_below(grid, left, right, bound) for bound in rows]
+        for height, low, high in zip(heights, below, below[1:]):
+            if high > low:
+                seen = tuple([index for index in range(len(across)) if widths[index] and height[index]])
+                found[seen] = found.get(seen, 0) + high - low
+    return found
+
+
+def picture_of(marks):
+    """The triples (letter, dx, dy) of marks, the differences to the first one."""
+    return tuple([(letter, point.x - marks[0][1].x, point.y - marks[0][1].y) for letter, point in marks])
+
+
+def spots(layer, floor, window):
+    """Pairs of the pictures of a floor that are seen from the points of a layer, and the thickness of such points."""
+    if len(floor.laid) == 0:
+        return [((), layer.thickness)]
+    common = common_lattice(floor)
+    marks = marks_in(floor, Window(window.left, window.right + common.a, window.low, window.high + common.d))
+    # What is seen from a point is seen again from all points a common step away, so points
+    # count that lead to one another by steps of the layer and of the floor, in one oblong.
+    joint = Layer(layer.point, layer.lattice + common)
+    scales = scales_of([joint])
+    ends = scaled(common.a, scales[0]), scaled(common.d, scales[1])
+    across = spans_of([point.x for _, point in marks], window.left, window.right, scales[0], ends[0])
+    upward = spans_of([point.y for _, point in marks], window.low, window.high, scales[1], ends[1])
+    counts = counts_of(grid_of(joint, scales[0], scales[1]), across, upward, ends)
+    unit = layer.thickness.over(common.cell.over(joint.lattice.cell))
+    pictures, many = {}, {}
+    for seen in counts:
+        seen_marks = [marks[index] for index in seen]
+        key = tuple([(letter, key_of(point - seen_marks[0][1])) for letter, point in seen_marks])
+        pictures[key] = picture_of(seen_marks)
+        many[key] = many.get(key, 0) + counts[seen]
+    return [(pictures[key], unit * many[key]) for key in pictures]
