@@ -4,7 +4,7 @@ from overfloors.errors import BadPoint
 from overfloors.lattices import Lattice, common_bottom
 from overfloors.order import ranked
 from overfloors.points import Point, cross
-from overfloors.ratios import ratio_of
+from overfloors.ratios import Ratio, ratio_of
 
 
 def shape_by(ground, u, v):
@@ -61,9 +61,10 @@ class Base:
         return self.ground == other.ground and self.u == other.u and self.v == other.v
 
 
-def shortened(p, q, r):
-    """Two rows of integers that lead from a base of the shape (p, q, r), integers, to a least one."""
-    u, v = (1, 0), (0, 1)
+def shortened(ground, one, other):
+    """A least base (u, v) of the lattice of two rows of integers, and its shape, all by integers."""
+    u, v = one, other
+    p, q, r = ground.whole_measure(u[0], u[1]), ground.whole_pair(u, v), ground.whole_measure(v[0], v[1])
     while True:
         many = (q + p) // (2 * p)
         v = v[0] - many * u[0], v[1] - many * u[1]
@@ -74,32 +75,65 @@ def shortened(p, q, r):
         p, r = r, p
         u, v = v, u
     if q < 0:
-        v = -v[0], -v[1]
-    return u, v
+        q, v = -q, (-v[0], -v[1])
+    return u, v, (p, q, r)
+
+
+def least_rows(ground, lattice):
+    """(times, u, v, shape): how many times a lattice is taken to be whole, a least base of it then, and its shape."""
+    times = common_bottom(lattice.table)
+    a, b, d = [figure.top * (times // figure.bottom) for figure in lattice.table]
+    u, v, shape = shortened(ground, (a, b), (0, d))
+    return times, u, v, shape
+
+
+def row_point(row, times):
+    """The point that two integers tell for a lattice that is taken so many times."""
+    return Point(Ratio(row[0], times), Ratio(row[1], times))
 
 
 def least_pair(ground, lattice):
     """The points u, v of one least base."""
-    first, second = lattice.rows()
-    shape = shape_by(ground, first, second)
-    bottom = common_bottom(shape)
-    p, q, r = [measure.top * (bottom // measure.bottom) for measure in shape]
-    u, v = shortened(p, q, r)
-    return first * u[0] + second * u[1], first * v[0] + second * v[1]
+    times, u, v, _ = least_rows(ground, lattice)
+    return row_point(u, times), row_point(v, times)
+
+
+def steps_for(shape):
+    """The pairs of steps that make all least bases of one of the shape, each step (i, j) for i u + j v."""
+    p, q, r = shape
+    # Of the steps that are no multiples of u no other one is as short as v.
+    steps = ((1, 0), (0, 1), (-1, 1), (-1, 0), (0, -1), (1, -1))
+    lengths = (p, r, p + r - q) * 2
+    firsts = [step for step, length in zip(steps, lengths) if length == p]
+    seconds = [step for step, length in zip(steps, lengths) if length == r]
+    found = []
+    for i, j in firsts:
+        for m, n in seconds:
+            # Steps on one line do not pass: their pair is 2 p or - 2 p.
+            if 2 * p * i * m + q * (i * n + j * m) + 2 * r * j * n == q:
+                found.append(((i, j), (m, n)))
+    return found
+
+
+def moved_rows(u, v, steps):
+    """The rows of integers i u + j v for both steps (i, j) of a pair."""
+    return [(u[0] * i + v[0] * j, u[1] * i + v[1] * j) for i, j in steps]
+
+
+def all_least_rows(u, v, shape):
+    """Pairs of the steps that make a least base of one of the shape, and its rows, ascending by the rows."""
+    pairs = [(steps, moved_rows(u, v, steps)) for steps in steps_for(shape)]
+    return [pairs[index] for index in ranked([[*rows[0], *rows[1]] for _, rows in pairs])]
 
 
 def least_bases(ground, lattice):
     """All least bases, ascending by the coordinates of u, then by those of v."""
-    u, v = least_pair(ground, lattice)
-    # Of the steps that are no multiples of u no other one is as short as v.
-    steps = steps_around(u, v)
-    pairs = [(one, other) for one in steps for other in steps if cross(one, other)]
-    pairs = [pair for pair in pairs if is_least_shape(shape_by(ground, pair[0], pair[1]))]
-    keys = [(one.x, one.y, other.x, other.y) for one, other in pairs]
-    return [Base(ground, pairs[index][0], pairs[index][1]) for index in ranked(keys)]
+    times, u, v, shape = least_rows(ground, lattice)
+    found = all_least_rows(u, v, shape)
+    return [Base(ground, row_point(rows[0], times), row_point(rows[1], times)) for _, rows in found]
 
 
 def shape_of(ground, lattice):
     """The shape of all least bases."""
-    u, v = least_pair(ground, lattice)
-    return shape_by(ground, u, v)
+    times, _, _, shape = least_rows(ground, lattice)
+    return tuple([Ratio(figure, times * times) for figure in shape])

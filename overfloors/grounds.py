@@ -2,7 +2,7 @@
 
 from overfloors.errors import BadNumber, BadPoint, NotPositive
 from overfloors.points import Point
-from overfloors.ratios import is_int
+from overfloors.ratios import Ratio, is_int
 
 
 class Ground:
@@ -22,15 +22,31 @@ class Ground:
         """The squared length of a point."""
         if not isinstance(point, Point):
             raise BadPoint(point)
-        return self.a * point.x * point.x + self.b * point.x * point.y + self.c * point.y * point.y
+        # Sums and products of integers are far faster than those of Ratios.
+        across, upward = point.x.bottom, point.y.bottom
+        x, y = point.x.top * upward, point.y.top * across
+        return Ratio(self.whole_measure(x, y), across * across * upward * upward)
+
+    def whole_measure(self, x, y):
+        """The squared length of a point that two integers tell."""
+        return (self.a * x + self.b * y) * x + self.c * y * y
+
+    def whole_pair(self, one, other):
+        """The pair of two points that two integers each tell."""
+        x, y = one
+        z, w = other
+        return 2 * self.a * x * z + self.b * (x * w + y * z) + 2 * self.c * y * w
 
     def pair(self, one, other):
         """The measure of the sum of two points less the measures of both."""
         for point in (one, other):
             if not isinstance(point, Point):
                 raise BadPoint(point)
-        both = one.x * other.y + one.y * other.x
-        return 2 * self.a * one.x * other.x + self.b * both + 2 * self.c * one.y * other.y
+        across, upward = one.x.bottom, one.y.bottom
+        width, height = other.x.bottom, other.y.bottom
+        first = one.x.top * upward, one.y.top * across
+        second = other.x.top * height, other.y.top * width
+        return Ratio(self.whole_pair(first, second), across * upward * width * height)
 
     def __eq__(self, other):
         return isinstance(other, Ground) and self.a == other.a and self.b == other.b and self.c == other.c

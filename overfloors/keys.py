@@ -5,11 +5,10 @@ marks are told by integers, as a text. Tiles are alike if they have one shape an
 motions that carry one to the other then take frames with the least text to such frames.
 """
 
-from overfloors.bases import least_bases
+from overfloors.bases import all_least_rows, least_rows, row_point
 from overfloors.lattices import Lattice, common_bottom
 from overfloors.layers import Layer
 from overfloors.motions import Motion
-from overfloors.points import cross
 from overfloors.ratios import Ratio
 from overfloors.tiles import rarest
 
@@ -19,16 +18,33 @@ def number_text(number):
     return f"{number.top:x}/{number.bottom:x}"
 
 
-def bases_for(ground, lattice, mirrors):
-    """The least bases that count: without mirrors those of one side only, which is the left one where it has any."""
-    bases = least_bases(ground, lattice)
-    left = [base for base in bases if cross(base.u, base.v) > 0]
-    return bases if mirrors or len(left) == 0 else left
+def area_of(one, other):
+    """The area of two rows of integers."""
+    return one[0] * other[1] - one[1] * other[0]
 
 
-def whole_figures(base, marks, start):
-    """An integer, and how many of its parts each mark is from a start along the base, by letters."""
-    figures = {letter: [base.figures(point - start) for point in marks[letter]] for letter in marks}
+def least_for(u, v, shape, mirrors):
+    """The least bases that count: without mirrors those of one side only, which is the left one where it has any.
+
+    They are told as pairs of the steps that lead to them from (u, v), and of their rows.
+    """
+    found = all_least_rows(u, v, shape)
+    left = [pair for pair in found if area_of(pair[1][0], pair[1][1]) > 0]
+    return found if mirrors or len(left) == 0 else left
+
+
+def figures_along(times, u, v, point):
+    """The Ratios x and y with x u + y v = the point, for rows of integers of a lattice that is taken so many times."""
+    across, upward = point.x.bottom, point.y.bottom
+    row = point.x.top * upward * times, point.y.top * across * times
+    bottom = area_of(u, v) * across * upward
+    return Ratio(area_of(row, v), bottom), Ratio(area_of(u, row), bottom)
+
+
+def whole_figures(times, rows, marks, start):
+    """An integer, and how many of its parts each mark is from a start along the rows, by letters."""
+    u, v = rows
+    figures = {letter: [figures_along(times, u, v, point - start) for point in marks[letter]] for letter in marks}
     bottom = common_bottom([figure for letter in figures for pair in figures[letter] for figure in pair])
     return bottom, {
         letter: [(x.top * (bottom // x.bottom), y.top * (bottom // y.bottom)) for x, y in figures[letter]]
@@ -36,14 +52,12 @@ def whole_figures(base, marks, start):
     }
 
 
-def changed(figures, base, other, bottom):
-    """Figures along a base as figures along another base of the same lattice, from 0 on and below the bottom."""
-    first, second = [[figure.top for figure in other.figures(step)] for step in (base.u, base.v)]
+def changed(figures, steps, bottom):
+    """Figures along a base as figures along the base that steps from it make, from 0 on and below the bottom."""
+    (i, j), (m, n) = steps
+    side = i * n - j * m
     return {
-        letter: [
-            ((x * first[0] + y * second[0]) % bottom, (x * first[1] + y * second[1]) % bottom)
-            for x, y in figures[letter]
-        ]
+        letter: [((x * n - y * m) * side % bottom, (y * i - x * j) * side % bottom) for x, y in figures[letter]]
         for letter in figures
     }
 
@@ -61,30 +75,38 @@ def text_from(figures, bottom, start):
 
 
 class Frames:
-    """The frames of a tile with the least text, as the motions that take figures to points."""
+    """The frames of a tile with the least text."""
 
     def __init__(self, ground, tile, mirrors):
-        bases = bases_for(ground, tile.lattice, mirrors)
+        self.times, u, v, self.shape = least_rows(ground, tile.lattice)
+        bases = least_for(u, v, self.shape, mirrors)
         marks = {letter: tile.marks(letter) for letter in tile.letters()}
         rare = rarest(marks, tile.letters())
-        bottom, figures = whole_figures(bases[0], marks, marks[rare][0])
+        bottom, figures = whole_figures(self.times, (u, v), marks, marks[rare][0])
         found = []
-        for base in bases:
-            seen = changed(figures, bases[0], base, bottom)
-            for point, start in zip(marks[rare], seen[rare]):
-                motion = Motion([[base.u.x, base.v.x], [base.u.y, base.v.y]], point)
-                found.append((text_from(seen, bottom, start), motion))
-        least = min([str(text) for text, _ in found])
-        self.motions = tuple([motion for text, motion in found if text == least])
-        self.shape = bases[0].shape
-        side = "right" if not mirrors and cross(bases[0].u, bases[0].v) < 0 else "left"
+        for steps, rows in bases:
+            seen = changed(figures, steps, bottom)
+            found.extend([
+                (text_from(seen, bottom, start), rows, point) for point, start in zip(marks[rare], seen[rare])
+            ])
+        least = min([str(text) for text, _, _ in found])
+        self.ends = tuple([(rows, point) for text, rows, point in found if text == least])
+        side = "right" if not mirrors and area_of(bases[0][1][0], bases[0][1][1]) < 0 else "left"
         self.text = f"{side} {bottom:x} {least}"
 
     def key(self, stretch):
         """A text that tiles have in common exactly if they are alike, if asked for also by stretching."""
-        part = self.shape[0] if stretch else Ratio(1)
-        shape = " ".join([number_text(figure.over(part)) for figure in self.shape])
+        part = self.shape[0] if stretch else self.times * self.times
+        shape = " ".join([number_text(Ratio(figure, part)) for figure in self.shape])
         return f"{shape} {self.text}"
+
+    def motions(self):
+        """The motions that take figures along the frames to points."""
+        found = []
+        for rows, point in self.ends:
+            u, v = row_point(rows[0], self.times), row_point(rows[1], self.times)
+            found.append(Motion([[u.x, v.x], [u.y, v.y]], point))
+        return found
 
 
 def least_key(ground, tile, *, mirrors=True, stretch=False):
@@ -96,8 +118,8 @@ def motions_between(frames, others, stretch):
     """The motions that take the one tile to the other, one for each table."""
     if frames.key(stretch) != others.key(stretch):
         return []
-    back = ~frames.motions[0]
-    return [motion * back for motion in others.motions]
+    back = ~frames.motions()[0]
+    return [motion * back for motion in others.motions()]
 
 
 def alike(ground, tile, other_ground, other, *, mirrors=True, stretch=False):
@@ -110,12 +132,13 @@ def pair_key(ground, one, other, *, mirrors=True):
     """A text that is the same exactly for alike pairs of tiles."""
     first, second = Frames(ground, one, mirrors), Frames(ground, other, mirrors)
     texts = []
-    for motion in first.motions:
+    ends = second.motions()
+    for motion in first.motions():
         back = ~motion
         # How the frames of both tiles lie to one another; a shift can be exchanged for one
         # that differs by an own step of either tile.
         steps = Lattice.square(1) + other.lattice.moved(back)
-        for there in second.motions:
+        for there in ends:
             seen = back * there
             rest = steps.rest(seen.shift)
             told = [*seen.table[0], *seen.table[1], rest.x, rest.y]

@@ -3,7 +3,7 @@
 from overfloors.keys import Frames, in_both, motions_between
 from overfloors.lattices import Lattice
 from overfloors.layers import Layer
-from overfloors.motions import Motion, undone
+from overfloors.motions import STILL, Motion, undone
 from overfloors.order import ranked
 from overfloors.points import carried
 
@@ -32,7 +32,7 @@ def rests_in(layer, lattice):
 
 def centres(ground, tile):
     """The centres in the oblong of the own lattice with their orders, ordered by x, then by y."""
-    turns = [motion for motion in own_motions(ground, tile) if motion.kind(ground) == "turn"]
+    turns = [motion for motion in own_motions(ground, tile) if motion.factor() > 0 and motion.table != STILL]
     layers = [kept_layer(tile.lattice, motion) for motion in turns]
     found = []
     for layer in layers:

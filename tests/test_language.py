@@ -68,7 +68,9 @@ class LanguageTest(unittest.TestCase):
                         continue
                     self.assertTrue(node.module.startswith("overfloors."), node.module)
                     source = (FOLDER / (node.module.split(".")[1] + ".py")).read_text()
-                    own = {one.name for one in ast.parse(source).body if isinstance(one, (ast.FunctionDef, ast.ClassDef))}
+                    body = ast.parse(source).body
+                    own = {one.name for one in body if isinstance(one, (ast.FunctionDef, ast.ClassDef))}
+                    own |= {target.id for one in body if isinstance(one, ast.Assign) for target in one.targets}
                     self.assertLessEqual(names, own, path)
 
     def test_no_ring_of_imports(self):
