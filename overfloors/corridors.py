@@ -3,9 +3,10 @@
 from math import gcd
 
 from overfloors.errors import BadNumber, Flat, NoWidth, TooMany
-from overfloors.layers import grid_of, scales_of
+from overfloors.layers import common_grid, grid_of, scales_of
 from overfloors.motions import Motion, undone
 from overfloors.order import ranked
+from overfloors.places import alone, signs_of
 from overfloors.points import carried, cross
 from overfloors.ratios import Ratio, is_int, ratio_of
 from overfloors.windows import Trail, Window, ceiling, count_layer, leaps
@@ -44,30 +45,52 @@ def gaps_of(grid, low, high):
     return found
 
 
-def are_least(masks):
-    """For each mask of a list whether no other one has only bits of it."""
-    return [not any([other & mask == other and other != mask for other in masks]) for mask in masks]
+def common_grids(grids):
+    """What the grids of each mask have in common, None for nothing and for the mask 0."""
+    found = [None]
+    for grid in grids:
+        more = [None if common is None else common_grid(common, grid) for common in found[1:]]
+        found = found + [grid] + more
+    return found
+
+
+def share_of(grid, low, high):
+    """The number of places of a grid in the strip low <= y < high for each unit of x, in the long run; 0 for None."""
+    return Ratio(0) if grid is None else Ratio(heights_in(grid, low, high), lap_of(grid))
+
+
+def present_in(table, grids, low, high):
+    """For each mask whether points of this pattern belong to a set and stand in the strip low <= y < high."""
+    shares = alone([share_of(grid, low, high) for grid in grids])
+    return [bool(belongs) and share > 0 for belongs, share in zip(table, shares)]
+
+
+def is_least(table, mask):
+    """True if a mask is in a table, but none that has only some of its bits."""
+    return table[mask] and not any([held and part & mask == part and part != mask for part, held in enumerate(table)])
 
 
 class Crowd:
     """The places of a set in a corridor from a step on, one behind the other, told by integers.
 
-    The trails are those of the terms of the set. All places of the set stand on the leading ones
-    of them, which come first.
+    The trails are those of what layers of the set have in common; the signs of the trails that
+    hold a point add up to 1 if it belongs to the set, otherwise to 0. All places of the set stand
+    on the leading trails, which come first.
     """
 
     def __init__(self, corridor, places, first):
         moved = [layer.moved(corridor.back) for layer in places.layers]
         self.across, self.upward = scales_of(moved)
         self.low, high = ceiling(corridor.low, self.upward), ceiling(corridor.high, self.upward)
-        least = are_least(places.present)
-        leaders = [mask for mask, leads in zip(places.present, least) if leads]
-        terms = [term for term in places.terms if term[0] in leaders]
-        self.leaders = len(terms)
-        terms = terms + [term for term in places.terms if term[0] not in leaders]
-        self.signs = [sign for _, sign, _ in terms]
-        grids = [grid_of(layer.moved(corridor.back), self.across, self.upward) for _, _, layer in terms]
-        self.trails = [Trail(grid, self.low, high) for grid in grids]
+        grids = common_grids([grid_of(layer, self.across, self.upward) for layer in moved])
+        table = present_in(places.table, grids, self.low, high)
+        signs = signs_of(table)
+        leaders = [mask for mask in range(len(table)) if is_least(table, mask)]
+        others = [mask for mask in range(len(table)) if signs[mask] != 0 and grids[mask] is not None]
+        masks = leaders + [mask for mask in others if mask not in leaders]
+        self.leaders = len(leaders)
+        self.signs = [signs[mask] for mask in masks]
+        self.trails = [Trail(grids[mask], self.low, high) for mask in masks]
         self.starts = self.indexes_from(ceiling(ratio_of(first), self.across), self.low)
 
     def indexes_from(self, x, y):
@@ -148,9 +171,9 @@ class Corridor:
             raise TooMany(MOST)
         if not is_int(number) or number < 0:
             raise BadNumber(number)
-        if not self.share(places):
-            return None
         crowd = Crowd(self, places, first)
+        if crowd.leaders == 0:
+            return None
         firsts, ends = crowd.close_to(number)
         found = self.points_by(places, crowd, firsts, ends)
         return found[number - crowd.ahead(firsts)]
@@ -174,7 +197,7 @@ class Corridor:
         total = Ratio(0)
         for _, sign, layer in places.terms:
             grid, across, low, high = self.flat(layer)
-            total = total + Ratio(sign * heights_in(grid, low, high) * across, lap_of(grid))
+            total = total + share_of(grid, low, high) * (sign * across)
         return total
 
     def flat(self, layer):

@@ -67,6 +67,18 @@ def places_by(layers, table):
     return found
 
 
+def alone(amounts):
+    """For each mask the amount of its points that no more layers hold, from the amounts of all its points."""
+    left = list(amounts)
+    bit = 1
+    while bit < len(left):
+        for mask in range(len(left)):
+            if mask & bit == 0:
+                left[mask] = left[mask] - left[mask | bit]
+        bit = bit * 2
+    return left
+
+
 def weights_of(layers):
     """An integer for each mask, how thick the points of just this pattern lie, and the unit of these integers."""
     cells = common_cells(layers)
@@ -75,13 +87,7 @@ def weights_of(layers):
     for cell in told:
         top, bottom = lcm(top, cell.top), gcd(bottom, cell.bottom)
     weights = [0] + [0 if cell is None else top // cell.top * (cell.bottom // bottom) for cell in cells[1:]]
-    # What a mask and more layers have in common counts for the mask, too, until it is taken out.
-    for index in range(len(layers)):
-        bit = 1 << index
-        for mask in range(1, len(weights)):
-            if mask & bit == 0:
-                weights[mask] = weights[mask] - weights[mask | bit]
-    return weights, Ratio(bottom, top)
+    return alone(weights), Ratio(bottom, top)
 
 
 def has_points(layers, table):

@@ -5,7 +5,7 @@ from overfloors.layers import Layer, grid_of, scaled, scales_of
 from overfloors.order import ranked
 from overfloors.ratios import Ratio
 from overfloors.tiles import key_of
-from overfloors.windows import Window, count_below, count_layer, places_in
+from overfloors.windows import Window, count_layer, floor_sum, places_in
 
 MOST = 20
 
@@ -48,6 +48,16 @@ def edges_of(spans, end):
 def seen_at(spans, figure):
     """Whether each span holds an integer."""
     return [start <= figure and figure < end for start, end in spans]
+
+
+def count_below(grid, left, right, bound):
+    """How many places of a grid stand in the columns from left on, below right, and below a bound.
+
+    They are counted from a height that is the same for all bounds, perhaps below 0.
+    """
+    x, y, a, b, d = grid
+    first, end = -((x - left) // a), -((x - right) // a)
+    return floor_sum(end - first, bound - 1 - y - first * b, -b, d)
 
 
 def counts_of(grid, across, upward, ends):

@@ -42,36 +42,6 @@ def ceiling(number, many):
     return -(-number.top * many // number.bottom)
 
 
-def count_below(grid, left, right, bound):
-    """How many places of a grid stand in the columns from left on, below right, and below a bound.
-
-    They are counted from a height that is the same for all bounds, perhaps below 0.
-    """
-    x, y, a, b, d = grid
-    first, end = -((x - left) // a), -((x - right) // a)
-    return floor_sum(end - first, bound - 1 - y - first * b, -b, d)
-
-
-def count_grid(grid, left, right, low, high):
-    """How many places of a grid have left <= x < right and low <= y < high, all of these integers."""
-    if low >= high:
-        return 0
-    return count_below(grid, left, right, high) - count_below(grid, left, right, low)
-
-
-def count_layer(layer, window):
-    """How many places of a layer are in a window."""
-    across, upward = scales_of([layer])
-    left, right = ceiling(window.left, across), ceiling(window.right, across)
-    low, high = ceiling(window.low, upward), ceiling(window.high, upward)
-    return count_grid(grid_of(layer, across, upward), left, right, low, high)
-
-
-def count_in(places, window):
-    """How many places of a set are in a window."""
-    return sum([sign * count_layer(layer, window) for _, sign, layer in places.terms])
-
-
 def leaps(grid, width):
     """The two steps (x, y) that lead on from place to place of a grid in a strip 0 <= y < width, the width above 0.
 
@@ -106,44 +76,59 @@ class Trail:
         x, y, a, _, d = grid
         self.x, self.low, self.width = x, low, high - low
         self.up, self.down = leaps(grid, self.width)
-        self.rise = self.up[1]
-        self.around = self.rise - self.down[1]
+        self.rise, fall = self.up[1], -self.down[1]
+        self.around = self.rise + fall
         self.start = y - low
         self.cell = a * d
-
-    def turned(self, index):
-        """How far the hand of the clock has come, told from the lower bound, at a place."""
-        return self.start + index * self.rise
+        # The same for x alone, by the leaps that come more often: how far the hand goes, where it
+        # starts, how far such a leap leads on, and how far the other one does.
+        often = (self.rise, self.start, self.up[0], self.down[0])
+        self.often = often if self.rise <= fall else (fall, self.around - 1 - self.start, self.down[0], self.up[0])
 
     def inside(self, index):
         """True if a place is in the strip itself."""
-        return self.turned(index) % self.around < self.width
+        return (self.start + index * self.rise) % self.around < self.width
 
     def place(self, index):
         """The pair (x, y) of a place."""
-        turned = self.turned(index)
+        turned = self.start + index * self.rise
         lead = turned // self.around
         return self.x + (index - lead) * self.up[0] + lead * self.down[0], self.low + turned % self.around
 
+    def index_at(self, x):
+        """The index of the first place that is not left of x."""
+        step, start, near, far = self.often
+        if step == 0:
+            lead = start // self.around
+            return lead - (self.x + lead * far - x) // near
+        # Such leaps come in runs, one for each time that the hand goes around. The first place of
+        # this run is left of x, and that of the next run but one is not.
+        lead = (step * (x - self.x) + near * start) // self.cell - 1
+        index = -((start - lead * self.around) // step)
+        while True:
+            left = x - self.x - (index - lead) * near - lead * far
+            end = -((start - (lead + 1) * self.around) // step)
+            if left <= 0:
+                return index
+            if near > 0 and index - (-left // near) < end:
+                return index - (-left // near)
+            index, lead = end, lead + 1
+
     def index_from(self, x, y):
         """The index of the first place that is not before (x, y)."""
-        lead = self.down[0] - self.up[0]
-        # The x of a place differs by at most this from that of an even walk.
-        sway = lead * (self.around - 1)
-        even = (x - self.x) * self.around - lead * self.start
-        low = -((-even - min(0, sway)) // self.cell)
-        high = -((-even - self.around - max(0, sway)) // self.cell)
-        while low < high:
-            middle = (low + high) // 2
-            if self.place(middle) < (x, y):
-                low = middle + 1
-            else:
-                high = middle
-        return low
+        index = self.index_at(x)
+        first, height = self.place(index)
+        if first > x or height >= y:
+            return index
+        if self.up[0] > 0:
+            return index + 1
+        # Several places have this x: those up to the bound of the strip.
+        more = (self.low + self.around - 1 - height) // self.rise + 1
+        return index + min(int(more), -((height - y) // self.rise))
 
     def amount(self, first, end):
         """How many places from an index on, below another one, are in the strip itself."""
-        start = self.turned(first)
+        start = self.start + first * self.rise
         above = floor_sum(end - first, start - self.width, self.rise, self.around)
         return floor_sum(end - first, start, self.rise, self.around) - above
 
@@ -152,13 +137,37 @@ class Trail:
         return [self.place(index) for index in range(first, end) if self.inside(index)]
 
 
+def trail_in(layer, window):
+    """The trail of a layer in the strip of a window, with the indexes of its first place in the window and behind it.
+
+    None stands for a window that is empty, or so narrow that it has no place of the layer.
+    """
+    across, upward = scales_of([layer])
+    left, right = ceiling(window.left, across), ceiling(window.right, across)
+    low, high = ceiling(window.low, upward), ceiling(window.high, upward)
+    if left >= right or low >= high:
+        return None
+    trail = Trail(grid_of(layer, across, upward), low, high)
+    return trail, trail.index_at(left), trail.index_at(right)
+
+
+def count_layer(layer, window):
+    """How many places of a layer are in a window."""
+    found = trail_in(layer, window)
+    return 0 if found is None else found[0].amount(found[1], found[2])
+
+
+def count_in(places, window):
+    """How many places of a set are in a window."""
+    return sum([sign * count_layer(layer, window) for _, sign, layer in places.terms])
+
+
 def places_in(layer, window):
     """The places of a layer in a window, ordered by x, then by y."""
-    if count_layer(layer, window) == 0:
+    found = trail_in(layer, window)
+    # Where the strip itself has no place the trail may still have very many beside it.
+    if found is None or found[0].amount(found[1], found[2]) == 0:
         return []
     across, upward = scales_of([layer])
-    low = ceiling(window.low, upward)
-    trail = Trail(grid_of(layer, across, upward), low, ceiling(window.high, upward))
-    first = trail.index_from(ceiling(window.left, across), low)
-    end = trail.index_from(ceiling(window.right, across), low)
+    trail, first, end = found
     return [Point(Ratio(x, across), Ratio(y, upward)) for x, y in trail.places(first, end)]

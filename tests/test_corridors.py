@@ -237,20 +237,30 @@ class PlacesTest(unittest.TestCase):
     def test_limits(self):
         """Numbers of 60 figures, and of 80 over one common bottom."""
         draw = Draw(103)
-        size, bottom = 10 ** 60 - 1, 10 ** 600 + 7
-        for point in (lambda: draw.point(size), lambda: Point(Ratio(draw.integer(10 ** 80), bottom), Ratio(draw.integer(10 ** 80), bottom))):
+        for bottom in (None, 10 ** 80 + 129, 10 ** 600 + 7):
+            def point():
+                if bottom is None:
+                    return draw.point(10 ** 60 - 1)
+                return Point(Ratio(draw.integer(10 ** 80), bottom), Ratio(draw.integer(10 ** 80), bottom))
+
             one, other, third = [Places([Layer(point(), Lattice([point(), point()]))]) for _ in range(3)]
             low = point()
             corridor = Corridor(point(), point(), min_of(low), max_of(low))
             first = point().x
             for found in (one, one | other | third, (one - other) ^ third):
                 for number in (0, 1, 10 ** 59):
-                    place = corridor.kth(found, first, number)
-                    self.assertIn(place, found)
-                    self.assertIn(place, corridor)
-                    step = corridor.step_of(place)
-                    self.assertGreaterEqual(step, first)
-                    self.assertEqual(corridor.amount(found, first, step), number)
+                    self.check_place(corridor, found, first, number)
+
+    def check_place(self, corridor, found, first, number):
+        place = corridor.kth(found, first, number)
+        if place is None:
+            self.assertEqual(corridor.share(found), 0)
+            return
+        self.assertIn(place, found)
+        self.assertIn(place, corridor)
+        step = corridor.step_of(place)
+        self.assertGreaterEqual(step, first)
+        self.assertEqual(corridor.amount(found, first, step), number)
 
 
 def min_of(point):

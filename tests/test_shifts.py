@@ -51,10 +51,10 @@ class ShiftsTest(unittest.TestCase):
     def test_walk(self):
         draw = Draw(130)
         kinds = {"none": 0, "some": 0, "many": 0}
-        for _ in range(150):
-            indexes = draw.random.choice([(2, 3, 4, 6), (6, 12)])
-            one, cells = drawn_floor(draw, draw.random.randint(1, 5), "ab", indexes)
-            other, others = drawn_floor(draw, draw.random.randint(1, 4), "abc", indexes)
+        for round_ in range(150):
+            least, indexes = (4, (12,)) if round_ % 4 == 0 else (1, (2, 3, 4, 6))
+            one, cells = drawn_floor(draw, draw.random.randint(least, 5), "ab", indexes)
+            other, others = drawn_floor(draw, draw.random.randint(least, 5), "abc", indexes)
             weights = {(a, b): draw.integer(3) for a in "abx" for b in "abc" if draw.random.random() < 0.6}
             if len(shift_layers(one, other, weights)) > 6:
                 with self.assertRaises(TooMany) as caught:

@@ -8,7 +8,7 @@ from overfloors.motions import Motion
 from overfloors.places import Places
 from overfloors.points import Point
 from overfloors.ratios import Ratio
-from overfloors.windows import Window, count_in, floor_sum
+from overfloors.windows import Trail, Window, count_in, floor_sum, places_in
 from drawn import HUNDRED, Draw, columns, fraction, no_points
 from expressions import drawn, made
 from search import box, point_of
@@ -108,6 +108,71 @@ class CountTest(unittest.TestCase):
                     (Window(x + small, x, y, y + small), 0), (Window(x, x, y, y), 0), (Window(x, x + small, y + small, y), 0),
                 ]:
                     self.assertEqual(count_in(Places([layer]), window), expected)
+
+
+class TrailTest(unittest.TestCase):
+    """Places of integers in a strip, against a walk."""
+
+    def walk(self, grid, low, high, left, right):
+        x, y, a, b, d = grid
+        columns_ = [i for i in range(left, right) if (i - x) % a == 0]
+        return [(i, j) for i in columns_ for j in range(low, high) if (j - y - (i - x) // a * b) % d == 0]
+
+    def test_walk(self):
+        draw = Draw(98)
+        random = draw.random
+        for _ in range(1500):
+            d = random.choice([1, 2, random.randint(1, 30)])
+            grid = (draw.integer(9), draw.integer(9), random.randint(1, 6), random.randrange(d), d)
+            low = draw.integer(9)
+            high, left = low + random.randint(1, 40), draw.integer(40)
+            right = left + random.randint(0, 50)
+            trail = Trail(grid, low, high)
+            places = self.walk(grid, low, high, left, right)
+            first, end = trail.index_at(left), trail.index_at(right)
+            self.assertEqual(trail.places(first, end), places)
+            self.assertEqual(trail.amount(first, end), len(places))
+            self.assertEqual((first, end), (trail.index_from(left, low), trail.index_from(right, low)))
+            for x, y in places[:6] + places[-6:]:
+                index = trail.index_from(x, y)
+                self.assertEqual(trail.place(index), (x, y))
+                self.assertLess(trail.place(trail.index_from(x, y + 1) - 1), (x, y + 1))
+                self.assertGreaterEqual(trail.place(trail.index_from(x, y + 1)), (x, y + 1))
+            wide = [trail.place(index) for index in range(first - 2, end + 3)]
+            self.assertEqual(wide, sorted(set(wide)))
+
+    def test_long(self):
+        draw = Draw(99)
+        random = draw.random
+        for _ in range(300):
+            a, d = [random.choice([1, 10 ** 20, random.randint(1, 10 ** 30)]) for _ in range(2)]
+            grid = (draw.integer(10 ** 30), draw.integer(10 ** 30), a, random.choice([0, 1, random.randrange(d)]) % d, d)
+            low = draw.integer(10 ** 30)
+            trail = Trail(grid, low, low + random.choice([1, 10 ** 10, random.randint(1, 10 ** 40)]))
+            for x in (draw.integer(10 ** 40), grid[0], draw.integer(9)):
+                for y in (low, low + random.randint(0, 10 ** 40), draw.integer(10 ** 40)):
+                    index = trail.index_from(x, y)
+                    self.assertGreaterEqual(trail.place(index), (x, y))
+                    self.assertLess(trail.place(index - 1), (x, y))
+
+    def test_places_in(self):
+        draw = Draw(100)
+        for _ in range(60):
+            layer = draw.layer(4)
+            left, low = draw.ratio(5), draw.ratio(5)
+            window = Window(left, left + abs(draw.ratio(3)), low, low + abs(draw.ratio(9)))
+            found = walk_points(layer, window)
+            self.assertEqual(places_in(layer, window), found)
+            self.assertEqual(count_in(Places([layer]), window), len(found))
+        # A strip between the lines of a layer, as long as can be.
+        rows = Layer(Point(0, 0), Lattice.square(1))
+        self.assertEqual(places_in(rows, Window(-HUNDRED, HUNDRED, Ratio(1, 3), Ratio(2, 3))), [])
+
+
+def walk_points(layer, window):
+    """The places of a layer in a window, one by one, in their order."""
+    left, right, low, high = [fraction(side) for side in (window.left, window.right, window.low, window.high)]
+    return [point_of(x, y) for x, y in sorted(box(layer, left, right, low, high)) if x < right and y < high]
 
 
 class LongWindowTest(unittest.TestCase):
