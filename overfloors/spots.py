@@ -3,7 +3,6 @@
 from overfloors.errors import TooMany
 from overfloors.layers import Layer, grid_of, scaled, scales_of
 from overfloors.order import ranked
-from overfloors.ratios import Ratio
 from overfloors.tiles import key_of
 from overfloors.windows import Window, count_layer, floor_sum, places_in
 

@@ -1,6 +1,6 @@
 """Windows: how many places of a set they hold, and which ones, however many columns there are."""
 
-from overfloors.layers import grid_of, scaled, scales_of
+from overfloors.layers import grid_of, scales_of
 from overfloors.points import Point
 from overfloors.ratios import Ratio, ratio_of
 
@@ -79,7 +79,7 @@ class Trail:
         self.rise, fall = self.up[1], -self.down[1]
         self.around = self.rise + fall
         self.start = y - low
-        self.cell = a * d
+        self.area = a * d
         # The same for x alone, by the leaps that come more often: how far the hand goes, where it
         # starts, how far such a leap leads on, and how far the other one does.
         often = (self.rise, self.start, self.up[0], self.down[0])
@@ -103,7 +103,7 @@ class Trail:
             return lead - (self.x + lead * far - x) // near
         # Such leaps come in runs, one for each time that the hand goes around. The first place of
         # this run is left of x, and that of the next run but one is not.
-        lead = (step * (x - self.x) + near * start) // self.cell - 1
+        lead = (step * (x - self.x) + near * start) // self.area - 1
         index = -((start - lead * self.around) // step)
         while True:
             left = x - self.x - (index - lead) * near - lead * far

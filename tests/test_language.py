@@ -1,6 +1,7 @@
 """The plain rules that the files of the package keep to, so far as a look at the text shows them."""
 
 import ast
+import builtins
 import pathlib
 import re
 import unittest
@@ -26,6 +27,16 @@ BARRED_WORDS = {
 
 def files():
     return sorted(FOLDER.glob("*.py"))
+
+
+def is_plain(node):
+    """Whether an argument is plainly numbers or texts, or a list or set of such."""
+    if isinstance(node, ast.ListComp):
+        return is_plain(node.elt)
+    if isinstance(node, ast.Call) and isinstance(node.func, ast.Name) and node.func.id == "set":
+        return is_plain(node.args[0])
+    is_call = isinstance(node, ast.Call) and isinstance(node.func, ast.Name) and node.func.id in ("int", "str", "len")
+    return is_call or isinstance(node, (ast.Constant, ast.JoinedStr))
 
 
 class LanguageTest(unittest.TestCase):
@@ -97,6 +108,39 @@ class LanguageTest(unittest.TestCase):
                 if isinstance(node, (ast.FunctionDef, ast.ClassDef, ast.arg)):
                     name = node.arg if isinstance(node, ast.arg) else node.name
                     self.assertTrue(re.fullmatch(r"_?[A-Za-z][A-Za-z0-9_]*|_|__[a-z]+__", name), name)
+
+    def test_names(self):
+        """Imports are used, and no other name is that of an import, a class of the file or a builtin."""
+        for path in files():
+            tree = ast.parse(path.read_text())
+            imports = {alias.name for node in tree.body if isinstance(node, ast.ImportFrom) for alias in node.names}
+            classes = {node.name for node in tree.body if isinstance(node, ast.ClassDef)}
+            names = [node for node in ast.walk(tree) if isinstance(node, ast.Name)]
+            self.assertLessEqual(imports, {node.id for node in names}, path)
+            bound = {node.id for node in names if isinstance(node.ctx, ast.Store)}
+            bound |= {node.arg for node in ast.walk(tree) if isinstance(node, ast.arg)}
+            self.assertFalse(bound & (imports | classes | set(dir(builtins))), path)
+
+    def test_attributes_and_properties(self):
+        """No attribute has the name of a property or a method."""
+        stored, defined = set(), set()
+        for path in files():
+            for node in ast.walk(ast.parse(path.read_text())):
+                if isinstance(node, ast.Attribute) and isinstance(node.ctx, ast.Store):
+                    stored.add(node.attr)
+                elif isinstance(node, ast.ClassDef):
+                    defined.update(one.name for one in node.body if isinstance(one, ast.FunctionDef))
+        self.assertFalse(stored & defined)
+
+    def test_calls(self):
+        """What is ordered is plainly numbers or texts; no stars and no generator expressions in calls."""
+        for path in files():
+            for node in ast.walk(ast.parse(path.read_text())):
+                self.assertNotIsInstance(node, ast.GeneratorExp, path)
+                if isinstance(node, ast.Call) and isinstance(node.func, ast.Name):
+                    self.assertFalse([one for one in node.args if isinstance(one, ast.Starred)], path)
+                    if node.func.id in ("sorted", "min", "max"):
+                        self.assertTrue(any(is_plain(one) for one in node.args), ast.unparse(node))
 
     def test_attributes_that_are_read_are_assigned(self):
         stored, read = set(), {}
