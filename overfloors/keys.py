@@ -5,10 +5,11 @@ marks are told by integers, as a text. Tiles are alike if they have one shape an
 motions that carry one to the other then take frames with the least text to such frames.
 """
 
-from overfloors.bases import all_least_rows, least_rows, row_point
+from overfloors.bases import all_least_rows, least_rows
 from overfloors.lattices import Lattice, common_bottom
 from overfloors.layers import Layer
 from overfloors.motions import Motion
+from overfloors.points import Point, carried
 from overfloors.ratios import Ratio
 from overfloors.tiles import rarest
 
@@ -100,68 +101,85 @@ class Frames:
         shape = " ".join([number_text(Ratio(figure, part)) for figure in self.shape])
         return f"{shape} {self.text}"
 
-    def motions(self):
-        """The motions that take figures along the frames to points."""
-        found = []
-        for rows, point in self.ends:
-            u, v = row_point(rows[0], self.times), row_point(rows[1], self.times)
-            found.append(Motion([[u.x, v.x], [u.y, v.y]], point))
-        return found
-
 
 def least_key(ground, tile, *, mirrors=True, stretch=False):
     """A text that is the same exactly for alike tiles."""
     return Frames(ground, tile, mirrors).key(stretch)
 
 
-def motions_between(frames, others, stretch):
-    """The motions that take the one tile to the other, one for each table."""
-    if frames.key(stretch) != others.key(stretch):
-        return []
-    back = ~frames.motions()[0]
-    return [motion * back for motion in others.motions()]
+def moves(frames, others, ends):
+    """The tables and shifts of the motions that take the first frame of a tile to some frames of another one."""
+    (u, v), start = frames.ends[0]
+    bottom = others.times * area_of(u, v)
+    found = []
+    for (first, second), point in ends:
+        rows = [
+            (frames.times * (x * v[1] - y * u[1]), frames.times * (y * u[0] - x * v[0])) for x, y in zip(first, second)
+        ]
+        table = tuple([(Ratio(x, bottom), Ratio(y, bottom)) for x, y in rows])
+        found.append((table, point - carried(start, table)))
+    return found
+
+
+def moves_between(frames, others, stretch):
+    """The tables and shifts of the motions that take the one tile to the other, one for each table."""
+    return moves(frames, others, others.ends) if frames.key(stretch) == others.key(stretch) else []
 
 
 def alike(ground, tile, other_ground, other, *, mirrors=True, stretch=False):
     """A motion that carries the one tile to the other, or None."""
-    found = motions_between(Frames(ground, tile, mirrors), Frames(other_ground, other, mirrors), stretch)
-    return found[0] if len(found) > 0 else None
+    frames, others = Frames(ground, tile, mirrors), Frames(other_ground, other, mirrors)
+    if frames.key(stretch) != others.key(stretch):
+        return None
+    table, shift = moves(frames, others, others.ends[:1])[0]
+    return Motion(table, shift)
+
+
+def table_text(frames, rows, others, seen):
+    """The text of two rows of the other frames as they are seen along two rows of the first ones."""
+    u, v = rows
+    bottom = others.times * area_of(u, v)
+    told = [area_of(seen[0], v), area_of(seen[1], v), area_of(u, seen[0]), area_of(u, seen[1])]
+    return " ".join([number_text(Ratio(frames.times * area, bottom)) for area in told])
+
+
+def shift_text(frames, end, lattice, point):
+    """The text of a point as it is seen from a frame, up to own steps of its tile and members of a lattice."""
+    (u, v), start = end
+    seen = [Point(1, 0), Point(0, 1)]
+    for row in (*lattice.rows(), point - start):
+        x, y = figures_along(frames.times, u, v, row)
+        seen.append(Point(x, y))
+    rest = Lattice(seen[:4]).rest(seen[4])
+    return f"{number_text(rest.x)} {number_text(rest.y)}"
 
 
 def pair_key(ground, one, other, *, mirrors=True):
     """A text that is the same exactly for alike pairs of tiles."""
     first, second = Frames(ground, one, mirrors), Frames(ground, other, mirrors)
-    texts = []
-    ends = second.motions()
-    for motion in first.motions():
-        back = ~motion
-        # How the frames of both tiles lie to one another; a shift can be exchanged for one
-        # that differs by an own step of either tile.
-        steps = Lattice.square(1) + other.lattice.moved(back)
-        for there in ends:
-            seen = back * there
-            rest = steps.rest(seen.shift)
-            told = [*seen.table[0], *seen.table[1], rest.x, rest.y]
-            texts.append(" ".join([number_text(number) for number in told]))
-    least = min([str(text) for text in texts])
-    return f"{first.key(False)} {second.key(False)} {least}"
+    # How the frames of both tiles lie to one another. A shift can be exchanged for one that
+    # differs by an own step of either tile; it is looked at only where the tables are the least.
+    told = [(table_text(first, end[0], second, there[0]), end, there) for end in first.ends for there in second.ends]
+    least = min([str(text) for text, _, _ in told])
+    shifts = [shift_text(first, end, other.lattice, there[1]) for text, end, there in told if text == least]
+    return f"{first.key(False)} {second.key(False)} {least} {min([str(text) for text in shifts])}"
 
 
-def in_both(motions, lattice, others, other_lattice):
-    """The motions that two lists have in common, if shifts differ by members of the two lattices."""
-    found = []
-    for motion in motions:
-        for other in others:
-            if motion.table == other.table:
-                common = Layer(motion.shift, lattice) & Layer(other.shift, other_lattice)
+def in_both(found, lattice, others, other_lattice):
+    """The motions that two lists of tables and shifts have in common, if shifts differ by members of the lattices."""
+    both = []
+    for table, shift in found:
+        for other_table, other_shift in others:
+            if table == other_table:
+                common = Layer(shift, lattice) & Layer(other_shift, other_lattice)
                 if common is not None:
-                    found.append(Motion(motion.table, common.point))
-    return found
+                    both.append(Motion(table, common.point))
+    return both
 
 
 def alike_pairs(ground, one, other, other_ground, third, fourth, *, mirrors=True):
     """A motion that carries the tile one to the third one and the other one to the fourth one, or None."""
-    first = motions_between(Frames(ground, one, mirrors), Frames(other_ground, third, mirrors), False)
-    second = motions_between(Frames(ground, other, mirrors), Frames(other_ground, fourth, mirrors), False)
+    first = moves_between(Frames(ground, one, mirrors), Frames(other_ground, third, mirrors), False)
+    second = moves_between(Frames(ground, other, mirrors), Frames(other_ground, fourth, mirrors), False)
     found = in_both(first, third.lattice, second, fourth.lattice)
     return found[0] if len(found) > 0 else None

@@ -1,18 +1,23 @@
 """Own motions of tiles: those that keep lengths and carry a tile to itself."""
 
-from overfloors.keys import Frames, in_both, motions_between
+from overfloors.keys import Frames, in_both, moves
 from overfloors.lattices import Lattice
 from overfloors.layers import Layer
 from overfloors.motions import STILL, Motion, undone
 from overfloors.order import ranked
 from overfloors.points import carried
+from overfloors.tiles import key_of
+
+
+def own_moves(ground, tile):
+    """The tables and shifts of the own motions of a tile, one for each table."""
+    frames = Frames(ground, tile, True)
+    return moves(frames, frames, frames.ends)
 
 
 def own_motions(ground, tile):
     """The own motions of a tile, one for each table, with shifts in the oblong of the own lattice."""
-    frames = Frames(ground, tile, True)
-    found = motions_between(frames, frames, False)
-    return [Motion(motion.table, tile.lattice.rest(motion.shift)) for motion in found]
+    return [Motion(table, tile.lattice.rest(shift)) for table, shift in own_moves(ground, tile)]
 
 
 def kept_layer(lattice, motion):
@@ -32,17 +37,17 @@ def rests_in(layer, lattice):
 
 def centres(ground, tile):
     """The centres in the oblong of the own lattice with their orders, ordered by x, then by y."""
-    turns = [motion for motion in own_motions(ground, tile) if motion.factor() > 0 and motion.table != STILL]
-    layers = [kept_layer(tile.lattice, motion) for motion in turns]
-    found = []
-    for layer in layers:
-        for point in rests_in(layer, tile.lattice):
-            if point not in found:
-                found.append(point)
-    order = ranked([(point.x, point.y) for point in found])
-    return [(found[at], 1 + len([one for one in layers if found[at] in one])) for at in order]
+    points, orders = {}, {}
+    for motion in own_motions(ground, tile):
+        if motion.factor() > 0 and motion.table != STILL:
+            for point in rests_in(kept_layer(tile.lattice, motion), tile.lattice):
+                key = key_of(point)
+                points[key] = point
+                orders[key] = orders.get(key, 1) + 1
+    found = [(points[key], orders[key]) for key in points]
+    return [found[at] for at in ranked([(point.x, point.y) for point, _ in found])]
 
 
 def common_motions(ground, one, other):
     """The own motions of both tiles, those counted once that differ by a step of both own lattices."""
-    return in_both(own_motions(ground, one), one.lattice, own_motions(ground, other), other.lattice)
+    return in_both(own_moves(ground, one), one.lattice, own_moves(ground, other), other.lattice)
