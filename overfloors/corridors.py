@@ -99,7 +99,7 @@ class Crowd:
 
     def ahead(self, ends):
         """How many places of the set there are from the first step on below some indexes."""
-        amounts = [trail.amount(start, end) for trail, start, end in zip(self.trails, self.starts, ends)]
+        amounts = [trail.many_between(start, end) for trail, start, end in zip(self.trails, self.starts, ends)]
         return sum([sign * amount for sign, amount in zip(self.signs, amounts)])
 
     def nearest_after(self, many):
@@ -182,7 +182,7 @@ class Corridor:
         """The points of a set that stand on the leading trails of its crowd between some indexes."""
         pairs = []
         for index in range(crowd.leaders):
-            pairs.extend(crowd.trails[index].places(firsts[index], ends[index]))
+            pairs.extend(crowd.trails[index].places_between(firsts[index], ends[index]))
         found = []
         before = None
         for x, y in [pairs[index] for index in ranked(pairs)]:

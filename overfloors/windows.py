@@ -85,7 +85,7 @@ class Trail:
         often = (self.rise, self.start, self.up[0], self.down[0])
         self.often = often if self.rise <= fall else (fall, self.around - 1 - self.start, self.down[0], self.up[0])
 
-    def inside(self, index):
+    def is_inside(self, index):
         """True if a place is in the strip itself."""
         return (self.start + index * self.rise) % self.around < self.width
 
@@ -126,15 +126,15 @@ class Trail:
         more = (self.low + self.around - 1 - height) // self.rise + 1
         return index + min(int(more), -((height - y) // self.rise))
 
-    def amount(self, first, end):
+    def many_between(self, first, end):
         """How many places from an index on, below another one, are in the strip itself."""
         start = self.start + first * self.rise
         above = floor_sum(end - first, start - self.width, self.rise, self.around)
         return floor_sum(end - first, start, self.rise, self.around) - above
 
-    def places(self, first, end):
+    def places_between(self, first, end):
         """The pairs (x, y) of these places."""
-        return [self.place(index) for index in range(first, end) if self.inside(index)]
+        return [self.place(index) for index in range(first, end) if self.is_inside(index)]
 
 
 def trail_in(layer, window):
@@ -154,7 +154,7 @@ def trail_in(layer, window):
 def count_layer(layer, window):
     """How many places of a layer are in a window."""
     found = trail_in(layer, window)
-    return 0 if found is None else found[0].amount(found[1], found[2])
+    return 0 if found is None else found[0].many_between(found[1], found[2])
 
 
 def count_in(places, window):
@@ -166,8 +166,8 @@ def places_in(layer, window):
     """The places of a layer in a window, ordered by x, then by y."""
     found = trail_in(layer, window)
     # Where the strip itself has no place the trail may still have very many beside it.
-    if found is None or found[0].amount(found[1], found[2]) == 0:
+    if found is None or found[0].many_between(found[1], found[2]) == 0:
         return []
     across, upward = scales_of([layer])
     trail, first, end = found
-    return [Point(Ratio(x, across), Ratio(y, upward)) for x, y in trail.places(first, end)]
+    return [Point(Ratio(x, across), Ratio(y, upward)) for x, y in trail.places_between(first, end)]

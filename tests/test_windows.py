@@ -130,8 +130,8 @@ class TrailTest(unittest.TestCase):
             trail = Trail(grid, low, high)
             places = self.walk(grid, low, high, left, right)
             first, end = trail.index_at(left), trail.index_at(right)
-            self.assertEqual(trail.places(first, end), places)
-            self.assertEqual(trail.amount(first, end), len(places))
+            self.assertEqual(trail.places_between(first, end), places)
+            self.assertEqual(trail.many_between(first, end), len(places))
             self.assertEqual((first, end), (trail.index_from(left, low), trail.index_from(right, low)))
             for x, y in places[:6] + places[-6:]:
                 index = trail.index_from(x, y)
