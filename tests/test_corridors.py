@@ -348,6 +348,11 @@ class GapsTest(unittest.TestCase):
         self.assertEqual(corridor.gaps(Layer(Point(0, 0), Lattice([Point(1, 1), Point(0, 2)]))), [(Ratio(2), Ratio(1, 2))])
         self.assertEqual(corridor.gaps(Layer(Point(0, Ratio(1, 2)), Lattice.square(HUNDRED))), [(Ratio(HUNDRED), Ratio(1, HUNDRED))])
         self.assertEqual(corridor.gaps(Layer(Point(0, 1), Lattice.square(2))), [])
+        # Three columns in a row out of ten, and five out of ten that go down.
+        up = Layer(Point(0, 0), Lattice([Point(1, 1), Point(0, 10)]))
+        self.assertEqual(Corridor(Point(1, 0), Point(0, 1), 0, 3).gaps(up), [(Ratio(1), Ratio(1, 5)), (Ratio(8), Ratio(1, 10))])
+        down = Layer(Point(0, 0), Lattice([Point(1, 9), Point(0, 10)]))
+        self.assertEqual(Corridor(Point(1, 0), Point(0, 1), 0, 5).gaps(down), [(Ratio(1), Ratio(2, 5)), (Ratio(6), Ratio(1, 10))])
         gaps = corridor.gaps(columns(2))
         gaps.clear()
         self.assertEqual(len(corridor.gaps(columns(2))), 1)
