@@ -83,14 +83,14 @@ def mask_of(numbers):
 
 
 def common_cells(layers):
-    """The cells of what the layers of each mask have in common, None for nothing; the item 0 means nothing.
+    """The cells of what the layers of each mask have in common, None for nothing and for the mask 0.
 
     The dual of a common part is the sum of the duals, and its cell is told by areas of two points,
     each of one dual. So the cell of a common part is the least common multiple of those of all twos.
     """
     pairs = pairs_of(layers)
     barred = {mask_of(numbers): True for numbers in apart(layers, pairs)}
-    cells = [Ratio(0)] + [None] * ((1 << len(layers)) - 1)
+    cells = [None for _ in range(1 << len(layers))]
     for index, layer in enumerate(layers):
         cells[1 << index] = layer.lattice.cell
     twos = {mask_of(numbers): pairs[numbers] for numbers in pairs}
