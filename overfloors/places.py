@@ -23,12 +23,19 @@ def joined(layers, others):
     return found
 
 
+def bit_of(layer, layers):
+    """The bit of a layer in the masks of some layers, 0 if it is none of them."""
+    for index, one in enumerate(layers):
+        if one == layer:
+            return 1 << index
+    return 0
+
+
 def table_over(places, layers):
     """The table of a set, told for the masks of other layers, all of its own ones among them."""
-    own = list(places.layers)
     masks = [0]
     for layer in layers:
-        bit = 1 << own.index(layer) if layer in own else 0
+        bit = bit_of(layer, places.layers)
         masks = masks + [mask | bit for mask in masks]
     return [places.table[mask] for mask in masks]
 
