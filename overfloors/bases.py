@@ -1,7 +1,9 @@
 """Bases of a lattice in a ground, and the least ones, which are told by the shape of the lattice."""
 
+from math import lcm
+
 from overfloors.errors import BadPoint
-from overfloors.lattices import Lattice, common_bottom
+from overfloors.lattices import Lattice, rows_by
 from overfloors.order import ranked
 from overfloors.points import Point, cross
 from overfloors.ratios import Ratio, ratio_of
@@ -81,8 +83,9 @@ def shortened(ground, one, other):
 
 def least_rows(ground, lattice):
     """(times, u, v, shape): how many times a lattice is taken to be whole, a least base of it then, and its shape."""
-    times = common_bottom(lattice.table)
-    a, b, d = [figure.top * (times // figure.bottom) for figure in lattice.table]
+    table = lattice.table
+    times = lcm(table.across, table.upward)
+    a, b, d = rows_by(table, times, times)
     u, v, shape = shortened(ground, (a, b), (0, d))
     return times, u, v, shape
 
@@ -123,7 +126,7 @@ def moved_rows(u, v, steps):
 def all_least_rows(u, v, shape):
     """Pairs of the steps that make a least base of one of the shape, and its rows, ascending by the rows."""
     pairs = [(steps, moved_rows(u, v, steps)) for steps in steps_for(shape)]
-    return [pairs[index] for index in ranked([[*rows[0], *rows[1]] for _, rows in pairs])]
+    return [pairs[index] for index in ranked([(*rows[0], *rows[1]) for _, rows in pairs])]
 
 
 def least_bases(ground, lattice):

@@ -1,48 +1,71 @@
 """Covers: whether layers hold all points of a layer, which a small window of its points shows."""
 
+from math import gcd, lcm
+
 from overfloors.errors import BadNumber, TooMany
-from overfloors.lattices import common_bottom
-from overfloors.layers import scaled
-from overfloors.ratios import is_int
+from overfloors.layers import common_grid, grid_of, scales_of
+from overfloors.points import Point
+from overfloors.ratios import Ratio, is_int
 
 MOST = 6
 
 
-def whole_places(figures):
-    """Three integers and their bottom (x, i, j, bottom): where x + i m + j n is a multiple of it, a step is whole.
-
-    The figures are the same step of a point and of two rows, as Ratios.
-    """
-    bottom = common_bottom(figures)
-    x, i, j = [scaled(figure, bottom) % bottom for figure in figures]
-    return x, i, j, bottom
-
-
-def tests_of(layer, points):
-    """What tells whether c + i u + j v is in a layer, for the points c, u and v."""
-    start, first, second = points
-    steps = [layer.lattice.steps(point) for point in (start - layer.point, first, second)]
-    return [whole_places([step[side] for step in steps]) for side in (0, 1)]
+def stepped(one, other):
+    """The grid of what two grids have in common, told by the steps (i, j) of the first one, or None."""
+    found = common_grid(one, other)
+    if found is None:
+        return None
+    x, y, a, b, d = one
+    left, low, width, lean, height = found
+    i, across = (left - x) // a, width // a
+    return i, (low - y - i * b) // d, across, (lean - across * b) // d, height // d
 
 
-def passes(tests, i, j):
-    """True if all tests tell that the point of i and j is in their layer."""
-    for x, first, second, bottom in tests:
-        if (x + i * first + j * second) % bottom != 0:
-            return False
-    return True
+def steps_held(layers, layer):
+    """The grids, told by the steps of a layer, of what each layer of a list has in common with it, if anything."""
+    found = []
+    for one in layers:
+        across, upward = scales_of([layer, one])
+        grid = stepped(grid_of(layer, across, upward), grid_of(one, across, upward))
+        if grid is not None:
+            found.append(grid)
+    return found
+
+
+def comb(step, reach):
+    """The integer whose bits are the multiples of a step from 0 on, all those below the reach among them."""
+    if step >= reach:
+        return 1
+    many = -(-reach // step)
+    return ((1 << (step * many)) - 1) // ((1 << step) - 1)
+
+
+def first_step(grids):
+    """The first (i, j), both from 0 on, that none of some grids holds, or None."""
+    reach = 1 << len(grids)
+    # From here on the columns are the same again.
+    again = 1
+    for _, _, a, b, d in grids:
+        again = lcm(again, a * (d // gcd(b, d)))
+    combs = [comb(grid[4], reach) for grid in grids]
+    for i in range(min(reach, int(again))):
+        left = (1 << reach) - 1
+        for (x, y, a, b, d), bits in zip(grids, combs):
+            start = (y + (i - x) // a * b) % d
+            if (i - x) % a == 0 and start < reach:
+                left = left & ~(bits << start)
+        if left > 0:
+            return i, (left & -left).bit_length() - 1
+    return None
 
 
 def first_uncovered(layers, layer):
     """The first point c + i u + j v of the window of a layer that no layer of a list holds, or None."""
-    points = (layer.point, *layer.lattice.rows())
-    tests = [tests_of(one, points) for one in layers]
-    reach = 1 << len(layers)
-    for i in range(reach):
-        for j in range(reach):
-            if not any([passes(test, i, j) for test in tests]):
-                return points[0] + points[1] * i + points[2] * j
-    return None
+    found = first_step(steps_held(layers, layer))
+    if found is None:
+        return None
+    first, second = layer.lattice.rows()
+    return layer.point + first * found[0] + second * found[1]
 
 
 def uncovered(layers, layer):
@@ -61,6 +84,10 @@ def window_points(layer, many):
     """The points of a layer that show whether so many layers cover it."""
     if not is_int(many) or many < 0 or many > MOST:
         raise BadNumber(many)
-    first, second = layer.lattice.rows()
-    reach = 1 << many
-    return [layer.point + first * i + second * j for i in range(reach) for j in range(reach)]
+    across, upward = scales_of([layer])
+    x, y, a, b, d = grid_of(layer, across, upward)
+    found = []
+    for i in range(1 << many):
+        column = Ratio(x + i * a, across)
+        found.extend([Point(column, Ratio(y + i * b + j * d, upward)) for j in range(1 << many)])
+    return found

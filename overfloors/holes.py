@@ -3,14 +3,13 @@
 from overfloors.bases import least_pair, shape_by
 from overfloors.layers import Layer
 from overfloors.near import differences
-from overfloors.order import ranked
+from overfloors.points import ranked_points
 
 
 def ordered(layers):
     """The layers ordered by their points, each once."""
-    rows = ranked([(layer.point.x, layer.point.y) for layer in layers])
     found = []
-    for index in rows:
+    for index in ranked_points([layer.point for layer in layers]):
         if layers[index] not in found:
             found.append(layers[index])
     return found

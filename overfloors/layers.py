@@ -1,90 +1,79 @@
 """Layers: a point together with a lattice, the set of all points that the lattice makes of it."""
 
-from math import gcd
+from math import gcd, lcm
 
 from overfloors.errors import BadPoint
-from overfloors.lattices import Lattice, common_bottom
+from overfloors.lattices import Lattice, Table, is_member
 from overfloors.points import Point
 from overfloors.ratios import Ratio, bezout, is_number
 
 
-def scaled(number, many):
-    """A Ratio taken so many times, where this makes an integer."""
-    return number.top * (many // number.bottom)
-
-
 def scales_of(layers):
     """Two integers: how many times the coordinates x and y of all points of layers make them whole."""
-    lattices = [layer.lattice for layer in layers]
-    points = [layer.point for layer in layers]
-    across = common_bottom([lattice.a for lattice in lattices] + [point.x for point in points])
-    leans = [lattice.b for lattice in lattices]
-    return across, common_bottom(leans + [lattice.d for lattice in lattices] + [point.y for point in points])
+    across, upward = 1, 1
+    for layer in layers:
+        table, point = layer.lattice.table, layer.point
+        across, upward = lcm(across, table.across, point.x.bottom), lcm(upward, table.upward, point.y.bottom)
+    return across, upward
 
 
 def grid_of(layer, across, upward):
     """The grid of a layer: integers (x, y, a, b, d), its point and the table of its lattice so many times."""
-    point, lattice = layer.point, layer.lattice
-    lean, height = scaled(lattice.b, upward), scaled(lattice.d, upward)
-    return scaled(point.x, across), scaled(point.y, upward), scaled(lattice.a, across), lean, height
+    table, x, y = layer.lattice.table, layer.point.x, layer.point.y
+    many = upward // table.upward
+    left, low = x.top * (across // x.bottom), y.top * (upward // y.bottom)
+    return left, low, table.a * (across // table.across), table.b * many, table.d * many
 
 
 def layer_of(grid, across, upward):
     """The layer of a grid."""
     x, y, a, b, d = grid
-    lattice = Lattice([Point(Ratio(a, across), Ratio(b, upward)), Point(0, Ratio(d, upward))])
-    return Layer(Point(Ratio(x, across), Ratio(y, upward)), lattice)
+    many = x // a
+    point = Point(Ratio(x - many * a, across), Ratio((y - many * b) % d, upward))
+    return Layer(point, Lattice(Table(a, b, d, across, upward)))
 
 
-def common_columns(one, other):
-    """The columns that two grids have in common, or None.
-
-    Told are the x of one column, how far apart they are, and for each grid a height in this column
-    and how much higher one is in the next one.
-    """
-    x, y, a, b, _ = one
-    left, low, width, lean, _ = other
-    common, s, _ = bezout(a, width)
-    if (left - x) % common != 0:
-        return None
-    i = (left - x) // common * s % (width // common)
-    first = x + i * a
-    j = (first - left) // width
-    heights = (y + i * b, width // common * b), (low + j * lean, a // common * lean)
-    return first, width // common * a, heights[0], heights[1]
+def grids_meet(one, other):
+    """True if two grids have a common point."""
+    x, y, a, b, d = one
+    left, low, width, lean, height = other
+    left, low, part = left - x, low - y, gcd(d, height)
+    # The sum of both lattices has this cell. The difference of the points is in it exactly if it
+    # makes areas with all rows that are multiples of the cell.
+    cell = gcd(a * part, width * part, a * lean - width * b)
+    return left * part % cell == 0 and (a * low - b * left) % cell == 0 and (width * low - lean * left) % cell == 0
 
 
 def meet(one, other):
     """True if two layers have a common point."""
     across, upward = scales_of([one, other])
-    first, second = grid_of(one, across, upward), grid_of(other, across, upward)
-    columns = common_columns(first, second)
-    if columns is None:
-        return False
-    (height, lean), (other_height, other_lean) = columns[2:]
-    return (other_height - height) % gcd(gcd(first[4], second[4]), other_lean - lean) == 0
+    return grids_meet(grid_of(one, across, upward), grid_of(other, across, upward))
 
 
 def common_grid(one, other):
     """The grid of all points that two grids have in common, or None."""
-    columns = common_columns(one, other)
-    if columns is None:
+    x, y, a, b, d = one
+    left, low, width, lean, height = other
+    part, s, _ = bezout(a, width)
+    if (left - x) % part != 0:
         return None
-    x, a, (first, first_lean), (second, second_lean) = columns
+    # In their first common column both have heights, which rise by so much up to the next one.
+    many = (left - x) // part * s % (width // part)
+    x = x + many * a
+    first, second = y + many * b, low + (x - left) // width * lean
+    rise, climb = width // part * b, a // part * lean
     # In every column the heights of both are progressions, which meet where they agree
     # modulo what their distances have in common.
-    common, s, _ = bezout(one[4], other[4])
-    part, t, _ = bezout(second_lean - first_lean, common)
-    if (first - second) % part != 0:
+    common, s, _ = bezout(d, height)
+    common_rise, t, _ = bezout(climb - rise, common)
+    if (first - second) % common_rise != 0:
         return None
-    step = common // part
-    many = (first - second) // part * t % step
-    first, second = first + many * first_lean, second + many * second_lean
-    apart = other[4] // common
-    y = first + one[4] * ((second - first) // common * s % apart)
-    rise = step * (second_lean - first_lean) // common * s % apart
-    d = one[4] * apart
-    return x + many * a, y, a * step, (step * first_lean + one[4] * rise) % d, d
+    step, apart = common // common_rise, height // common
+    many = (first - second) // common_rise * t % step
+    first, second = first + many * rise, second + many * climb
+    y = first + d * ((second - first) // common * s % apart)
+    lean = step * rise + d * (step * (climb - rise) // common * s % apart)
+    return x + many * (width // part * a), y, width // part * a * step, lean % (d * apart), d * apart
 
 
 class Layer:
@@ -101,7 +90,8 @@ class Layer:
     @property
     def thickness(self):
         """The number of points on each unit of area."""
-        return Ratio(1).over(self.lattice.cell)
+        table = self.lattice.table
+        return Ratio(table.across * table.upward, table.a * table.d)
 
     def shifted(self, point):
         """The layer moved by a point."""
@@ -112,7 +102,12 @@ class Layer:
         return Layer(motion(self.point), self.lattice.moved(motion))
 
     def __contains__(self, point):
-        return point - self.point in self.lattice
+        one, other = point.x, self.point.x
+        left = one.top * other.bottom - other.top * one.bottom
+        across = one.bottom * other.bottom
+        one, other = point.y, self.point.y
+        low = one.top * other.bottom - other.top * one.bottom
+        return is_member(self.lattice.table, left, across, low, one.bottom * other.bottom)
 
     def __eq__(self, other):
         return isinstance(other, Layer) and self.point == other.point and self.lattice == other.lattice

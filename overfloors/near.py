@@ -6,7 +6,7 @@ from overfloors.bases import figures_by, least_pair, shape_by, steps_around
 from overfloors.errors import BadNumber, BadPoint, TooMany
 from overfloors.order import ranked
 from overfloors.points import Point, ascending_points
-from overfloors.ratios import is_int, is_number, ratio_of
+from overfloors.ratios import is_int, is_number, order_keys, ratio_of
 
 GREATEST_MOST = 2000
 
@@ -95,8 +95,11 @@ def within(ground, layer, point, far, *, most=200):
     x, y = figures_by(u, v, point - layer.point)
     rows = rows_within(shape_by(ground, u, v), x, y, ratio_of(far), most)
     found = [layer.point + u * i + v * j for j, first, last in rows for i in range(first, last + 1)]
-    order = ranked([(ground.measure(place - point), place.x, place.y) for place in found])
-    return [found[at] for at in order]
+    if len(found) < 2:
+        return found
+    columns = [[ground.measure(place - point) for place in found], [place.x for place in found], [place.y for place in found]]
+    keys = [order_keys(column) for column in columns]
+    return [found[at] for at in ranked(list(zip(keys[0], keys[1], keys[2])))]
 
 
 def differences(one, other):

@@ -1,32 +1,33 @@
-"""The order of keys: lists or tuples of numbers, of which the first unlike ones decide."""
+"""The order of rows of integers, of which the first unlike ones decide."""
+
+FEW = 8
 
 
-def comes_before(one, other):
-    """True if the key one stands before the key other, False also where they are equal."""
-    for first, second in zip(one, other):
-        if first != second:
-            return first < second
-    return False
+def row_keys(rows):
+    """An integer for each of some rows of integers, all of one length, in the order of the rows."""
+    keys = [row[0] for row in rows]
+    for at in range(1, len(rows[0])):
+        span = 2 * max([int(abs(row[at])) for row in rows]) + 1
+        keys = [key * span + row[at] for key, row in zip(keys, rows)]
+    return keys
 
 
-def merged(left, right, keys):
-    """Two rows of indexes, each in the order of its keys, as one row."""
-    found = []
-    at = 0
-    for index in right:
-        while at < len(left) and not comes_before(keys[index], keys[left[at]]):
-            found.append(left[at])
-            at += 1
-        found.append(index)
-    return found + left[at:]
+def inserted(rows):
+    """The indexes of a few tuples in ascending order, put in one by one."""
+    order = []
+    for index, row in enumerate(rows):
+        at = index
+        while at > 0 and row < rows[order[at - 1]]:
+            at = at - 1
+        order.insert(at, index)
+    return order
 
 
-def ranked(keys):
-    """The indexes of the keys in ascending order of the keys, of equal ones the first one first."""
-    if len(keys) == 0:
-        return []
-    rows = [[index] for index in range(len(keys))]
-    while len(rows) > 1:
-        joined = [merged(rows[at], rows[at + 1], keys) for at in range(0, len(rows) - 1, 2)]
-        rows = joined + rows[len(joined) * 2:]
-    return rows[0]
+def ranked(rows):
+    """The indexes of tuples of integers, all of one length, in ascending order, of equal ones the first one first."""
+    if len(rows) <= FEW:
+        return inserted(rows)
+    places = {}
+    for index, key in enumerate(row_keys(rows)):
+        places.setdefault(key, []).append(index)
+    return [index for key in sorted([int(key) for key in places]) for index in places[key]]

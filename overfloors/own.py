@@ -4,8 +4,7 @@ from overfloors.keys import Frames, in_both, moves
 from overfloors.lattices import Lattice
 from overfloors.layers import Layer
 from overfloors.motions import STILL, Motion, undone
-from overfloors.order import ranked
-from overfloors.points import carried
+from overfloors.points import carried, ranked_points
 from overfloors.tiles import key_of
 
 
@@ -45,7 +44,7 @@ def centres(ground, tile):
                 points[key] = point
                 orders[key] = orders.get(key, 1) + 1
     found = [(points[key], orders[key]) for key in points]
-    return [found[at] for at in ranked([(point.x, point.y) for point, _ in found])]
+    return [found[at] for at in ranked_points([point for point, _ in found])]
 
 
 def common_motions(ground, one, other):

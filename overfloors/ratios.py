@@ -32,11 +32,18 @@ def ratio_of(number):
 
 def floor_quotient(one, other):
     """The floor of the exact quotient of two numbers."""
-    if not other:
+    first, second = ratio_of(one), ratio_of(other)
+    if second.top == 0:
         raise BadNumber(other)
-    first = ratio_of(one)
-    second = ratio_of(other)
     return (first.top * second.bottom) // (first.bottom * second.top)
+
+
+def remainder_of(one, other):
+    """What is left of a number less the multiple of another one by the floor of their quotient."""
+    first, second = ratio_of(one), ratio_of(other)
+    if second.top == 0:
+        raise BadNumber(other)
+    return Ratio((first.top * second.bottom) % (first.bottom * second.top), first.bottom * second.bottom)
 
 
 def power_of(base, number, unit):
@@ -54,27 +61,40 @@ def power_of(base, number, unit):
     return found
 
 
+def with_bottom_above(top, bottom):
+    """The top and the bottom of a fraction, told so that the bottom is above 0."""
+    if not is_int(top):
+        raise BadNumber(top)
+    if not is_int(bottom):
+        raise BadNumber(bottom)
+    if bottom == 0:
+        raise BadNumber(0)
+    return (-top, -bottom) if bottom < 0 else (top, bottom)
+
+
 class Ratio:
-    """A fraction in lowest terms with a bottom above 0."""
+    """A fraction in lowest terms with a bottom above 0.
+
+    Most of the time that the package takes is spent here, so the methods ask for Ratios first, and
+    for other numbers only where there is none.
+    """
 
     def __init__(self, top, bottom=1):
-        if not is_int(top):
-            raise BadNumber(top)
-        if not is_int(bottom):
-            raise BadNumber(bottom)
-        if bottom == 0:
-            raise BadNumber(0)
-        common = gcd(top, bottom)
-        if bottom < 0:
-            common = -common
-        self.top = top // common
-        self.bottom = bottom // common
+        if type(top) is not int or type(bottom) is not int or bottom < 1:
+            top, bottom = with_bottom_above(top, bottom)
+        if bottom > 1:
+            common = gcd(top, bottom)
+            if common > 1:
+                top = top // common
+                bottom = bottom // common
+        self.top = top
+        self.bottom = bottom
 
     def over(self, number):
         """The exact quotient by a number."""
-        if not is_number(number) or not number:
-            raise BadNumber(number)
         divisor = ratio_of(number)
+        if divisor.top == 0:
+            raise BadNumber(number)
         return Ratio(self.top * divisor.bottom, self.bottom * divisor.top)
 
     def floor(self):
@@ -115,60 +135,68 @@ class Ratio:
         return is_int(other) and self.bottom == 1 and self.top == other
 
     def __lt__(self, other):
-        if not is_number(other):
-            return NotImplemented
-        bound = ratio_of(other)
-        return self.top * bound.bottom < bound.top * self.bottom
+        if isinstance(other, Ratio):
+            return self.top * other.bottom < other.top * self.bottom
+        if is_int(other):
+            return self.top < other * self.bottom
+        return NotImplemented
 
     def __le__(self, other):
-        if not is_number(other):
-            return NotImplemented
-        bound = ratio_of(other)
-        return self.top * bound.bottom <= bound.top * self.bottom
+        if isinstance(other, Ratio):
+            return self.top * other.bottom <= other.top * self.bottom
+        if is_int(other):
+            return self.top <= other * self.bottom
+        return NotImplemented
 
     def __gt__(self, other):
-        if not is_number(other):
-            return NotImplemented
-        bound = ratio_of(other)
-        return self.top * bound.bottom > bound.top * self.bottom
+        if isinstance(other, Ratio):
+            return self.top * other.bottom > other.top * self.bottom
+        if is_int(other):
+            return self.top > other * self.bottom
+        return NotImplemented
 
     def __ge__(self, other):
-        if not is_number(other):
-            return NotImplemented
-        bound = ratio_of(other)
-        return self.top * bound.bottom >= bound.top * self.bottom
+        if isinstance(other, Ratio):
+            return self.top * other.bottom >= other.top * self.bottom
+        if is_int(other):
+            return self.top >= other * self.bottom
+        return NotImplemented
 
     def __add__(self, other):
-        if not is_number(other):
-            return NotImplemented
-        added = ratio_of(other)
-        return Ratio(self.top * added.bottom + added.top * self.bottom, self.bottom * added.bottom)
+        if isinstance(other, Ratio):
+            return Ratio(self.top * other.bottom + other.top * self.bottom, self.bottom * other.bottom)
+        if is_int(other):
+            return Ratio(self.top + other * self.bottom, self.bottom)
+        return NotImplemented
 
     def __radd__(self, other):
-        if not is_number(other):
-            return NotImplemented
-        return self + other
+        if is_int(other):
+            return Ratio(self.top + other * self.bottom, self.bottom)
+        return NotImplemented
 
     def __sub__(self, other):
-        if not is_number(other):
-            return NotImplemented
-        return self + -other
+        if isinstance(other, Ratio):
+            return Ratio(self.top * other.bottom - other.top * self.bottom, self.bottom * other.bottom)
+        if is_int(other):
+            return Ratio(self.top - other * self.bottom, self.bottom)
+        return NotImplemented
 
     def __rsub__(self, other):
-        if not is_number(other):
-            return NotImplemented
-        return -self + other
+        if is_int(other):
+            return Ratio(other * self.bottom - self.top, self.bottom)
+        return NotImplemented
 
     def __mul__(self, other):
-        if not is_number(other):
-            return NotImplemented
-        factor = ratio_of(other)
-        return Ratio(self.top * factor.top, self.bottom * factor.bottom)
+        if isinstance(other, Ratio):
+            return Ratio(self.top * other.top, self.bottom * other.bottom)
+        if is_int(other):
+            return Ratio(self.top * other, self.bottom)
+        return NotImplemented
 
     def __rmul__(self, other):
-        if not is_number(other):
-            return NotImplemented
-        return self * other
+        if is_int(other):
+            return Ratio(self.top * other, self.bottom)
+        return NotImplemented
 
     def __floordiv__(self, other):
         if not is_number(other):
@@ -183,12 +211,12 @@ class Ratio:
     def __mod__(self, other):
         if not is_number(other):
             return NotImplemented
-        return self - other * floor_quotient(self, other)
+        return remainder_of(self, other)
 
     def __rmod__(self, other):
         if not is_number(other):
             return NotImplemented
-        return other - self * floor_quotient(other, self)
+        return remainder_of(other, self)
 
     def __pow__(self, other):
         if not is_int(other) or other < 0:
@@ -227,10 +255,19 @@ def bezout(first, second):
     return upper, s, t
 
 
+def order_keys(ratios):
+    """Integers in the order of some Ratios, at least one: equal ones for equal Ratios."""
+    # Unlike Ratios are farther apart than 1 over the product of two such powers of two as these.
+    bits = 2 * max([int(ratio.bottom.bit_length()) for ratio in ratios])
+    return [(ratio.top << bits) // ratio.bottom for ratio in ratios]
+
+
 def ascending(numbers):
     """The numbers as Ratios, the least one first."""
     ratios = [ratio_of(number) for number in numbers]
-    return [ratios[index] for index in ranked([(ratio,) for ratio in ratios])]
+    if len(ratios) < 2:
+        return ratios
+    return [ratios[index] for index in ranked([(key,) for key in order_keys(ratios)])]
 
 
 def least(numbers):

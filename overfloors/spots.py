@@ -1,8 +1,8 @@
 """Spots: what of a floor is seen around the points of a layer, and how often."""
 
 from overfloors.errors import TooMany
-from overfloors.layers import Layer, grid_of, scaled, scales_of
-from overfloors.order import ranked
+from overfloors.layers import Layer, grid_of, scales_of
+from overfloors.points import ranked_points
 from overfloors.tiles import key_of
 from overfloors.windows import Window, count_layer, floor_sum, places_in
 
@@ -23,7 +23,7 @@ def marks_in(floor, window):
     if sum([count_layer(layer, window) for _, layer in floor.laid]) > MOST:
         raise TooMany(MOST)
     found = [(letter, point) for letter, layer in floor.laid for point in places_in(layer, window)]
-    return [found[index] for index in ranked([(point.x, point.y) for _, point in found])]
+    return [found[index] for index in ranked_points([point for _, point in found])]
 
 
 def spans_of(figures, low, high, scale, end):
@@ -92,7 +92,7 @@ def spots(layer, floor, window):
     # count that lead to one another by steps of the layer and of the floor, in one oblong.
     joint = Layer(layer.point, layer.lattice + common)
     scales = scales_of([joint])
-    ends = scaled(common.a, scales[0]), scaled(common.d, scales[1])
+    ends = common.a.top * (scales[0] // common.a.bottom), common.d.top * (scales[1] // common.d.bottom)
     across = spans_of([point.x for _, point in marks], window.left, window.right, scales[0], ends[0])
     upward = spans_of([point.y for _, point in marks], window.low, window.high, scales[1], ends[1])
     counts = counts_of(grid_of(joint, scales[0], scales[1]), across, upward, ends)

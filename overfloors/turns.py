@@ -6,7 +6,7 @@ from overfloors.errors import BadNumber, Flat, TooMany
 from overfloors.motions import Motion
 from overfloors.order import ranked
 from overfloors.points import Point, carried
-from overfloors.ratios import Ratio, divisors_of, is_count
+from overfloors.ratios import Ratio, divisors_of, is_count, order_keys
 
 MOST_INDEX = 10000
 MOST_LISTED = 200
@@ -133,11 +133,6 @@ def directions_of(form, index):
     return found
 
 
-def turning_key(x, y):
-    """Ascends as a line turns from (1, 0) towards (0, 1) and on to (-1, 0)."""
-    return (0, 0) if y == 0 else (1, Ratio(-x, y))
-
-
 def turns_of(ground, index, *, most=500):
     """The directions of all turns with an index in the whole floor, in the order in which a turning line meets them."""
     if not is_count(index) or index > MOST_INDEX:
@@ -145,7 +140,10 @@ def turns_of(ground, index, *, most=500):
     found = directions_of(plain_form(ground), index)
     if len(found) > most:
         raise TooMany(most)
-    order = ranked([turning_key(x, y) for x, y in found])
+    if len(found) == 0:
+        return []
+    keys = order_keys([Ratio(-x, y if y > 0 else 1) for x, y in found])
+    order = ranked([(0 if y == 0 else 1, key) for (x, y), key in zip(found, keys)])
     return [Point(found[at][0], found[at][1]) for at in order]
 
 
