@@ -97,9 +97,9 @@ def within(ground, layer, point, far, *, most=200):
     found = [layer.point + u * i + v * j for j, first, last in rows for i in range(first, last + 1)]
     if len(found) < 2:
         return found
-    columns = [[ground.measure(place - point) for place in found], [place.x for place in found], [place.y for place in found]]
-    keys = [order_keys(column) for column in columns]
-    return [found[at] for at in ranked(list(zip(keys[0], keys[1], keys[2])))]
+    measures = order_keys([ground.measure(place - point) for place in found])
+    across, upward = order_keys([place.x for place in found]), order_keys([place.y for place in found])
+    return [found[at] for at in ranked(list(zip(measures, across, upward)))]
 
 
 def differences(one, other):
