@@ -33,21 +33,23 @@ def layer_of(grid, across, upward):
     return Layer(point, Lattice(Table(a, b, d, across, upward)))
 
 
-def grids_meet(one, other):
-    """True if two grids have a common point."""
+def joint_cell(one, other):
+    """The cell of the sum of the lattices of two grids, None if the grids have no common point."""
     x, y, a, b, d = one
     left, low, width, lean, height = other
     left, low, part = left - x, low - y, gcd(d, height)
-    # The sum of both lattices has this cell. The difference of the points is in it exactly if it
-    # makes areas with all rows that are multiples of the cell.
     cell = gcd(a * part, width * part, a * lean - width * b)
-    return left * part % cell == 0 and (a * low - b * left) % cell == 0 and (width * low - lean * left) % cell == 0
+    # The difference of the points is in the sum exactly if it makes areas with all rows that are
+    # multiples of the cell.
+    if left * part % cell != 0 or (a * low - b * left) % cell != 0 or (width * low - lean * left) % cell != 0:
+        return None
+    return cell
 
 
 def meet(one, other):
     """True if two layers have a common point."""
     across, upward = scales_of([one, other])
-    return grids_meet(grid_of(one, across, upward), grid_of(other, across, upward))
+    return joint_cell(grid_of(one, across, upward), grid_of(other, across, upward)) is not None
 
 
 def common_grid(one, other):

@@ -1,10 +1,11 @@
 """Many layers: what they have in common, or the bar that keeps them apart."""
 
-from math import gcd, lcm
+from math import lcm
 
 from overfloors.errors import Apart, NoSuch, TooMany
-from overfloors.layers import meet
+from overfloors.lattices import Lattice, Table, common_rows, joint_rows, rows_by
 from overfloors.lines import split
+from overfloors.meshes import barred_threes, meshes_of, pair_cells
 from overfloors.points import Form, Point, value_at
 from overfloors.ratios import Ratio, bezout, is_int, lcm_of, ratio_of
 
@@ -59,52 +60,20 @@ def choices(many, size):
     return found
 
 
-def pairs_of(layers):
-    """A dict from the twos of indexes of layers, the first one below the second one, to their common layer or None."""
-    return {(first, second): layers[first] & layers[second] for first, second in choices(len(layers), 2)}
-
-
-def apart(layers, pairs):
-    """The twos, and the threes of which the first two meet, of indexes of layers without a common point."""
-    found = []
-    for first, second in choices(len(layers), 2):
-        common = pairs[first, second]
-        if common is None:
-            found.append([first, second])
-            continue
-        thirds = [third for third in range(second + 1, len(layers)) if not meet(common, layers[third])]
-        found.extend([[first, second, third] for third in thirds])
-    return found
-
-
 def mask_of(numbers):
     """An integer that tells a choice of indexes by its bits."""
     return sum([1 << number for number in numbers])
 
 
-def common_cells(layers):
-    """The cells of what the layers of each mask have in common, None for nothing and for the mask 0.
-
-    The dual of a common part is the sum of the duals, and its cell is told by areas of two points,
-    each of one dual. So the cell of a common part is the least common multiple of those of all twos.
-    """
-    pairs = pairs_of(layers)
-    barred = {mask_of(numbers): True for numbers in apart(layers, pairs)}
-    cells = [None for _ in range(1 << len(layers))]
-    for index, layer in enumerate(layers):
-        cells[1 << index] = layer.lattice.cell
-    twos = {mask_of(numbers): pairs[numbers] for numbers in pairs}
-    for mask in twos:
-        cells[mask] = None if twos[mask] is None else twos[mask].lattice.cell
-    bits = [1 << index for index in range(len(layers))]
-    for mask in range(1, 1 << len(layers)):
-        low, high = mask & -mask, 1 << (mask.bit_length() - 1)
-        if low + high >= mask or mask in barred or any([cells[mask ^ bit] is None for bit in bits if mask & bit]):
-            continue
-        parts = (cells[mask ^ low], cells[mask ^ high], cells[low | high])
-        top = lcm(parts[0].top, parts[1].top, parts[2].top)
-        cells[mask] = Ratio(top, gcd(parts[0].bottom, parts[1].bottom, parts[2].bottom))
-    return cells
+def barred_choices(layers):
+    """The twos, then the threes of which each two meet, of indexes of layers without a common point, each in order."""
+    meshes = meshes_of(layers)
+    pairs = pair_cells(meshes)
+    twos = [numbers for numbers in choices(len(layers), 2) if mask_of(numbers) not in pairs]
+    threes = barred_threes(meshes, pairs)
+    if len(threes) == 0:
+        return twos
+    return twos + [numbers for numbers in choices(len(layers), 3) if mask_of(numbers) in threes]
 
 
 def forms_of(barred):
@@ -122,14 +91,12 @@ def forms_of(barred):
 
 def first_bar(layers):
     """A bar of the first two layers without a common point, else of the first three, else None."""
-    found = apart(layers, pairs_of(layers))
+    found = barred_choices(layers)
     if len(found) == 0:
         return None
-    twos = [told for told in found if len(told) == 2]
-    numbers = (twos + found)[0]
-    barred = [layers[number] for number in numbers]
+    barred = [layers[number] for number in found[0]]
     forms = forms_of(barred)
-    return Bar(numbers, forms, value_of(forms, barred))
+    return Bar(found[0], forms, value_of(forms, barred))
 
 
 def gather(layers):
@@ -178,27 +145,37 @@ def bars(bar, layers):
 def fullest(layers):
     """The longest choice of layers with a common point, of several the first one, and their common layer."""
     check_many(layers)
-    barred = apart(layers, pairs_of(layers))
+    barred = [mask_of(numbers) for numbers in barred_choices(layers)]
     for size in range(len(layers), 0, -1):
         for chosen in choices(len(layers), size):
-            if not any([all([number in chosen for number in numbers]) for numbers in barred]):
+            mask = mask_of(chosen)
+            if not any([mask & told == told for told in barred]):
                 return chosen, gather([layers[number] for number in chosen])
 
 
 def woven(one, two, three):
     """The lattices that come from three by repeated common parts and sums, each once."""
-    pairs = ((one, two, three), (two, three, one), (three, one, two))
-    commons = [first & second for first, second, third in pairs]
-    joints = [first + second for first, second, third in pairs]
-    low = [commons[0] + commons[1], commons[1] + commons[2], commons[2] + commons[0]]
-    high = [joints[0] & joints[1], joints[1] & joints[2], joints[2] & joints[0]]
-    inner = [third & joint for (first, second, third), joint in zip(pairs, joints)]
-    outer = [third + common for (first, second, third), common in zip(pairs, commons)]
-    lowest, highest = low[0] + commons[2], high[0] & joints[2]
-    between = [narrow + common for narrow, common in zip(inner, commons)]
-    ends = [commons[0] & three, joints[0] + three, lowest, highest]
+    tables = [lattice.table for lattice in (one, two, three)]
+    across = lcm(tables[0].across, tables[1].across, tables[2].across)
+    upward = lcm(tables[0].upward, tables[1].upward, tables[2].upward)
+    rows = [rows_by(table, across, upward) for table in tables]
     found = []
-    for lattice in [one, two, three, *commons, *joints, *low, *high, *inner, *outer, *between, *ends]:
-        if lattice not in found:
-            found.append(lattice)
-    return found
+    for told in woven_rows(rows):
+        if told not in found:
+            found.append(told)
+    return [Lattice(Table(a, b, d, across, upward)) for a, b, d in found]
+
+
+def woven_rows(rows):
+    """The same for lattices that are told by rows (a, b, d), some of them more than once."""
+    triples = [(0, 1, 2), (1, 2, 0), (2, 0, 1)]
+    commons = [common_rows(rows[first], rows[second]) for first, second, _ in triples]
+    joints = [joint_rows(rows[first], rows[second]) for first, second, _ in triples]
+    low = [joint_rows(commons[first], commons[second]) for first, second, _ in triples]
+    high = [common_rows(joints[first], joints[second]) for first, second, _ in triples]
+    inner = [common_rows(rows[third], joint) for (_, _, third), joint in zip(triples, joints)]
+    outer = [joint_rows(rows[third], common) for (_, _, third), common in zip(triples, commons)]
+    between = [joint_rows(narrow, common) for narrow, common in zip(inner, commons)]
+    ends = [common_rows(commons[0], rows[2]), joint_rows(joints[0], rows[2])]
+    ends = [*ends, joint_rows(low[0], commons[2]), common_rows(high[0], joints[2])]
+    return [*rows, *commons, *joints, *low, *high, *inner, *outer, *between, *ends]

@@ -8,7 +8,8 @@ from math import gcd, lcm
 
 from overfloors.covers import first_uncovered
 from overfloors.errors import TooMany
-from overfloors.many import choices, common_cells, gather, mask_of
+from overfloors.many import choices, gather, mask_of
+from overfloors.meshes import common_cells, drops_of, meshes_of
 from overfloors.ratios import Ratio
 
 MOST = 6
@@ -49,7 +50,7 @@ def without_bit(table, index):
 def plays_part(table, index):
     """True if a layer makes a difference to whether some pattern belongs."""
     bit = 1 << index
-    return any([item != table[mask | bit] for mask, item in enumerate(table) if mask & bit == 0])
+    return any([table[at:at + bit] != table[at + bit:at + 2 * bit] for at in range(0, len(table), 2 * bit)])
 
 
 def needed(layers, table):
@@ -77,63 +78,117 @@ def places_by(layers, table):
 def alone(amounts):
     """For each mask the amount of its points that no more layers hold, from the amounts of all its points."""
     left = list(amounts)
-    bit = 1
-    while bit < len(left):
-        for mask in range(len(left)):
-            if mask & bit == 0:
-                left[mask] = left[mask] - left[mask | bit]
-        bit = bit * 2
+    for _ in range(len(left).bit_length() - 1):
+        # Takes what has the lowest bit from what lacks it, and makes this bit the highest one.
+        left = [one - other for one, other in zip(left[::2], left[1::2])] + left[1::2]
     return left
-
-
-def weights_of(layers):
-    """An integer for each mask, how thick the points of just this pattern lie, and the unit of these integers."""
-    cells = common_cells(layers)
-    told = [cell for cell in cells[1:] if cell is not None]
-    top, bottom = 1, 0
-    for cell in told:
-        top, bottom = lcm(top, cell.top), gcd(bottom, cell.bottom)
-    weights = [0] + [0 if cell is None else top // cell.top * (cell.bottom // bottom) for cell in cells[1:]]
-    return alone(weights), Ratio(bottom, top)
-
-
-def has_points(layers, table):
-    """True if some pattern that belongs to a set has a point."""
-    left, rest = needed(layers, table)
-    weights, _ = weights_of(left)
-    return any([weight > 0 and belongs for weight, belongs in zip(weights, rest)])
 
 
 def signs_of(table):
     """An integer for each mask: a point belongs if those of all masks that hold it add up to 1, otherwise to 0."""
     signs = [1 if belongs else 0 for belongs in table]
-    bit = 1
-    while bit < len(signs):
-        for mask in range(len(signs)):
-            if mask & bit:
-                signs[mask] = signs[mask] - signs[mask ^ bit]
-        bit = bit * 2
+    for _ in range(len(signs).bit_length() - 1):
+        # Takes what lacks the lowest bit from what has it, and makes this bit the highest one.
+        signs = signs[::2] + [other - one for one, other in zip(signs[::2], signs[1::2])]
     return signs
 
 
-def common_layers(layers):
-    """What the layers of each mask have in common, None for nothing and for the mask 0."""
-    found = [None]
-    for layer in layers:
-        more = [layer]
-        for common in found[1:]:
-            more.append(None if common is None else common & layer)
-        found = found + more
+def unit_of(cells):
+    """Two integers: the thickness of each of some cells is a multiple of the second one over the first one."""
+    top, bottom = 1, 0
+    for one, other in cells:
+        top, bottom = lcm(top, one), gcd(bottom, other)
+    return top, bottom
+
+
+def weights_of(layers):
+    """An integer for each mask, how thick the points of just this pattern lie, and the unit of these integers.
+
+    The third result tells for each mask the least one of the same common part, 0 if there is no common point.
+    """
+    cells, wider = common_cells(meshes_of(layers))
+    top, bottom = unit_of([cells[mask] for mask in cells])
+    amounts = {mask: top // cells[mask][0] * (cells[mask][1] // bottom) for mask in cells}
+    masks = [mask & ~drop for mask, drop in enumerate(drops_of(wider))]
+    weights = alone([amounts.get(mask, 0) for mask in masks])
+    return weights, Ratio(bottom, top), [mask if mask in cells else 0 for mask in masks]
+
+
+def signed_masks(places):
+    """Pairs of the masks whose layers have a common point and their signs, if patterns without points play no part.
+
+    Signs that are 0 are left out, and signs of the same common part are added up.
+    """
+    weights, _, masks = places.weights
+    signs = signs_of([belongs and weight > 0 for belongs, weight in zip(places.table, weights)])
+    found = {}
+    for mask, sign in zip(masks, signs):
+        if mask > 0 and sign != 0:
+            found[mask] = found.get(mask, 0) + sign
+    return [(mask, found[mask]) for mask in found if found[mask] != 0]
+
+
+def common_layer(layers, mask):
+    """What the layers of a mask have in common, where they have a common point."""
+    chosen = [layer for index, layer in enumerate(layers) if mask >> index & 1]
+    found = chosen[0]
+    for layer in chosen[1:]:
+        found = found & layer
     return found
 
 
 def terms_of(places):
-    """The terms of a set: those masks whose signs are not 0 when patterns without points play no part."""
-    present = places.present
-    signs = signs_of([mask in present for mask in range(len(places.table))])
-    layers = common_layers(places.layers)
-    masks = [mask for mask in range(1, len(signs)) if signs[mask] != 0 and layers[mask] is not None]
-    return [(mask, signs[mask], layers[mask]) for mask in masks]
+    """The terms of a set: its signed masks, with what their layers have in common."""
+    found = {}
+    for mask, _ in places.signed:
+        rest = mask & (mask - 1)
+        layer = places.layers[(mask ^ rest).bit_length() - 1]
+        if rest > 0:
+            layer = layer & (found[rest] if rest in found else common_layer(places.layers, rest))
+        found[mask] = layer
+    return [(mask, sign, found[mask]) for mask, sign in places.signed]
+
+
+def side_by_side(one, other):
+    """For each pattern of all layers of two sets that has points, whether it belongs to the one and to the other.
+
+    None is told if each set has layers that the other one lacks.
+    """
+    wide = one if len(one.layers) >= len(other.layers) else other
+    layers = joined(wide.layers, [*one.layers, *other.layers])
+    if len(layers) > len(wide.layers):
+        return None
+    first, second = table_over(one, layers), table_over(other, layers)
+    return [(held, beside) for weight, held, beside in zip(wide.weights[0], first, second) if weight > 0]
+
+
+def marked(places, layers, wider):
+    """Triples of the signed masks of a set, told over other layers, the bits of all wider layers, and the signs."""
+    bits = [bit_of(layer, layers) for layer in places.layers]
+    found = []
+    for mask, sign in places.signed:
+        chosen = [bit for index, bit in enumerate(bits) if mask >> index & 1]
+        drop = 0
+        for bit in chosen:
+            drop = drop | wider[bit.bit_length() - 1]
+        found.append((sum(chosen), drop, sign))
+    return found
+
+
+def shared(one, other):
+    """How thick the points lie that two sets have in common."""
+    layers = joined(one.layers, other.layers)
+    cells, wider = common_cells(meshes_of(layers))
+    seconds = marked(other, layers, wider)
+    many = {}
+    for mask, drop, sign in marked(one, layers, wider):
+        for beside, more, factor in seconds:
+            both = (mask | beside) & ~(drop | more)
+            if both in cells:
+                many[both] = many.get(both, 0) + sign * factor
+    top, bottom = unit_of([cells[mask] for mask in many])
+    amounts = [many[mask] * (top // cells[mask][0] * (cells[mask][1] // bottom)) for mask in many]
+    return Ratio(sum(amounts) * bottom, top)
 
 
 class Places:
@@ -146,11 +201,12 @@ class Places:
         self.layers = tuple(different)
         self.table = tuple([mask > 0 for mask in range(1 << len(different))])
         self._weights = None
+        self._signed = None
         self._terms = None
 
     @property
     def weights(self):
-        """How thick the points of each pattern lie, by integers, and their unit."""
+        """How thick the points of each pattern lie, by integers, their unit, and the masks with a common point."""
         if self._weights is None:
             self._weights = weights_of(self.layers)
         return self._weights
@@ -158,8 +214,15 @@ class Places:
     @property
     def present(self):
         """The masks of the patterns that belong to the set and have points."""
-        weights, _ = self.weights
+        weights, _, _ = self.weights
         return [mask for mask, belongs in enumerate(self.table) if belongs and weights[mask] > 0]
+
+    @property
+    def signed(self):
+        """Pairs of masks and signs: those of the masks whose layers hold a point tell whether it belongs."""
+        if self._signed is None:
+            self._signed = signed_masks(self)
+        return self._signed
 
     @property
     def terms(self):
@@ -170,14 +233,14 @@ class Places:
 
     def thick(self):
         """The number of points on each unit of area."""
-        weights, unit = self.weights
+        weights, unit, _ = self.weights
         return unit * sum([weights[mask] for mask in self.present])
 
     def patterns(self):
         """Pairs of the indexes of layers that hold a point and the thickness of such points, fewer layers first."""
         many = len(self.layers)
         present = self.present
-        weights, unit = self.weights
+        weights, unit, _ = self.weights
         found = [numbers for size in range(1, many + 1) for numbers in choices(many, size)]
         masks = {tuple(numbers): mask_of(numbers) for numbers in found}
         return [(numbers, unit * weights[masks[numbers]]) for numbers in masks if masks[numbers] in present]
@@ -197,9 +260,10 @@ class Places:
         # Any one point tells most sets apart, which a look at all patterns would do far later.
         if point is None or point not in other:
             return point is None
-        layers = joined(self.layers, other.layers)
-        first, second = table_over(self, layers), table_over(other, layers)
-        return not has_points(layers, [one and not another for one, another in zip(first, second)])
+        patterns = side_by_side(self, other)
+        if patterns is not None:
+            return not any([first and not second for first, second in patterns])
+        return shared(self, other) == self.thick()
 
     def shifted(self, point):
         """The set of the points moved by a point."""
@@ -216,11 +280,13 @@ class Places:
         return bool(len(self.present) > 0)
 
     def __eq__(self, other):
-        if not isinstance(other, Places) or self.thick() != other.thick():
+        if not isinstance(other, Places):
             return False
-        layers = joined(self.layers, other.layers)
-        first, second = table_over(self, layers), table_over(other, layers)
-        return not has_points(layers, [one != another for one, another in zip(first, second)])
+        patterns = side_by_side(self, other)
+        if patterns is not None:
+            return not any([first != second for first, second in patterns])
+        thick = self.thick()
+        return thick == other.thick() and shared(self, other) == thick
 
     def __or__(self, other):
         if not isinstance(other, Places):
