@@ -27,8 +27,9 @@ def figures_by(u, v, point):
 
 
 def steps_around(u, v):
-    """Six steps around (0, 0); for a least base u, v two neighbours always are a base at no obtuse angle."""
-    return [u, v, v - u, -u, -v, u - v]
+    """Six rows of steps around (0, 0); for a least base u, v two neighbours always are a base at no obtuse angle."""
+    half = [u, v, (v[0] - u[0], v[1] - u[1])]
+    return half + [(-x, -y) for x, y in half]
 
 
 class Base:
@@ -63,6 +64,11 @@ class Base:
         return self.ground == other.ground and self.u == other.u and self.v == other.v
 
 
+def area_of(one, other):
+    """The area of two rows of integers."""
+    return one[0] * other[1] - one[1] * other[0]
+
+
 def shortened(ground, one, other):
     """A least base (u, v) of the lattice of two rows of integers, and its shape, all by integers."""
     u, v = one, other
@@ -93,12 +99,6 @@ def least_rows(ground, lattice):
 def row_point(row, times):
     """The point that two integers tell for a lattice that is taken so many times."""
     return Point(Ratio(row[0], times), Ratio(row[1], times))
-
-
-def least_pair(ground, lattice):
-    """The points u, v of one least base."""
-    times, u, v, _ = least_rows(ground, lattice)
-    return row_point(u, times), row_point(v, times)
 
 
 def steps_for(shape):

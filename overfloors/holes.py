@@ -1,9 +1,10 @@
 """Holes: the points that are farthest from a lattice, and shifts that keep layers as far apart as can be."""
 
-from overfloors.bases import least_pair, shape_by
+from overfloors.bases import least_rows, row_point
 from overfloors.layers import Layer
 from overfloors.near import differences
 from overfloors.points import ranked_points
+from overfloors.ratios import Ratio
 
 
 def ordered(layers):
@@ -17,12 +18,13 @@ def ordered(layers):
 
 def holes(ground, lattice):
     """The greatest measure from a point to a lattice, and the layers of the points that have it."""
-    u, v = least_pair(ground, lattice)
-    p, q, r = shape_by(ground, u, v)
+    times, u, v, (p, q, r) = least_rows(ground, lattice)
     part = 4 * p * r - q * q
     # The point that has the same measure to (0, 0), u and v.
-    middle = u * (r * (2 * p - q)).over(part) + v * (p * (2 * r - q)).over(part)
-    return (p * r * (p + r - q)).over(part), ordered([Layer(middle, lattice), Layer(-middle, lattice)])
+    first, second = r * (2 * p - q), p * (2 * r - q)
+    middle = row_point((u[0] * first + v[0] * second, u[1] * first + v[1] * second), times * part)
+    measure = Ratio(p * r * (p + r - q), part * times * times)
+    return measure, ordered([Layer(middle, lattice), Layer(-middle, lattice)])
 
 
 def clearance(ground, one, other):

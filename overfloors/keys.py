@@ -5,23 +5,21 @@ marks are told by integers, as a text. Tiles are alike if they have one shape an
 motions that carry one to the other then take frames with the least text to such frames.
 """
 
-from overfloors.bases import all_least_rows, least_rows
-from overfloors.lattices import Lattice, common_bottom
+from math import gcd, lcm
+
+from overfloors.bases import all_least_rows, area_of, least_rows
+from overfloors.lattices import rest_by, rows_by, with_row
 from overfloors.layers import Layer
 from overfloors.motions import Motion
-from overfloors.points import Point, carried
+from overfloors.points import carried
 from overfloors.ratios import Ratio
 from overfloors.tiles import rarest
 
 
-def number_text(number):
-    """A text of a Ratio; digits up to f can be written however many they are."""
-    return f"{number.top:x}/{number.bottom:x}"
-
-
-def area_of(one, other):
-    """The area of two rows of integers."""
-    return one[0] * other[1] - one[1] * other[0]
+def number_text(top, bottom):
+    """A text of a fraction, its bottom above 0; digits up to f can be written however many they are."""
+    common = gcd(top, bottom)
+    return f"{top // common:x}/{bottom // common:x}"
 
 
 def least_for(u, v, shape, mirrors):
@@ -34,23 +32,33 @@ def least_for(u, v, shape, mirrors):
     return found if mirrors or len(left) == 0 else left
 
 
-def figures_along(times, u, v, point):
-    """The Ratios x and y with x u + y v = the point, for rows of integers of a lattice that is taken so many times."""
-    across, upward = point.x.bottom, point.y.bottom
-    row = point.x.top * upward * times, point.y.top * across * times
-    bottom = area_of(u, v) * across * upward
-    return Ratio(area_of(row, v), bottom), Ratio(area_of(u, row), bottom)
+def whole_points(points, many):
+    """Points as rows of integers, so many times as far."""
+    told = [(point.x, point.y) for point in points]
+    return [(x.top * (many // x.bottom), y.top * (many // y.bottom)) for x, y in told]
 
 
 def whole_figures(times, rows, marks, start):
-    """An integer, and how many of its parts each mark is from a start along the rows, by letters."""
+    """An integer, and how many of its parts each mark is from a start along the rows, by letters.
+
+    The rows are those of a base that is taken so many times.
+    """
     u, v = rows
-    figures = {letter: [figures_along(times, u, v, point - start) for point in marks[letter]] for letter in marks}
-    bottom = common_bottom([figure for letter in figures for pair in figures[letter] for figure in pair])
-    return bottom, {
-        letter: [(x.top * (bottom // x.bottom), y.top * (bottom // y.bottom)) for x, y in figures[letter]]
-        for letter in figures
-    }
+    many = times
+    for letter in marks:
+        for point in marks[letter]:
+            many = lcm(many, point.x.bottom, point.y.bottom)
+    left, low = whole_points([start], many)[0]
+    bottom = many // times * area_of(u, v)
+    common, figures = abs(bottom), {}
+    for letter in marks:
+        steps = [(x - left, y - low) for x, y in whole_points(marks[letter], many)]
+        figures[letter] = [(x * v[1] - y * v[0], u[0] * y - u[1] * x) for x, y in steps]
+        for x, y in figures[letter]:
+            common = gcd(common, x, y)
+    if bottom < 0:
+        common = -common
+    return bottom // common, {letter: [(x // common, y // common) for x, y in figures[letter]] for letter in figures}
 
 
 def changed(figures, steps, bottom):
@@ -98,7 +106,7 @@ class Frames:
     def key(self, stretch):
         """A text that tiles have in common exactly if they are alike, if asked for also by stretching."""
         part = self.shape[0] if stretch else self.times * self.times
-        shape = " ".join([number_text(Ratio(figure, part)) for figure in self.shape])
+        shape = " ".join([number_text(figure, part) for figure in self.shape])
         return f"{shape} {self.text}"
 
 
@@ -140,18 +148,25 @@ def table_text(frames, rows, others, seen):
     u, v = rows
     bottom = others.times * area_of(u, v)
     told = [area_of(seen[0], v), area_of(seen[1], v), area_of(u, seen[0]), area_of(u, seen[1])]
-    return " ".join([number_text(Ratio(frames.times * area, bottom)) for area in told])
+    times = frames.times if bottom > 0 else -frames.times
+    return " ".join([number_text(times * area, abs(bottom)) for area in told])
 
 
 def shift_text(frames, end, lattice, point):
     """The text of a point as it is seen from a frame, up to own steps of its tile and members of a lattice."""
     (u, v), start = end
-    seen = [Point(1, 0), Point(0, 1)]
-    for row in (*lattice.rows(), point - start):
-        x, y = figures_along(frames.times, u, v, row)
-        seen.append(Point(x, y))
-    rest = Lattice(seen[:4]).rest(seen[4])
-    return f"{number_text(rest.x)} {number_text(rest.y)}"
+    step = point - start
+    table, x, y = lattice.table, step.x, step.y
+    many = lcm(frames.times, table.across, table.upward, x.bottom, y.bottom)
+    a, b, d = rows_by(table, many, many)
+    w = x.top * (many // x.bottom), y.top * (many // y.bottom)
+    bottom = many // frames.times * area_of(u, v)
+    rows = (abs(bottom), 0, abs(bottom))
+    for row in ((a, b), (0, d)):
+        rows = with_row(rows, area_of(row, v), area_of(u, row))
+    side = 1 if bottom > 0 else -1
+    x, y = rest_by(rows, area_of(w, v) * side, area_of(u, w) * side)
+    return f"{number_text(x, abs(bottom))} {number_text(y, abs(bottom))}"
 
 
 def pair_key(ground, one, other, *, mirrors=True):

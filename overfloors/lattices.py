@@ -97,6 +97,13 @@ def common_rows(one, other):
     return width // part * a * many, (many * low + d * rise) % (d * apart), d * apart
 
 
+def rest_by(rows, x, y):
+    """The rest of a whole point modulo the lattice of some rows (a, b, d)."""
+    a, b, d = rows
+    many = x // a
+    return x - many * a, (y - many * b) % d
+
+
 def moved_table(table, motion_table):
     """The table of the lattice of the images of the rows of a table under the table of a motion."""
     (a, b), (c, d) = motion_table

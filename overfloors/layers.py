@@ -3,7 +3,7 @@
 from math import gcd, lcm
 
 from overfloors.errors import BadPoint
-from overfloors.lattices import Lattice, Table, is_member
+from overfloors.lattices import Lattice, Table, is_member, rest_by
 from overfloors.points import Point
 from overfloors.ratios import Ratio, bezout, is_number
 
@@ -28,9 +28,8 @@ def grid_of(layer, across, upward):
 def layer_of(grid, across, upward):
     """The layer of a grid."""
     x, y, a, b, d = grid
-    many = x // a
-    point = Point(Ratio(x - many * a, across), Ratio((y - many * b) % d, upward))
-    return Layer(point, Lattice(Table(a, b, d, across, upward)))
+    x, y = rest_by((a, b, d), x, y)
+    return Layer(Point(Ratio(x, across), Ratio(y, upward)), Lattice(Table(a, b, d, across, upward)))
 
 
 def joint_cell(one, other):

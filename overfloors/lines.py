@@ -1,9 +1,9 @@
 """Common lines of two lattices, and what they tell of both."""
 
-from math import gcd
+from math import gcd, lcm
 
-from overfloors.lattices import Lattice, common_bottom
-from overfloors.points import cross
+from overfloors.lattices import Lattice, rows_by
+from overfloors.points import Point, cross
 from overfloors.ratios import Ratio, bezout, ratio_of
 
 
@@ -42,26 +42,26 @@ def part_apart(number, other):
 
 def lines_of(one, other):
     """Common lines of two lattices."""
-    upper, lower = one.rows()
-    first, second = [one.steps(row) for row in other.rows()]
-    ratios = (first[0], first[1], second[1])
-    bottom = common_bottom(ratios)
-    across, lean, height = [ratio.top * (bottom // ratio.bottom) for ratio in ratios]
-    common = gcd(gcd(across, lean), height)
+    wide, high = lcm(one.table.across, other.table.across), lcm(one.table.upward, other.table.upward)
+    (a, b, d), (across, lean, height) = rows_by(one.table, wide, high), rows_by(other.table, wide, high)
+    # The steps of the second rows along the first ones, taken so many times as the area of these.
+    across, lean, height = across * d, lean * a - across * b, height * a
+    common = gcd(across, lean, height)
     across, lean, height = across // common, lean // common, height // common
     # The sum below has no common divisor with across, so that u is no multiple of
     # another member of the first lattice and a second point completes it.
     along = lean + part_apart(across, lean) * height
     _, s, t = bezout(across, along)
-    r = Ratio(common, bottom)
-    return Lines(upper * across + lower * along, lower * s - upper * t, r, r * across * height)
+    r = Ratio(common, a * d)
+    u = Point(Ratio(a * across, wide), Ratio(b * across + d * along, high))
+    return Lines(u, Point(Ratio(-a * t, wide), Ratio(d * s - b * t, high)), r, r * (across * height))
 
 
 def fits(lines, one, other):
     """True if these are common lines of two lattices in this order."""
     if not cross(lines.u, lines.v) or lines.r <= 0 or lines.s <= 0:
         return False
-    if not lines.s.over(lines.r).whole():
+    if lines.s.top * lines.r.bottom % (lines.s.bottom * lines.r.top) != 0:
         return False
     first, second = lines.lattices()
     return first == one and second == other
@@ -69,12 +69,12 @@ def fits(lines, one, other):
 
 def whole_parts(number, ratio):
     """Integers m, n with m + n * ratio = number, or None; the ratio is above 0."""
-    told = number * ratio.bottom
-    if not told.whole():
+    if ratio.bottom % number.bottom != 0:
         return None
+    told = number.top * (ratio.bottom // number.bottom)
     _, _, t = bezout(ratio.bottom, ratio.top)
-    many = told.top * t % ratio.bottom
-    return (told.top - many * ratio.top) // ratio.bottom, many
+    many = told * t % ratio.bottom
+    return (told - many * ratio.top) // ratio.bottom, many
 
 
 def split(point, one, other):

@@ -1,17 +1,14 @@
 """The turn with the least index among those whose directions lie in a sector."""
 
-from overfloors.bases import least_pair, steps_around
+from math import gcd
+
+from overfloors.bases import area_of, shortened, steps_around
 from overfloors.errors import Flat
 from overfloors.grounds import Ground
-from overfloors.lattices import Lattice
+from overfloors.lattices import common_rows
 from overfloors.points import Point, cross
-from overfloors.ratios import Ratio, divisors_of
-from overfloors.turns import extent, index_by, lifted, lowered, plain_form, whole_on
-
-
-def lies_between(point, one, other):
-    """True for a point strictly between two directions that are less than a half turn apart."""
-    return cross(one, point) > 0 and cross(point, other) > 0
+from overfloors.ratios import bezout, divisors_of
+from overfloors.turns import extent, index_by, lifted, lowered, plain_form, whole_on, without_divisor
 
 
 def simplest_between(one, other):
@@ -34,48 +31,52 @@ def simplest_between(one, other):
     return x, y
 
 
+def rows_where(first, second, number):
+    """The rows (a, b, d) of the lattice of the whole points (m, n) for which first * m + second * n is a multiple."""
+    common, s, _ = bezout(second, number)
+    a = common // gcd(first, common)
+    d = number // common
+    return a, -(first * a // common) * s % d, d
+
+
 def with_divisor(ground, number):
-    """The lattice of the lifted points whose common divisor g of [29] is a multiple of a number."""
-    double = 2 * ground.c
-    tests = [Point(Ratio(2, number), Ratio(ground.b, number)), Point(Ratio(ground.b, number), Ratio(double, number))]
-    # Both linear parts of g are multiples of the number where these two are whole.
-    lattice = Lattice([Point(1, 0), Point(0, 1), *tests]).dual()
-    first, second = lattice.rows()
-    # Here twice the measure is a multiple, too; whether the measure is one is told by
+    """Two whole points that make the lattice of the lifted points whose common divisor g of [29] is a multiple."""
+    # Both linear parts of g are multiples of the number here.
+    a, b, d = common_rows(rows_where(2, ground.b, number), rows_where(ground.b, 2 * ground.c, number))
+    # Now twice the measure is a multiple, too; whether the measure is one is told by
     # a figure that adds up modulo 2 with the points.
-    odd = [bool(ground.measure(row) % number) for row in (first, second)]
-    if odd[0] and odd[1]:
-        return Lattice([first + second, second * 2])
-    return Lattice([first * (2 if odd[0] else 1), second * (2 if odd[1] else 1)])
+    odd, high = ground.whole_measure(a, b) % number != 0, ground.whole_measure(0, d) % number != 0
+    if odd and high:
+        return (a, b + d), (0, 2 * d)
+    return (2 * a, 2 * b) if odd else (a, b), (0, 2 * d if high else d)
 
 
-def spokes_of(ground, lattice):
-    """The six steps around (0, 0) of a least base, from right to left."""
-    u, v = least_pair(ground, lattice)
-    return steps_around(u, v) if cross(u, v) > 0 else steps_around(v, u)
+def spokes_of(ground, one, other):
+    """The six steps around (0, 0) of a least base of the lattice of two whole points, from right to left."""
+    u, v, _ = shortened(ground, one, other)
+    return steps_around(u, v) if area_of(u, v) > 0 else steps_around(v, u)
 
 
-def shortest_between(ground, lattice, one, other):
-    """Some points of a lattice strictly between two directions, all shortest ones among them."""
-    spokes = spokes_of(ground, lattice)
-    between = [spoke for spoke in spokes if lies_between(spoke, one, other)]
+def shortest_between(ground, number, one, other):
+    """Some lifted points with a common divisor strictly between two directions, all shortest ones among them."""
+    first, second = with_divisor(ground, number)
+    spokes = spokes_of(ground, first, second)
+    between = [spoke for spoke in spokes if area_of(one, spoke) > 0 and area_of(spoke, other) > 0]
     if len(between) > 0:
         return between
     for right, left in zip(spokes, spokes[1:] + spokes[:1]):
-        figures = [(cross(point, left), cross(right, point)) for point in (one, other)]
+        figures = [(area_of(point, left), area_of(right, point)) for point in (one, other)]
         if all([x >= 0 and y >= 0 for x, y in figures]):
             # A sum x * right + y * left gets longer with x and with y.
-            first, second = [whole_on(Point(x, y)) for x, y in figures]
-            x, y = simplest_between(first, second)
-            between.append(right * x + left * y)
+            x, y = simplest_between(figures[0], figures[1])
+            between.append((right[0] * x + left[0] * y, right[1] * x + left[1] * y))
     return between
 
 
 def lifted_point(form, point):
-    """The lifted direction of a point, as a Point."""
+    """The lifted direction of a point."""
     x, y = whole_on(point)
-    m, n = lifted(form, x, y)
-    return Point(m, n)
+    return lifted(form, x, y)
 
 
 def least_turn(ground, one, other):
@@ -87,11 +88,10 @@ def least_turn(ground, one, other):
     lifts = Ground(1, form[1], form[0] * form[2])
     least, found = None, first
     for number in divisors_of(extent(form)):
-        for point in shortest_between(lifts, with_divisor(lifts, number), first, last):
-            m, n = whole_on(point)
+        for point in shortest_between(lifts, number, first, last):
+            m, n = without_divisor(point[0], point[1])
             index = index_by(form, m, n)
-            if least is None or index < least or (index == least and cross(point, found) > 0):
-                least, found = index, point
-    m, n = whole_on(found)
-    x, y = lowered(form, m, n)
+            if least is None or index < least or (index == least and area_of(point, found) > 0):
+                least, found = index, (m, n)
+    x, y = lowered(form, found[0], found[1])
     return least, Point(x, y)

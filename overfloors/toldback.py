@@ -3,9 +3,9 @@
 from math import gcd
 
 from overfloors.errors import BadNumber, NotWithin, TooFar, TooMany
-from overfloors.lattices import Lattice
+from overfloors.lattices import Lattice, Table
 from overfloors.lines import lines_of, part_apart
-from overfloors.ratios import Ratio, divisors_of, is_count
+from overfloors.ratios import divisors_of, is_count
 
 MOST = 1000
 FARTHEST = 1000000
@@ -34,23 +34,26 @@ def tables_of(number):
     return found
 
 
-def made_of(rows, tables):
-    """The lattices that tables tell when the rows stand for (1, 0) and (0, 1)."""
-    first, second = rows
-    return [Lattice([first * a + second * b, second * d]) for a, b, d in tables]
+def made_of(table, number, tables):
+    """The lattices that tables tell when (1, 0) and (0, 1) stand for the rows of a table over a number."""
+    across, upward = table.across * number, table.upward * number
+    found = []
+    for a, b, d in tables:
+        height = table.d * d
+        found.append(Lattice(Table(table.a * a, (table.b * a + table.d * b) % height, height, across, upward)))
+    return found
 
 
 def sublattices(lattice, number):
     """All lattices within a lattice in which they have the index number."""
     check_index(number)
-    return made_of(lattice.rows(), tables_of(number))
+    return made_of(lattice.table, 1, tables_of(number))
 
 
 def superlattices(lattice, number):
     """All lattices around a lattice that has the index number in them."""
     check_index(number)
-    part = lattice * Ratio(1, number)
-    return made_of(part.rows(), tables_of(number))
+    return made_of(lattice.table, number, tables_of(number))
 
 
 def lines_within(lattice, common):
@@ -85,8 +88,7 @@ def partners_by(common, lines, number):
         return []
     barred = members_apart(common, lines, number)
     tables = [table for table in tables_of(number) if not any([is_in(table, x, y) for x, y in barred])]
-    part = common * Ratio(1, number)
-    return made_of(part.rows(), tables)
+    return made_of(common.table, number, tables)
 
 
 def partners(lattice, common, number):

@@ -5,7 +5,7 @@ from math import gcd, isqrt
 from overfloors.errors import BadNumber, Flat, TooMany
 from overfloors.motions import Motion
 from overfloors.order import ranked
-from overfloors.points import Point, carried
+from overfloors.points import Point
 from overfloors.ratios import Ratio, divisors_of, is_count, order_keys
 
 MOST_INDEX = 10000
@@ -33,36 +33,45 @@ def told_by(point):
     return Point(x, y)
 
 
+def mirror_figures(ground, x, y):
+    """The measure of a whole point, and the table of the mirror in its direction taken so many times."""
+    first = 2 * ground.a * x + ground.b * y
+    second = ground.b * x + 2 * ground.c * y
+    # first * x + second * y is twice as much.
+    measure = ground.a * x * x + ground.b * x * y + ground.c * y * y
+    return measure, first * x - measure, second * x, first * y, second * y - measure
+
+
 def mirror(ground, point):
     """The mirror in the direction of a point."""
     x, y = whole_on(point)
-    first = 2 * ground.a * x + ground.b * y
-    second = ground.b * x + 2 * ground.c * y
-    # This is the measure of (x, y): first * x + second * y is twice as much.
-    measure = ground.a * x * x + ground.b * x * y + ground.c * y * y
-    above = [Ratio(first * x - measure, measure), Ratio(second * x, measure)]
-    below = [Ratio(first * y, measure), Ratio(second * y - measure, measure)]
-    return Motion([above, below])
+    measure, a, b, c, d = mirror_figures(ground, x, y)
+    return Motion([[Ratio(a, measure), Ratio(b, measure)], [Ratio(c, measure), Ratio(d, measure)]])
 
 
 def turn(ground, point):
     """The turn to the direction of a point: the mirror in the direction (1, 0), then that in the point's."""
-    return mirror(ground, point) * mirror(ground, Point(1, 0))
+    x, y = whole_on(point)
+    measure, a, b, c, d = mirror_figures(ground, x, y)
+    # The mirror in the direction (1, 0) keeps (1, 0) and takes (0, 1) to (lean / long, -1).
+    lean, long = ground.b, ground.a
+    above = [Ratio(a, measure), Ratio(a * lean - b * long, measure * long)]
+    return Motion([above, [Ratio(c, measure), Ratio(c * lean - d * long, measure * long)]])
 
 
 def direction(ground, motion):
     """The whole Point whose turn or mirror a motion is but for its shift, None if it keeps no lengths."""
     if motion.stretch(ground) != 1:
         return None
-    found = motion.straight()
-    if found.factor() == 1:
-        found = found * mirror(ground, Point(1, 0))
+    (a, b), (c, d) = motion.table
+    if motion.factor() == 1:
+        # The mirror in the direction (1, 0) comes first.
+        lean = Ratio(ground.b, ground.a)
+        b, d = a * lean - b, c * lean - d
     # In a mirror each point and its image add up to a point of the direction, which is
     # (0, 0) for the points straight across it.
-    both = Point(1, 0) + carried(Point(1, 0), found.table)
-    if not both:
-        both = Point(0, 1) + carried(Point(0, 1), found.table)
-    return told_by(both)
+    both = Point(a + 1, c)
+    return told_by(both if both else Point(b, d + 1))
 
 
 def plain_form(ground):
