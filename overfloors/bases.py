@@ -8,6 +8,19 @@ from overfloors.order import ranked
 from overfloors.points import Point, cross
 from overfloors.ratios import Ratio, ratio_of
 
+# The six steps (i, j), each for i u + j v, that steps_around tells for u and v.
+STEPS = ((1, 0), (0, 1), (-1, 1), (-1, 0), (0, -1), (1, -1))
+# The twos of them that make all least bases for a least base (u, v) of the shape (p, q, r): first for p
+# below r, then for p equal to r, each time for q between 0 and p, for q equal to 0, and for q equal to p.
+LEAST = (
+    ((0, 1), (3, 4)),
+    ((0, 1), (0, 4), (3, 1), (3, 4)),
+    ((0, 1), (0, 5), (3, 2), (3, 4)),
+    ((0, 1), (1, 0), (3, 4), (4, 3)),
+    ((0, 1), (1, 0), (1, 3), (3, 1), (3, 4), (4, 3), (4, 0), (0, 4)),
+    ((0, 1), (1, 0), (1, 2), (2, 1), (2, 3), (3, 2), (3, 4), (4, 3), (4, 5), (5, 4), (5, 0), (0, 5)),
+)
+
 
 def shape_by(ground, u, v):
     """The measures of two points with their pair between them."""
@@ -101,32 +114,14 @@ def row_point(row, times):
     return Point(Ratio(row[0], times), Ratio(row[1], times))
 
 
-def steps_for(shape):
-    """The pairs of steps that make all least bases of one of the shape, each step (i, j) for i u + j v."""
-    p, q, r = shape
-    # Of the steps that are no multiples of u no other one is as short as v.
-    steps = ((1, 0), (0, 1), (-1, 1), (-1, 0), (0, -1), (1, -1))
-    lengths = (p, r, p + r - q) * 2
-    firsts = [step for step, length in zip(steps, lengths) if length == p]
-    seconds = [step for step, length in zip(steps, lengths) if length == r]
-    found = []
-    for i, j in firsts:
-        for m, n in seconds:
-            # Steps on one line do not pass: their pair is 2 p or - 2 p.
-            if 2 * p * i * m + q * (i * n + j * m) + 2 * r * j * n == q:
-                found.append(((i, j), (m, n)))
-    return found
-
-
-def moved_rows(u, v, steps):
-    """The rows of integers i u + j v for both steps (i, j) of a pair."""
-    return [(u[0] * i + v[0] * j, u[1] * i + v[1] * j) for i, j in steps]
-
-
 def all_least_rows(u, v, shape):
     """Pairs of the steps that make a least base of one of the shape, and its rows, ascending by the rows."""
-    pairs = [(steps, moved_rows(u, v, steps)) for steps in steps_for(shape)]
-    return [pairs[index] for index in ranked([(*rows[0], *rows[1]) for _, rows in pairs])]
+    p, q, r = shape
+    pairs = LEAST[(3 if p == r else 0) + (1 if q == 0 else 2 if q == p else 0)]
+    around = steps_around(u, v)
+    order = ranked([(*around[first], *around[second]) for first, second in pairs])
+    pairs = [pairs[index] for index in order]
+    return [((STEPS[first], STEPS[second]), (around[first], around[second])) for first, second in pairs]
 
 
 def least_bases(ground, lattice):

@@ -7,7 +7,7 @@ from overfloors.layers import common_grid, grid_of, scales_of
 from overfloors.motions import Motion, undone
 from overfloors.order import ranked
 from overfloors.places import alone, signs_of
-from overfloors.points import carried, cross
+from overfloors.points import Point, carried, cross, summed
 from overfloors.ratios import Ratio, is_int, ratio_of
 from overfloors.windows import Trail, Window, ceiling, count_layer, leaps
 
@@ -70,6 +70,12 @@ def is_least(table, mask):
     return table[mask] and not any([held and part & mask == part and part != mask for part, held in enumerate(table)])
 
 
+def is_in(grid, x, y):
+    """True if a grid has the place (x, y)."""
+    left, low, a, b, d = grid
+    return (x - left) % a == 0 and (y - low - (x - left) // a * b) % d == 0
+
+
 class Crowd:
     """The places of a set in a corridor from a step on, one behind the other, told by integers.
 
@@ -82,8 +88,10 @@ class Crowd:
         moved = [layer.moved(corridor.back) for layer in places.layers]
         self.across, self.upward = scales_of(moved)
         self.low, high = ceiling(corridor.low, self.upward), ceiling(corridor.high, self.upward)
-        grids = common_grids([grid_of(layer, self.across, self.upward) for layer in moved])
-        table = present_in(places.table, grids, self.low, high)
+        self.grids = [grid_of(layer, self.across, self.upward) for layer in moved]
+        grids = common_grids(self.grids)
+        self.table = present_in(places.table, grids, self.low, high)
+        table = self.table
         signs = signs_of(table)
         leaders = [mask for mask in range(len(table)) if is_least(table, mask)]
         others = [mask for mask in range(len(table)) if signs[mask] != 0 and grids[mask] is not None]
@@ -132,6 +140,20 @@ class Crowd:
             else:
                 firsts = middle
 
+    def places_between(self, firsts, ends):
+        """The pairs (x, y) of the places of the set on the leading trails between some indexes, in their order."""
+        pairs = []
+        for index in range(self.leaders):
+            pairs.extend(self.trails[index].places_between(firsts[index], ends[index]))
+        found = []
+        before = None
+        for pair in [pairs[index] for index in ranked(pairs)]:
+            mask = sum([1 << index for index, grid in enumerate(self.grids) if is_in(grid, pair[0], pair[1])])
+            if before != pair and self.table[mask]:
+                found.append(pair)
+            before = pair
+        return found
+
 
 class Corridor:
     """All points s * along + t * across with low <= t < high; s is the step of such a point."""
@@ -175,22 +197,10 @@ class Corridor:
         if crowd.leaders == 0:
             return None
         firsts, ends = crowd.close_to(number)
-        found = self.points_by(places, crowd, firsts, ends)
-        return found[number - crowd.ahead(firsts)]
-
-    def points_by(self, places, crowd, firsts, ends):
-        """The points of a set that stand on the leading trails of its crowd between some indexes."""
-        pairs = []
-        for index in range(crowd.leaders):
-            pairs.extend(crowd.trails[index].places_between(firsts[index], ends[index]))
-        found = []
-        before = None
-        for x, y in [pairs[index] for index in ranked(pairs)]:
-            point = self.along * Ratio(x, crowd.across) + self.across * Ratio(y, crowd.upward)
-            if before != (x, y) and point in places:
-                found.append(point)
-            before = (x, y)
-        return found
+        x, y = crowd.places_between(firsts, ends)[number - crowd.ahead(firsts)]
+        step, height = Ratio(x, crowd.across), Ratio(y, crowd.upward)
+        across = summed(self.along.x, step, self.across.x, height)
+        return Point(across, summed(self.along.y, step, self.across.y, height))
 
     def share(self, places):
         """The number of places of a set in the corridor for each unit of step, in the long run."""

@@ -11,7 +11,7 @@ from overfloors.bases import all_least_rows, area_of, least_rows
 from overfloors.lattices import rest_by, rows_by, with_row
 from overfloors.layers import Layer
 from overfloors.motions import Motion
-from overfloors.points import carried
+from overfloors.points import Point, summed, taken
 from overfloors.ratios import Ratio
 from overfloors.tiles import rarest
 
@@ -64,20 +64,21 @@ def whole_figures(times, rows, marks, start):
 def changed(figures, steps, bottom):
     """Figures along a base as figures along the base that steps from it make, from 0 on and below the bottom."""
     (i, j), (m, n) = steps
-    side = i * n - j * m
+    if i * n < j * m:
+        i, j, m, n = -i, -j, -m, -n
     return {
-        letter: [((x * n - y * m) * side % bottom, (y * i - x * j) * side % bottom) for x, y in figures[letter]]
-        for letter in figures
+        letter: [((x * n - y * m) % bottom, (y * i - x * j) % bottom) for x, y in figures[letter]] for letter in figures
     }
 
 
 def text_from(figures, bottom, start):
     """The text of all marks as they are seen from one of them, told by figures from 0 on and below the bottom."""
+    left, low = start
     told = []
     for letter in figures:
         # Divisions of numbers as long as these may be would take far longer than sums.
-        rests = [(x - start[0], y - start[1]) for x, y in figures[letter]]
-        rests = [(x if x >= 0 else x + bottom, y if y >= 0 else y + bottom) for x, y in rests]
+        rests = [(x - left if x >= left else x - left + bottom, y - low if y >= low else y - low + bottom)
+                 for x, y in figures[letter]]
         seen = ",".join(sorted([f"{x:x}.{y:x}" for x, y in rests]))
         told.append(f"{letter}:{seen}")
     return " ".join(told)
@@ -86,8 +87,8 @@ def text_from(figures, bottom, start):
 class Frames:
     """The frames of a tile with the least text."""
 
-    def __init__(self, ground, tile, mirrors):
-        self.times, u, v, self.shape = least_rows(ground, tile.lattice)
+    def __init__(self, base, tile, mirrors):
+        self.times, u, v, self.shape = base
         bases = least_for(u, v, self.shape, mirrors)
         marks = {letter: tile.marks(letter) for letter in tile.letters()}
         rare = rarest(marks, tile.letters())
@@ -95,9 +96,8 @@ class Frames:
         found = []
         for steps, rows in bases:
             seen = changed(figures, steps, bottom)
-            found.extend([
-                (text_from(seen, bottom, start), rows, point) for point, start in zip(marks[rare], seen[rare])
-            ])
+            for point, start in zip(marks[rare], seen[rare]):
+                found.append((text_from(seen, bottom, start), rows, point))
         least = min([str(text) for text, _, _ in found])
         self.ends = tuple([(rows, point) for text, rows, point in found if text == least])
         side = "right" if not mirrors and area_of(bases[0][1][0], bases[0][1][1]) < 0 else "left"
@@ -110,35 +110,49 @@ class Frames:
         return f"{shape} {self.text}"
 
 
+def frames_of(ground, tile, mirrors):
+    """The frames of a tile with the least text."""
+    return Frames(least_rows(ground, tile.lattice), tile, mirrors)
+
+
+def alike_frames(ground, tile, other_ground, other, mirrors, stretch):
+    """The frames of two tiles, None if these are not alike."""
+    base, other_base = least_rows(ground, tile.lattice), least_rows(other_ground, other.lattice)
+    part, other_part = base[0] * base[0], other_base[0] * other_base[0]
+    if stretch:
+        part, other_part = base[3][0], other_base[3][0]
+    # Most tiles that are not alike have unlike shapes, which are told far sooner than texts.
+    if any([figure * other_part != beside * part for figure, beside in zip(base[3], other_base[3])]):
+        return None
+    frames, others = Frames(base, tile, mirrors), Frames(other_base, other, mirrors)
+    return (frames, others) if frames.text == others.text else None
+
+
 def least_key(ground, tile, *, mirrors=True, stretch=False):
     """A text that is the same exactly for alike tiles."""
-    return Frames(ground, tile, mirrors).key(stretch)
+    return frames_of(ground, tile, mirrors).key(stretch)
 
 
 def moves(frames, others, ends):
     """The tables and shifts of the motions that take the first frame of a tile to some frames of another one."""
     (u, v), start = frames.ends[0]
-    bottom = others.times * area_of(u, v)
+    times, bottom = frames.times, others.times * area_of(u, v)
+    left, right, low, high = times * v[1], times * v[0], times * u[1], times * u[0]
     found = []
-    for (first, second), point in ends:
-        rows = [
-            (frames.times * (x * v[1] - y * u[1]), frames.times * (y * u[0] - x * v[0])) for x, y in zip(first, second)
-        ]
-        table = tuple([(Ratio(x, bottom), Ratio(y, bottom)) for x, y in rows])
-        found.append((table, point - carried(start, table)))
+    for ((x, y), (z, w)), point in ends:
+        a, b = Ratio(x * left - z * low, bottom), Ratio(z * high - x * right, bottom)
+        c, d = Ratio(y * left - w * low, bottom), Ratio(w * high - y * right, bottom)
+        across, upward = summed(a, start.x, b, start.y), summed(c, start.x, d, start.y)
+        found.append((((a, b), (c, d)), Point(taken(point.x, across), taken(point.y, upward))))
     return found
-
-
-def moves_between(frames, others, stretch):
-    """The tables and shifts of the motions that take the one tile to the other, one for each table."""
-    return moves(frames, others, others.ends) if frames.key(stretch) == others.key(stretch) else []
 
 
 def alike(ground, tile, other_ground, other, *, mirrors=True, stretch=False):
     """A motion that carries the one tile to the other, or None."""
-    frames, others = Frames(ground, tile, mirrors), Frames(other_ground, other, mirrors)
-    if frames.key(stretch) != others.key(stretch):
+    both = alike_frames(ground, tile, other_ground, other, mirrors, stretch)
+    if both is None:
         return None
+    frames, others = both
     table, shift = moves(frames, others, others.ends[:1])[0]
     return Motion(table, shift)
 
@@ -171,7 +185,7 @@ def shift_text(frames, end, lattice, point):
 
 def pair_key(ground, one, other, *, mirrors=True):
     """A text that is the same exactly for alike pairs of tiles."""
-    first, second = Frames(ground, one, mirrors), Frames(ground, other, mirrors)
+    first, second = frames_of(ground, one, mirrors), frames_of(ground, other, mirrors)
     # How the frames of both tiles lie to one another. A shift can be exchanged for one that
     # differs by an own step of either tile; it is looked at only where the tables are the least.
     told = [(table_text(first, end[0], second, there[0]), end, there) for end in first.ends for there in second.ends]
@@ -194,7 +208,10 @@ def in_both(found, lattice, others, other_lattice):
 
 def alike_pairs(ground, one, other, other_ground, third, fourth, *, mirrors=True):
     """A motion that carries the tile one to the third one and the other one to the fourth one, or None."""
-    first = moves_between(Frames(ground, one, mirrors), Frames(other_ground, third, mirrors), False)
-    second = moves_between(Frames(ground, other, mirrors), Frames(other_ground, fourth, mirrors), False)
-    found = in_both(first, third.lattice, second, fourth.lattice)
+    first = alike_frames(ground, one, other_ground, third, mirrors, False)
+    second = None if first is None else alike_frames(ground, other, other_ground, fourth, mirrors, False)
+    if second is None:
+        return None
+    firsts, seconds = [moves(frames, others, others.ends) for frames, others in (first, second)]
+    found = in_both(firsts, third.lattice, seconds, fourth.lattice)
     return found[0] if len(found) > 0 else None

@@ -1,6 +1,6 @@
 """Own motions of tiles: those that keep lengths and carry a tile to itself."""
 
-from overfloors.keys import Frames, in_both, moves
+from overfloors.keys import frames_of, in_both, moves
 from overfloors.lattices import Lattice
 from overfloors.layers import Layer
 from overfloors.motions import STILL, Motion, undone
@@ -10,7 +10,7 @@ from overfloors.tiles import key_of
 
 def own_moves(ground, tile):
     """The tables and shifts of the own motions of a tile, one for each table."""
-    frames = Frames(ground, tile, True)
+    frames = frames_of(ground, tile, True)
     return moves(frames, frames, frames.ends)
 
 

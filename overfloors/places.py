@@ -32,13 +32,15 @@ def bit_of(layer, layers):
     return 0
 
 
-def table_over(places, layers):
-    """The table of a set, told for the masks of other layers, all of its own ones among them."""
+def together(one, other):
+    """The layers of two sets, those of the first one first, and the tables of both sets over all of them."""
+    layers = joined(one.layers, other.layers)
     masks = [0]
     for layer in layers:
-        bit = bit_of(layer, places.layers)
+        bit = bit_of(layer, other.layers)
         masks = masks + [mask | bit for mask in masks]
-    return [places.table[mask] for mask in masks]
+    first = list(one.table) * (1 << (len(layers) - len(one.layers)))
+    return layers, first, [other.table[mask] for mask in masks]
 
 
 def without_bit(table, index):
@@ -106,6 +108,8 @@ def weights_of(layers):
 
     The third result tells for each mask the least one of the same common part, 0 if there is no common point.
     """
+    if len(layers) == 1:
+        return [0, 1], layers[0].thickness, [0, 1]
     cells, wider = common_cells(meshes_of(layers))
     top, bottom = unit_of([cells[mask] for mask in cells])
     amounts = {mask: top // cells[mask][0] * (cells[mask][1] // bottom) for mask in cells}
@@ -154,12 +158,13 @@ def side_by_side(one, other):
 
     None is told if each set has layers that the other one lacks.
     """
-    wide = one if len(one.layers) >= len(other.layers) else other
-    layers = joined(wide.layers, [*one.layers, *other.layers])
-    if len(layers) > len(wide.layers):
+    if len(one.layers) < len(other.layers):
+        patterns = side_by_side(other, one)
+        return None if patterns is None else [(held, beside) for beside, held in patterns]
+    if len(joined(one.layers, other.layers)) > len(one.layers):
         return None
-    first, second = table_over(one, layers), table_over(other, layers)
-    return [(held, beside) for weight, held, beside in zip(wide.weights[0], first, second) if weight > 0]
+    _, first, second = together(one, other)
+    return [(held, beside) for weight, held, beside in zip(one.weights[0], first, second) if weight > 0]
 
 
 def marked(places, layers, wider):
@@ -291,27 +296,23 @@ class Places:
     def __or__(self, other):
         if not isinstance(other, Places):
             return NotImplemented
-        layers = joined(self.layers, other.layers)
-        first, second = table_over(self, layers), table_over(other, layers)
+        layers, first, second = together(self, other)
         return places_by(layers, [one or another for one, another in zip(first, second)])
 
     def __and__(self, other):
         if not isinstance(other, Places):
             return NotImplemented
-        layers = joined(self.layers, other.layers)
-        first, second = table_over(self, layers), table_over(other, layers)
+        layers, first, second = together(self, other)
         return places_by(layers, [one and another for one, another in zip(first, second)])
 
     def __sub__(self, other):
         if not isinstance(other, Places):
             return NotImplemented
-        layers = joined(self.layers, other.layers)
-        first, second = table_over(self, layers), table_over(other, layers)
+        layers, first, second = together(self, other)
         return places_by(layers, [one and not another for one, another in zip(first, second)])
 
     def __xor__(self, other):
         if not isinstance(other, Places):
             return NotImplemented
-        layers = joined(self.layers, other.layers)
-        first, second = table_over(self, layers), table_over(other, layers)
+        layers, first, second = together(self, other)
         return places_by(layers, [one != another for one, another in zip(first, second)])

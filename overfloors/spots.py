@@ -3,8 +3,7 @@
 from overfloors.errors import TooMany
 from overfloors.layers import Layer, grid_of, scales_of
 from overfloors.points import ranked_points
-from overfloors.tiles import key_of
-from overfloors.windows import Window, count_layer, floor_sum, places_in
+from overfloors.windows import View, Window, floor_sum
 
 MOST = 20
 
@@ -20,9 +19,10 @@ def common_lattice(floor):
 
 def marks_in(floor, window):
     """The pairs (letter, point) of a floor in a window, ordered by x, then by y."""
-    if sum([count_layer(layer, window) for _, layer in floor.laid]) > MOST:
+    views = [View(layer, window) for _, layer in floor.laid]
+    if sum([view.many for view in views]) > MOST:
         raise TooMany(MOST)
-    found = [(letter, point) for letter, layer in floor.laid for point in places_in(layer, window)]
+    found = [(letter, point) for (letter, _), view in zip(floor.laid, views) for point in view.places()]
     return [found[index] for index in ranked_points([point for _, point in found])]
 
 
@@ -33,8 +33,11 @@ def spans_of(figures, low, high, scale, end):
     """
     found = []
     for figure in figures:
-        sides = [((figure - side) * scale).floor() + 1 for side in (high, low)]
-        found.append(tuple([max(0, side) if side < end else end for side in sides]))
+        first, last = [
+            (figure.top * side.bottom - side.top * figure.bottom) * scale // (figure.bottom * side.bottom) + 1
+            for side in (high, low)
+        ]
+        found.append((min(max(0, first), int(end)), min(max(0, last), int(end))))
     return found
 
 
@@ -79,7 +82,13 @@ def counts_of(grid, across, upward, ends):
 
 def picture_of(marks):
     """The triples (letter, dx, dy) of marks, the differences to the first one."""
-    return tuple([(letter, point.x - marks[0][1].x, point.y - marks[0][1].y) for letter, point in marks])
+    steps = [(letter, point - marks[0][1]) for letter, point in marks]
+    return tuple([(letter, step.x, step.y) for letter, step in steps])
+
+
+def key_by(picture):
+    """What tells a picture, as a key of a dict."""
+    return tuple([(letter, x.top, x.bottom, y.top, y.bottom) for letter, x, y in picture])
 
 
 def spots(layer, floor, window):
@@ -99,8 +108,8 @@ def spots(layer, floor, window):
     unit = layer.thickness.over(common.cell.over(joint.lattice.cell))
     pictures, many = {}, {}
     for seen in counts:
-        seen_marks = [marks[index] for index in seen]
-        key = tuple([(letter, key_of(point - seen_marks[0][1])) for letter, point in seen_marks])
-        pictures[key] = picture_of(seen_marks)
+        picture = picture_of([marks[index] for index in seen])
+        key = key_by(picture)
+        pictures[key] = picture
         many[key] = many.get(key, 0) + counts[seen]
     return [(pictures[key], unit * many[key]) for key in pictures]

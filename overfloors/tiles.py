@@ -40,6 +40,8 @@ def letters_of(marks):
 
 def rests_of(lattice, points):
     """The rests of some points, each once, ordered by x, then by y."""
+    if len(points) == 1:
+        return [lattice.rest(points[0])]
     found = {}
     for point in points:
         rest = lattice.rest(point)
@@ -47,25 +49,23 @@ def rests_of(lattice, points):
     return ascending_points([found[key] for key in found])
 
 
-def check_apart(marks, letters):
-    """Raises Clash if two letters have a rest in common; the letters ascend."""
+def letters_at(marks):
+    """A dict from what tells each rest to its letter, of several the last one."""
+    return {key_of(rest): letter for letter in marks for rest in marks[letter]}
+
+
+def first_clash(marks):
+    """The least two letters that have a rest in common, where some have; the letters ascend."""
     at = {}
-    for letter in letters:
+    for letter in marks:
         for rest in marks[letter]:
             at.setdefault(key_of(rest), []).append(letter)
     clashes = [(at[key][0], at[key][1]) for key in at if len(at[key]) > 1]
-    if len(clashes) == 0:
-        return
     least = clashes[0]
     for clash in clashes:
         if clash < least:
             least = clash
-    raise Clash(least[0], least[1])
-
-
-def letters_at(marks):
-    """A dict from what tells each rest to its letter."""
-    return {key_of(rest): letter for letter in marks for rest in marks[letter]}
+    return least
 
 
 def is_own_step(lattice, marks, at, step):
@@ -86,13 +86,12 @@ def rarest(marks, letters):
     return found
 
 
-def own_lattice(lattice, marks, letters):
-    """The lattice of all steps that take each letter to itself."""
-    at = letters_at(marks)
+def own_steps(lattice, marks, at):
+    """Steps that make the lattice of all steps that take each letter to itself, together with a lattice of such."""
     # An own step takes any rest to one of the same letter.
-    rests = marks[rarest(marks, letters)]
+    rests = marks[rarest(marks, list(marks))]
     steps = [rest - rests[0] for rest in rests[1:]]
-    return Lattice([*lattice.rows(), *[step for step in steps if is_own_step(lattice, marks, at, step)]])
+    return [step for step in steps if is_own_step(lattice, marks, at, step)]
 
 
 class Tile:
@@ -101,10 +100,18 @@ class Tile:
     def __init__(self, lattice, marks):
         letters = letters_of(marks)
         rests = {letter: rests_of(lattice, marks[letter]) for letter in letters}
-        check_apart(rests, letters)
-        self.lattice = own_lattice(lattice, rests, letters)
-        self._marks = {letter: rests_of(self.lattice, rests[letter]) for letter in letters}
-        self._at = letters_at(self._marks)
+        at = letters_at(rests)
+        if len(at) < sum([len(rests[letter]) for letter in letters]):
+            letter, other = first_clash(rests)
+            raise Clash(letter, other)
+        steps = own_steps(lattice, rests, at)
+        if len(steps) > 0:
+            lattice = Lattice([*lattice.rows(), *steps])
+            rests = {letter: rests_of(lattice, rests[letter]) for letter in letters}
+            at = letters_at(rests)
+        self.lattice = lattice
+        self._marks = rests
+        self._at = at
 
     def letters(self):
         """The letters, ascending."""

@@ -137,37 +137,36 @@ class Trail:
         return [self.place(index) for index in range(first, end) if self.is_inside(index)]
 
 
-def trail_in(layer, window):
-    """The trail of a layer in the strip of a window, with the indexes of its first place in the window and behind it.
+class View:
+    """The places of a layer in a window, and how many they are.
 
-    None stands for a window that is empty, or so narrow that it has no place of the layer.
+    There is no trail, None, if the window is empty, or so narrow that it has no place of the layer.
     """
-    across, upward = scales_of([layer])
-    left, right = ceiling(window.left, across), ceiling(window.right, across)
-    low, high = ceiling(window.low, upward), ceiling(window.high, upward)
-    if left >= right or low >= high:
-        return None
-    trail = Trail(grid_of(layer, across, upward), low, high)
-    return trail, trail.index_at(left), trail.index_at(right)
+
+    def __init__(self, layer, window):
+        self.across, self.upward = scales_of([layer])
+        left, right = ceiling(window.left, self.across), ceiling(window.right, self.across)
+        low, high = ceiling(window.low, self.upward), ceiling(window.high, self.upward)
+        self.trail, self.many = None, 0
+        if left < right and low < high:
+            self.trail = Trail(grid_of(layer, self.across, self.upward), low, high)
+            self.first, self.end = self.trail.index_at(left), self.trail.index_at(right)
+            self.many = self.trail.many_between(self.first, self.end)
+
+    def places(self):
+        """The places, ordered by x, then by y."""
+        # Where the strip itself has no place the trail may still have very many beside it.
+        if self.many == 0:
+            return []
+        pairs = self.trail.places_between(self.first, self.end)
+        return [Point(Ratio(x, self.across), Ratio(y, self.upward)) for x, y in pairs]
 
 
 def count_layer(layer, window):
     """How many places of a layer are in a window."""
-    found = trail_in(layer, window)
-    return 0 if found is None else found[0].many_between(found[1], found[2])
+    return View(layer, window).many
 
 
 def count_in(places, window):
     """How many places of a set are in a window."""
     return sum([sign * count_layer(layer, window) for _, sign, layer in places.terms])
-
-
-def places_in(layer, window):
-    """The places of a layer in a window, ordered by x, then by y."""
-    found = trail_in(layer, window)
-    # Where the strip itself has no place the trail may still have very many beside it.
-    if found is None or found[0].many_between(found[1], found[2]) == 0:
-        return []
-    across, upward = scales_of([layer])
-    trail, first, end = found
-    return [Point(Ratio(x, across), Ratio(y, upward)) for x, y in trail.places_between(first, end)]

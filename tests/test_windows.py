@@ -8,7 +8,7 @@ from overfloors.motions import Motion
 from overfloors.places import Places
 from overfloors.points import Point
 from overfloors.ratios import Ratio
-from overfloors.windows import Trail, Window, count_in, floor_sum, places_in
+from overfloors.windows import Trail, View, Window, count_in, floor_sum
 from drawn import HUNDRED, Draw, columns, fraction, no_points
 from expressions import drawn, made
 from search import box, point_of
@@ -162,11 +162,11 @@ class TrailTest(unittest.TestCase):
             left, low = draw.ratio(5), draw.ratio(5)
             window = Window(left, left + abs(draw.ratio(3)), low, low + abs(draw.ratio(9)))
             found = walk_points(layer, window)
-            self.assertEqual(places_in(layer, window), found)
+            self.assertEqual(View(layer, window).places(), found)
             self.assertEqual(count_in(Places([layer]), window), len(found))
         # A strip between the lines of a layer, as long as can be.
         rows = Layer(Point(0, 0), Lattice.square(1))
-        self.assertEqual(places_in(rows, Window(-HUNDRED, HUNDRED, Ratio(1, 3), Ratio(2, 3))), [])
+        self.assertEqual(View(rows, Window(-HUNDRED, HUNDRED, Ratio(1, 3), Ratio(2, 3))).places(), [])
 
 
 def walk_points(layer, window):
