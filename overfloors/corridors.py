@@ -4,6 +4,7 @@ from math import gcd
 
 from overfloors.errors import BadNumber, Flat, NoWidth, TooMany
 from overfloors.layers import common_grid, grid_of, scales_of
+from overfloors.meshes import mesh_of
 from overfloors.motions import Motion, undone
 from overfloors.order import ranked
 from overfloors.places import alone, signs_of
@@ -212,9 +213,8 @@ class Corridor:
 
     def flat(self, layer):
         """The grid of a layer along the corridor, its scale, and the bounds of the corridor, all integers."""
-        moved = layer.moved(self.back)
-        across, upward = scales_of([moved])
-        return grid_of(moved, across, upward), across, ceiling(self.low, upward), ceiling(self.high, upward)
+        across, upward, grid = mesh_of(layer.moved(self.back))
+        return grid, across, ceiling(self.low, upward), ceiling(self.high, upward)
 
     def gaps(self, layer):
         """Pairs of the gaps of a layer, ascending, and the number of such gaps for each unit of step."""

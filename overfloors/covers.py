@@ -3,7 +3,8 @@
 from math import gcd, lcm
 
 from overfloors.errors import BadNumber, TooMany
-from overfloors.layers import common_grid, grid_of, scales_of
+from overfloors.layers import common_grid
+from overfloors.meshes import aligned, mesh_of
 from overfloors.points import Point
 from overfloors.ratios import Ratio, is_int
 
@@ -21,18 +22,18 @@ def stepped(one, other):
     return i, (low - y - i * b) // d, across, (lean - across * b) // d, height // d
 
 
-def steps_held(layers, layer):
-    """The grids, told by the steps of a layer, of what each layer of a list has in common with it, if anything."""
+def steps_held(layers, mesh):
+    """The grids, told by the steps of a mesh, of what each layer of a list has in common with it, if anything."""
     found = []
-    for one in layers:
-        across, upward = scales_of([layer, one])
-        grid = stepped(grid_of(layer, across, upward), grid_of(one, across, upward))
+    for layer in layers:
+        _, _, one, other = aligned(mesh, mesh_of(layer))
+        grid = stepped(one, other)
         if grid is not None:
             found.append(grid)
     return found
 
 
-def comb(step, reach):
+def multiples_below(step, reach):
     """The integer whose bits are the multiples of a step from 0 on, all those below the reach among them."""
     if step >= reach:
         return 1
@@ -47,10 +48,10 @@ def first_step(grids):
     again = 1
     for _, _, a, b, d in grids:
         again = lcm(again, a * (d // gcd(b, d)))
-    combs = [comb(grid[4], reach) for grid in grids]
+    multiples = [multiples_below(grid[4], reach) for grid in grids]
     for i in range(min(reach, int(again))):
         left = (1 << reach) - 1
-        for (x, y, a, b, d), bits in zip(grids, combs):
+        for (x, y, a, b, d), bits in zip(grids, multiples):
             start = (y + (i - x) // a * b) % d
             if (i - x) % a == 0 and start < reach:
                 left = left & ~(bits << start)
@@ -61,11 +62,13 @@ def first_step(grids):
 
 def first_uncovered(layers, layer):
     """The first point c + i u + j v of the window of a layer that no layer of a list holds, or None."""
-    found = first_step(steps_held(layers, layer))
+    mesh = mesh_of(layer)
+    found = first_step(steps_held(layers, mesh))
     if found is None:
         return None
-    first, second = layer.lattice.rows()
-    return layer.point + first * found[0] + second * found[1]
+    i, j = found
+    across, upward, (x, y, a, b, d) = mesh
+    return Point(Ratio(x + i * a, across), Ratio(y + i * b + j * d, upward))
 
 
 def uncovered(layers, layer):
@@ -84,8 +87,7 @@ def window_points(layer, many):
     """The points of a layer that show whether so many layers cover it."""
     if not is_int(many) or many < 0 or many > MOST:
         raise BadNumber(many)
-    across, upward = scales_of([layer])
-    x, y, a, b, d = grid_of(layer, across, upward)
+    across, upward, (x, y, a, b, d) = mesh_of(layer)
     found = []
     for i in range(1 << many):
         column = Ratio(x + i * a, across)

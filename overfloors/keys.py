@@ -28,8 +28,8 @@ def least_for(u, v, shape, mirrors):
     They are told as pairs of the steps that lead to them from (u, v), and of their rows.
     """
     found = all_least_rows(u, v, shape)
-    left = [pair for pair in found if area_of(pair[1][0], pair[1][1]) > 0]
-    return found if mirrors or len(left) == 0 else left
+    left = [] if mirrors else [pair for pair in found if area_of(pair[1][0], pair[1][1]) > 0]
+    return left if len(left) > 0 else found
 
 
 def whole_points(points, many):

@@ -7,28 +7,37 @@ Cells are told as pairs of a top and a bottom.
 
 from math import gcd, lcm
 
-from overfloors.layers import common_grid, grid_of, joint_cell, scales_of
+from overfloors.layers import common_grid, grid_of, joint_cell
 
 SHORT = 64
 
 
-def meshes_of(layers):
-    """The meshes of layers, at one scale for all unless this would make their integers far longer."""
-    scales = [scales_of([layer]) for layer in layers]
-    across, upward, longest = 1, 1, 0
-    for wide, high in scales:
-        across, upward = lcm(across, wide), lcm(upward, high)
-        longest = max(longest, int((wide * high).bit_length()))
-    if (across * upward).bit_length() > 2 * longest + SHORT:
-        return [(wide, high, grid_of(layer, wide, high)) for layer, (wide, high) in zip(layers, scales)]
-    return [(across, upward, grid_of(layer, across, upward)) for layer in layers]
+def mesh_of(layer):
+    """The mesh of a layer at its own scale."""
+    table, point = layer.lattice.table, layer.point
+    across, upward = lcm(table.across, point.x.bottom), lcm(table.upward, point.y.bottom)
+    return across, upward, grid_of(layer, across, upward)
 
 
 def rescaled(mesh, across, upward):
     """The grid of a mesh at other scales, multiples of its own ones."""
+    if mesh[0] == across and mesh[1] == upward:
+        return mesh[2]
     wide, high = across // mesh[0], upward // mesh[1]
     x, y, a, b, d = mesh[2]
     return x * wide, y * high, a * wide, b * high, d * high
+
+
+def meshes_of(layers):
+    """The meshes of layers, at one scale for all unless this would make their integers far longer."""
+    found = [mesh_of(layer) for layer in layers]
+    across, upward, longest = 1, 1, 0
+    for wide, high, _ in found:
+        across, upward = lcm(across, wide), lcm(upward, high)
+        longest = max(longest, int((wide * high).bit_length()))
+    if (across * upward).bit_length() > 2 * longest + SHORT:
+        return found
+    return [(across, upward, rescaled(mesh, across, upward)) for mesh in found]
 
 
 def aligned(one, other):

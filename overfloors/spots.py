@@ -1,7 +1,8 @@
 """Spots: what of a floor is seen around the points of a layer, and how often."""
 
 from overfloors.errors import TooMany
-from overfloors.layers import Layer, grid_of, scales_of
+from overfloors.layers import Layer
+from overfloors.meshes import mesh_of
 from overfloors.points import ranked_points
 from overfloors.windows import View, Window, floor_sum
 
@@ -100,11 +101,11 @@ def spots(layer, floor, window):
     # What is seen from a point is seen again from all points a common step away, so points
     # count that lead to one another by steps of the layer and of the floor, in one oblong.
     joint = Layer(layer.point, layer.lattice + common)
-    scales = scales_of([joint])
-    ends = common.a.top * (scales[0] // common.a.bottom), common.d.top * (scales[1] // common.d.bottom)
-    across = spans_of([point.x for _, point in marks], window.left, window.right, scales[0], ends[0])
-    upward = spans_of([point.y for _, point in marks], window.low, window.high, scales[1], ends[1])
-    counts = counts_of(grid_of(joint, scales[0], scales[1]), across, upward, ends)
+    wide, high, grid = mesh_of(joint)
+    ends = common.a.top * (wide // common.a.bottom), common.d.top * (high // common.d.bottom)
+    across = spans_of([point.x for _, point in marks], window.left, window.right, wide, ends[0])
+    upward = spans_of([point.y for _, point in marks], window.low, window.high, high, ends[1])
+    counts = counts_of(grid, across, upward, ends)
     unit = layer.thickness.over(common.cell.over(joint.lattice.cell))
     pictures, many = {}, {}
     for seen in counts:

@@ -3,6 +3,8 @@
 from math import gcd
 
 from overfloors.errors import BadNumber, TooMany
+from overfloors.lattices import is_member
+from overfloors.layers import grid_of, scales_of
 from overfloors.ratios import divisors_of, is_count, lcm_of
 
 MOST = 1000
@@ -32,8 +34,13 @@ class Stretches:
         self.other = other
         self.depth = depth
         self.levels = [(divisor, one.lattice + other.lattice * divisor) for divisor in divisors_of(depth)]
-        joints = {divisor: lattice for divisor, lattice in self.levels}
-        held = [other.point * number - one.point in joints[gcd(number, depth)] for number in range(1, length + 1)]
+        tables = {divisor: lattice.table for divisor, lattice in self.levels}
+        across, upward = scales_of([one, other])
+        (x, y), (left, low) = [grid_of(layer, across, upward)[:2] for layer in (other, one)]
+        held = [
+            is_member(tables[gcd(number, depth)], x * number - left, across, y * number - low, upward)
+            for number in range(1, length + 1)
+        ]
         # A tuple, since the list of wins is anyone's to change.
         self.held = tuple(repeated(held))
         self.period = len(self.held)

@@ -142,6 +142,14 @@ def directions_of(form, index):
     return found
 
 
+def is_index(form, divisors, index):
+    """True if some turn has an index, for the divisors that common divisors of indices can be."""
+    for common in divisors:
+        if any([index_by(form, m, n) == index for m, n in lifted_with(form, index * common)]):
+            return True
+    return False
+
+
 def turns_of(ground, index, *, most=500):
     """The directions of all turns with an index in the whole floor, in the order in which a turning line meets them."""
     if not is_count(index) or index > MOST_INDEX:
@@ -161,4 +169,5 @@ def indices_to(ground, most):
     if not is_count(most) or most > MOST_LISTED:
         raise BadNumber(most)
     form = plain_form(ground)
-    return [index for index in range(1, most + 1) if len(directions_of(form, index)) > 0]
+    divisors = divisors_of(extent(form))
+    return [index for index in range(1, most + 1) if is_index(form, divisors, index)]

@@ -1,6 +1,6 @@
 """Windows: how many places of a set they hold, and which ones, however many columns there are."""
 
-from overfloors.layers import grid_of, scales_of
+from overfloors.meshes import mesh_of
 from overfloors.points import Point
 from overfloors.ratios import Ratio, ratio_of
 
@@ -144,12 +144,12 @@ class View:
     """
 
     def __init__(self, layer, window):
-        self.across, self.upward = scales_of([layer])
+        self.across, self.upward, grid = mesh_of(layer)
         left, right = ceiling(window.left, self.across), ceiling(window.right, self.across)
         low, high = ceiling(window.low, self.upward), ceiling(window.high, self.upward)
         self.trail, self.many = None, 0
         if left < right and low < high:
-            self.trail = Trail(grid_of(layer, self.across, self.upward), low, high)
+            self.trail = Trail(grid, low, high)
             self.first, self.end = self.trail.index_at(left), self.trail.index_at(right)
             self.many = self.trail.many_between(self.first, self.end)
 
