@@ -24,14 +24,6 @@ class Table:
         self.upward = upward // part
 
 
-def common_bottom(ratios):
-    """The least integer above 0 whose product with each of the Ratios is whole."""
-    found = 1
-    for ratio in ratios:
-        found = lcm(found, ratio.bottom)
-    return found
-
-
 def with_row(rows, x, y):
     """The rows (a, b, d) of the lattice of such rows and of one point more, all whole.
 

@@ -94,6 +94,44 @@ class CoversTest(unittest.TestCase):
         self.check([Layer(layer.point, Lattice([u * HUNDRED, v]))], layer, False)
         self.check([], layer, False)
 
+    def test_walk_over_the_window(self):
+        """Parts of a layer and other layers, against the points of the window one by one."""
+        draw = Draw(82)
+        told = []
+        for size, many in [(3, 4)] * 40 + [(10 ** 28, 3)] * 40 + [(5, 5)] * 6 + [(10 ** 28, 6)] * 3 + [(4, 6)] * 3:
+            layer = draw.layer(size)
+            layers = parts_of(draw, layer, many)[draw.random.randint(0, 1):]
+            while len(layers) < many:
+                layers.append(draw.random.choice([draw.layer(min(size, 9)), layer.shifted(draw.point(2)), *layers[:1]]))
+            if draw.random.randrange(3) == 0:
+                layers[-1] = Layer(layers[-1].point, layers[-1].lattice * draw.random.randint(1, 3))
+            draw.random.shuffle(layers)
+            points = window_points(layer, len(layers))
+            bare = [point for point in points if not any(point in one for one in layers)]
+            self.check(layers, layer, len(bare) == 0)
+            told.append(len(bare) == 0)
+        self.assertGreater(sum(told), 15)
+        self.assertGreater(len(told) - sum(told), 15)
+
+    def test_long_columns(self):
+        """Layers that hold few columns or few points of a column of the window, and layers far wider than it."""
+        u, v = Point(10 ** 28 + 1, 3), Point(Ratio(1, 7), 10 ** 28 - 1)
+        layer = Layer(u, Lattice([u, v]))
+        first, second = layer.lattice.rows()
+        far = Layer(layer.point + second * 10 ** 29, Lattice([first * 10 ** 29, second * (10 ** 30 + 1)]))
+        slanted = [Layer(layer.point + second * at, Lattice([first + second * 2, second * 5])) for at in range(5)]
+        self.check([*slanted, far], layer, True)
+        for at in range(5):
+            less = slanted[:at] + slanted[at + 1:]
+            self.check([*less, far], layer, False)
+            # What is left of a part are two columns out of three, of which one more is taken.
+            columns_left = [Layer(slanted[at].point, Lattice([(first + second * 2) * 3, second * 5]))]
+            self.check([*less, *columns_left], layer, False)
+            columns_left.append(columns_left[0].shifted(first + second * 2))
+            self.check([*less[:4], *columns_left], layer, False)
+        whole = [Layer(slanted[0].point + (first + second * 2) * at, Lattice([(first + second * 2) * 2, second * 5])) for at in (0, 1)]
+        self.check(slanted[1:] + whole, layer, True)
+
     def test_six_and_seven(self):
         six = [columns(6, first) for first in range(6)]
         self.check(six, columns(1), True)
@@ -129,6 +167,16 @@ class WindowPointsTest(unittest.TestCase):
             with self.assertRaises(BadNumber) as caught:
                 window_points(columns(1), value)
             self.assertIs(caught.exception.value, value)
+
+
+def parts_of(draw, layer, many):
+    """At most so many parts that a layer is made of, along a step that is drawn."""
+    u, v = layer.lattice.rows()
+    parts = draw.random.randint(1, many)
+    lean = draw.random.randint(0, parts)
+    if draw.random.randrange(3) == 0:
+        return [Layer(layer.point + u * at, Lattice([u * parts, v])) for at in range(parts)]
+    return [Layer(layer.point + v * at, Lattice([u + v * lean, v * parts])) for at in range(parts)]
 
 
 def halves_of(draw, layer):

@@ -305,6 +305,96 @@ class LongNumbersTest(unittest.TestCase):
         self.assertEqual(len(one.patterns()), 63)
 
 
+class PartedTest(unittest.TestCase):
+    """A layer that is parted again and again, by other parts each time, also with numbers of 28 figures."""
+
+    size = 36
+
+    def setUp(self):
+        self.draw = Draw(75)
+
+    def parts(self, layer, many):
+        u, v = layer.lattice.rows()
+        kind = self.draw.random.randrange(3)
+        if kind == 0:
+            return [Layer(layer.point + u * at, Lattice([u * many, v])) for at in range(many)]
+        lean = self.draw.random.randint(0, many) if kind == 1 else 0
+        return [Layer(layer.point + v * at, Lattice([u + v * lean, v * many])) for at in range(many)]
+
+    def fits(self, layer):
+        """Whether the layer repeats by (36, 0) and (0, 36), as the walk asks for."""
+        return Point(self.size, 0) in layer.lattice and Point(0, self.size) in layer.lattice
+
+    def pool(self):
+        """A layer, its parts, and parts of some of these."""
+        found = [columns(1)]
+        while len(found) < 14:
+            parts = self.parts(self.draw.random.choice(found), self.draw.random.choice([2, 3, 4, 6]))
+            if all(self.fits(part) for part in parts):
+                found.extend(part for part in parts if part not in found)
+        return found
+
+    def test_other_parts(self):
+        motion = Motion([[10 ** 28 + 9, Ratio(10 ** 28, 7)], [3, 10 ** 28 - 1]], Point(Ratio(1, 3), 10 ** 27))
+        equal, inside, unlike = 0, 0, 0
+        for round_ in range(50):
+            pool = self.pool()
+            told, sets = [], []
+            for _ in range(6):
+                layers = self.draw.random.sample(pool, self.draw.random.randint(1, 6))
+                moved = [layer.moved(motion) for layer in layers] if round_ % 2 else layers
+                expression = drawn(self.draw, layers, self.draw.random.choice([0, 0, 1, 2]))
+                expression = list(range(len(layers))) if isinstance(expression, list) else expression
+                told.append(walked(expression, layers, self.size))
+                sets.append(made(expression, moved))
+            for one, first in zip(told, sets):
+                self.assertEqual(first.thick() * (abs(motion.factor()) if round_ % 2 else 1), Ratio(len(one), self.size ** 2))
+                for other, second in zip(told, sets):
+                    self.assertIs(first == second, one == other)
+                    self.assertIs(first.inside(second), one <= other)
+                    equal += one == other
+                    inside += one < other
+                    unlike += len(one) == len(other) and one != other
+        self.assertGreater(equal, 310)
+        self.assertGreater(inside, 100)
+        self.assertGreater(unlike, 10)
+
+    def test_two_ways(self):
+        """Four to six parts in two ways, all of them, and without one of them."""
+        for many in (4, 5, 6):
+            for factor in (1, 10 ** 28 + 57, Ratio(1, 10 ** 28 + 57)):
+                rows = [Layer(Point(0, at), Lattice([Point(1, 0), Point(0, many)])) * factor for at in range(many)]
+                sides = [Layer(Point(at, 0), Lattice([Point(many, 0), Point(0, 1)])) * factor for at in range(many)]
+                self.assertTrue(Places(rows) == Places(sides))
+                self.assertTrue(Places(rows).inside(Places(sides)) and Places(sides).inside(Places(rows)))
+                self.assertFalse(Places(rows) != Places(sides))
+                self.assertFalse(Places(rows[1:]) == Places(sides[1:]))
+                self.assertFalse(Places(rows[1:]).inside(Places(sides[1:])))
+                self.assertTrue(Places(rows[1:]).inside(Places(sides)))
+                self.assertTrue(Places(rows[:2]) | Places(rows[2:]) == Places(sides[:3]) | Places(sides[3:]))
+                whole = Places([columns(1) * factor])
+                self.assertTrue(whole - Places(rows[:2]) == Places(rows[2:]))
+                self.assertFalse(whole - Places(rows[:2]) == whole - Places(sides[:2]))
+                self.assertTrue(whole - Places(sides[:1]) ^ Places(sides[:1]) == Places(rows))
+
+    def test_wider_layers(self):
+        """Layers within layers, of six sets of parts that are in no way alike."""
+        sizes = ((2, 3), (3, 5), (5, 7), (7, 11), (11, 13), (13, 2))
+        wide = [Layer(Point(0, 0), Lattice.oblong(width, height)) for width, height in sizes]
+        narrow = [Layer(Point(0, 0), Lattice.oblong(width * 17, height)) for width, height in sizes]
+        for motion in (Motion([[1, 0], [0, 1]]), Motion([[10 ** 28, 7], [Ratio(1, 3), 10 ** 28 + 1]], Point(5, 5))):
+            one, other = [Places([layer.moved(motion) for layer in layers]) for layers in (narrow, wide)]
+            self.assertTrue(one.inside(other))
+            self.assertFalse(other.inside(one))
+            self.assertFalse(one == other)
+            self.assertFalse(other == other.shifted(motion(Point(1, 1)) - motion(Point(0, 0))))
+            mixed = Places([one.layers[0], other.layers[0], one.layers[1], other.layers[2]])
+            self.assertTrue(mixed == Places([other.layers[0], other.layers[2], one.layers[1]]))
+            part = Places([other.layers[0], other.layers[2], one.layers[1]])
+            self.assertTrue(one.inside(part | Places([other.layers[3], other.layers[5], one.layers[4]])))
+            self.assertFalse(one.inside(part | Places([other.layers[3], other.layers[5]])))
+
+
 def coprime(number, others):
     """True if a number has no common divisor with others."""
     return all(Ratio(number, other).bottom == other for other in others)
