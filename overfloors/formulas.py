@@ -4,6 +4,7 @@ from overfloors.errors import BadText, NoFloor
 from overfloors.tiles import is_word
 
 SIGNS = ("|", "&", "-", "^")
+BRACKETS = ("(", ")")
 DEEPEST = 20
 
 
@@ -62,18 +63,15 @@ class Formula:
         check_words(words)
         self.text = text
         self._words = tuple(words)
-
-    def told_names(self):
-        """The names of floors in the order of the text."""
-        return [word.split(".")[0] for word in self._words if is_operand(word)]
+        self._names = tuple([word.split(".")[0] for word in words if word not in SIGNS and word not in BRACKETS])
 
     def names(self):
         """The names of floors, each once, ascending."""
-        return tuple(sorted(set([str(name) for name in self.told_names()])))
+        return tuple(sorted(set([str(name) for name in self._names])))
 
     def places(self, floors):
         """The set that the formula tells, for a dict from names to floors."""
-        for name in self.told_names():
+        for name in self._names:
             if name not in floors:
                 raise NoFloor(name)
         waiting = []

@@ -15,54 +15,65 @@ from overfloors.ratios import Ratio
 MOST = 6
 
 
-def joined(layers, others):
-    """The layers of both lists, each once, in the order in which they come first."""
+def different(layers):
+    """The layers, each once, in the order in which they come first."""
     found = []
-    for layer in [*layers, *others]:
+    for layer in layers:
         if layer not in found:
             found.append(layer)
     return found
 
 
-def bit_of(layer, layers):
-    """The bit of a layer in the masks of some layers, 0 if it is none of them."""
+def place_of(layer, layers):
+    """The index of a layer in a list, behind the last one if it is not there."""
     for index, one in enumerate(layers):
         if one == layer:
-            return 1 << index
-    return 0
+            return index
+    return len(layers)
+
+
+def joined(layers, others):
+    """The layers of two sets, those of the first one first, and the indexes of those of the second one there."""
+    found = list(layers)
+    places = []
+    for layer in others:
+        index = place_of(layer, found)
+        if index == len(found):
+            found.append(layer)
+        places.append(index)
+    return found, places
+
+
+def masks_over(many, places):
+    """For each mask of so many layers the mask of those of them that stand at some places, told by the places."""
+    bits = [0 for _ in range(many)]
+    for index, place in enumerate(places):
+        bits[place] = 1 << index
+    masks = [0]
+    for bit in bits:
+        masks = masks + [mask | bit for mask in masks]
+    return masks
 
 
 def together(one, other):
     """The layers of two sets, those of the first one first, and the tables of both sets over all of them."""
-    layers = joined(one.layers, other.layers)
-    masks = [0]
-    for layer in layers:
-        bit = bit_of(layer, other.layers)
-        masks = masks + [mask | bit for mask in masks]
+    layers, places = joined(one.layers, other.layers)
     first = list(one.table) * (1 << (len(layers) - len(one.layers)))
-    return layers, first, [other.table[mask] for mask in masks]
-
-
-def without_bit(table, index):
-    """The items of the masks without a bit, in their order."""
-    bit = 1 << index
-    return [item for mask, item in enumerate(table) if mask & bit == 0]
-
-
-def plays_part(table, index):
-    """True if a layer makes a difference to whether some pattern belongs."""
-    bit = 1 << index
-    return any([table[at:at + bit] != table[at + bit:at + 2 * bit] for at in range(0, len(table), 2 * bit)])
+    return layers, first, [other.table[mask] for mask in masks_over(len(layers), places)]
 
 
 def needed(layers, table):
     """The layers that play a part, and the table over them alone."""
-    left = list(layers)
+    left = []
     rest = list(table)
-    for index in range(len(layers) - 1, -1, -1):
-        if not plays_part(rest, index):
-            left = left[:index] + left[index + 1:]
-            rest = without_bit(rest, index)
+    for layer in layers:
+        # The masks without the lowest bit and those with it; a bit that is kept is made the highest one.
+        lacking, holding = rest[::2], rest[1::2]
+        if lacking == holding:
+            rest = lacking
+        else:
+            left.append(layer)
+            rest = lacking + holding
     return left, rest
 
 
@@ -158,18 +169,19 @@ def side_by_side(one, other):
 
     None is told if each set has layers that the other one lacks.
     """
-    if len(one.layers) < len(other.layers):
-        patterns = side_by_side(other, one)
-        return None if patterns is None else [(held, beside) for beside, held in patterns]
-    if len(joined(one.layers, other.layers)) > len(one.layers):
+    layers, places = joined(one.layers, other.layers)
+    if len(layers) > len(one.layers) and len(layers) > len(other.layers):
         return None
-    _, first, second = together(one, other)
-    return [(held, beside) for weight, held, beside in zip(one.weights[0], first, second) if weight > 0]
+    masks = masks_over(len(layers), places)
+    weights = one.weights[0]
+    if len(layers) > len(one.layers):
+        weights = [other.weights[0][mask] for mask in masks]
+    first = list(one.table) * (1 << (len(layers) - len(one.layers)))
+    return [(held, other.table[mask]) for weight, held, mask in zip(weights, first, masks) if weight > 0]
 
 
-def marked(places, layers, wider):
-    """Triples of the signed masks of a set, told over other layers, the bits of all wider layers, and the signs."""
-    bits = [bit_of(layer, layers) for layer in places.layers]
+def marked(places, bits, wider):
+    """Triples of the signed masks of a set, by other bits of its layers, of the bits of wider layers, and of the signs."""
     found = []
     for mask, sign in places.signed:
         chosen = [bit for index, bit in enumerate(bits) if mask >> index & 1]
@@ -182,11 +194,11 @@ def marked(places, layers, wider):
 
 def shared(one, other):
     """How thick the points lie that two sets have in common."""
-    layers = joined(one.layers, other.layers)
+    layers, places = joined(one.layers, other.layers)
     cells, wider = common_cells(meshes_of(layers))
-    seconds = marked(other, layers, wider)
+    seconds = marked(other, [1 << place for place in places], wider)
     many = {}
-    for mask, drop, sign in marked(one, layers, wider):
+    for mask, drop, sign in marked(one, [1 << index for index in range(len(one.layers))], wider):
         for beside, more, factor in seconds:
             both = (mask | beside) & ~(drop | more)
             if both in cells:
@@ -200,18 +212,18 @@ class Places:
     """The points that are in one of some layers, or what operators make of such sets."""
 
     def __init__(self, layers=()):
-        different = joined(layers, [])
-        if len(different) > MOST:
+        found = different(layers)
+        if len(found) > MOST:
             raise TooMany(MOST)
-        self.layers = tuple(different)
-        self.table = tuple([mask > 0 for mask in range(1 << len(different))])
+        self.layers = tuple(found)
+        self.table = tuple([mask > 0 for mask in range(1 << len(found))])
         self._weights = None
         self._signed = None
         self._terms = None
 
     @property
     def weights(self):
-        """How thick the points of each pattern lie, by integers, their unit, and the masks with a common point."""
+        """What weights_of tells: how thick the points of each pattern lie, by integers, their unit, and masks."""
         if self._weights is None:
             self._weights = weights_of(self.layers)
         return self._weights

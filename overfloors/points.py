@@ -31,7 +31,9 @@ class Point:
         return bool(self.x.top != 0 or self.y.top != 0)
 
     def __eq__(self, other):
-        return isinstance(other, Point) and self.x == other.x and self.y == other.y
+        if not isinstance(other, Point) or self.x.top != other.x.top or self.x.bottom != other.x.bottom:
+            return False
+        return self.y.top == other.y.top and self.y.bottom == other.y.bottom
 
     def __neg__(self):
         return Point(-self.x, -self.y)
