@@ -181,7 +181,7 @@ def side_by_side(one, other):
 
 
 def marked(places, bits, wider):
-    """Triples of the signed masks of a set, by other bits of its layers, of the bits of wider layers, and of the signs."""
+    """Triples of the signed masks of a set, by other bits of its layers, the bits of wider layers, and the signs."""
     found = []
     for mask, sign in places.signed:
         chosen = [bit for index, bit in enumerate(bits) if mask >> index & 1]
