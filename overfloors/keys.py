@@ -54,8 +54,8 @@ def whole_figures(times, rows, marks, start):
     for letter in marks:
         steps = [(x - left, y - low) for x, y in whole_points(marks[letter], many)]
         figures[letter] = [(x * v[1] - y * v[0], u[0] * y - u[1] * x) for x, y in steps]
-        for x, y in figures[letter]:
-            common = gcd(common, x, y)
+        for across, upward in figures[letter]:
+            common = gcd(common, across, upward)
     if bottom < 0:
         common = -common
     return bottom // common, {letter: [(x // common, y // common) for x, y in figures[letter]] for letter in figures}
@@ -139,7 +139,8 @@ def moves(frames, others, ends):
     times, bottom = frames.times, others.times * area_of(u, v)
     left, right, low, high = times * v[1], times * v[0], times * u[1], times * u[0]
     found = []
-    for ((x, y), (z, w)), point in ends:
+    for rows, point in ends:
+        (x, y), (z, w) = rows
         a, b = Ratio(x * left - z * low, bottom), Ratio(z * high - x * right, bottom)
         c, d = Ratio(y * left - w * low, bottom), Ratio(w * high - y * right, bottom)
         across, upward = summed(a, start.x, b, start.y), summed(c, start.x, d, start.y)

@@ -59,6 +59,14 @@ def table_of(points):
     return Table(a, b % d, d, across, upward)
 
 
+def upright_table(width, height):
+    """The table of the lattice of the points (width, 0) and (0, height)."""
+    across, upward = abs(ratio_of(width)), abs(ratio_of(height))
+    if across.top == 0 or upward.top == 0:
+        raise Flat()
+    return Table(across.top, 0, upward.top, across.bottom, upward.bottom)
+
+
 def rows_by(table, across, upward):
     """The rows (a, b, d) of a table that is taken so many times in both directions."""
     more = upward // table.upward
@@ -140,12 +148,12 @@ class Lattice:
     @classmethod
     def square(cls, size):
         """The lattice of (size, 0) and (0, size)."""
-        return cls([Point(size, 0), Point(0, size)])
+        return cls(upright_table(size, size))
 
     @classmethod
     def oblong(cls, width, height):
         """The lattice of (width, 0) and (0, height)."""
-        return cls([Point(width, 0), Point(0, height)])
+        return cls(upright_table(width, height))
 
     @property
     def cell(self):

@@ -57,8 +57,8 @@ def least_pair(top, bottom):
 def own_cells(meshes):
     """The cells of meshes, by their bits."""
     found = {}
-    for index, (across, upward, (_, _, a, _, d)) in enumerate(meshes):
-        found[1 << index] = least_pair(a * d, across * upward)
+    for index, (across, upward, grid) in enumerate(meshes):
+        found[1 << index] = least_pair(grid[2] * grid[4], across * upward)
     return found
 
 

@@ -115,8 +115,8 @@ def within(ground, layer, point, far, *, most=200):
     bound = (ratio_of(far) * (many * many)).floor()
     steps = []
     for j, first, last in rows_within(ground, (u, v), w, bound, most):
-        x, y = v[0] * j - w[0], v[1] * j - w[1]
-        steps.extend([(x + u[0] * i, y + u[1] * i) for i in range(first, last + 1)])
+        left, low = v[0] * j - w[0], v[1] * j - w[1]
+        steps.extend([(left + u[0] * i, low + u[1] * i) for i in range(first, last + 1)])
     order = ranked([(ground.whole_measure(x, y), x, y) for x, y in steps])
     return placed(point, [steps[index] for index in order], many)
 

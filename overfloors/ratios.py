@@ -61,15 +61,14 @@ def power_of(base, number, unit):
     return found
 
 
-def with_bottom_above(top, bottom):
-    """The top and the bottom of a fraction, told so that the bottom is above 0."""
+def check_parts(top, bottom):
+    """Raises an error unless two values are the top and the bottom of a fraction."""
     if not is_int(top):
         raise BadNumber(top)
     if not is_int(bottom):
         raise BadNumber(bottom)
     if bottom == 0:
         raise BadNumber(0)
-    return (-top, -bottom) if bottom < 0 else (top, bottom)
 
 
 class Ratio:
@@ -80,11 +79,11 @@ class Ratio:
     """
 
     def __init__(self, top, bottom=1):
-        if type(top) is not int or type(bottom) is not int or bottom < 1:
-            top, bottom = with_bottom_above(top, bottom)
-        if bottom > 1:
-            common = gcd(top, bottom)
-            if common > 1:
+        if type(top) is not int or type(bottom) is not int or bottom == 0:
+            check_parts(top, bottom)
+        if bottom != 1:
+            common = gcd(top, bottom) if bottom > 0 else -gcd(top, bottom)
+            if common != 1:
                 top = top // common
                 bottom = bottom // common
         self.top = top
@@ -92,7 +91,7 @@ class Ratio:
 
     def over(self, number):
         """The exact quotient by a number."""
-        divisor = ratio_of(number)
+        divisor = number if isinstance(number, Ratio) else ratio_of(number)
         if divisor.top == 0:
             raise BadNumber(number)
         return Ratio(self.top * divisor.bottom, self.bottom * divisor.top)
