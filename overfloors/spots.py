@@ -1,9 +1,12 @@
 """Spots: what of a floor is seen around the points of a layer, and how often."""
 
+from math import lcm
+
 from overfloors.errors import TooMany
 from overfloors.layers import Layer
 from overfloors.meshes import mesh_of
-from overfloors.points import ranked_points
+from overfloors.order import ranked
+from overfloors.ratios import Ratio
 from overfloors.windows import View, Window, floor_sum
 
 MOST = 20
@@ -19,25 +22,33 @@ def common_lattice(floor):
 
 
 def marks_in(floor, window):
-    """The pairs (letter, point) of a floor in a window, ordered by x, then by y."""
+    """The marks of a floor in a window: two scales, and triples (letter, x, y) by integers, ordered by x, then by y."""
     views = [View(layer, window) for _, layer in floor.laid]
     if sum([view.many for view in views]) > MOST:
         raise TooMany(MOST)
-    found = [(letter, point) for (letter, _), view in zip(floor.laid, views) for point in view.places()]
-    return [found[index] for index in ranked_points([point for _, point in found])]
+    across, upward = 1, 1
+    for view in views:
+        across, upward = lcm(across, view.across), lcm(upward, view.upward)
+    letters, places = [], []
+    for (letter, _), view in zip(floor.laid, views):
+        wide, high = across // view.across, upward // view.upward
+        for x, y in view.places():
+            letters.append(letter)
+            places.append((x * wide, y * high))
+    return across, upward, [(letters[index], *places[index]) for index in ranked(places)]
 
 
-def spans_of(figures, low, high, scale, end):
+def spans_of(figures, many, bounds, scale, end):
     """For each coordinate of a mark the first integer from which on it is seen, and the first behind these.
 
-    The integers tell from how many parts of a unit the mark is seen; they go from 0 on, below the end.
+    The figures tell a coordinate so many times. The integers tell from how many parts of a unit the
+    mark is seen; they go from 0 on, below the end.
     """
+    low, high = bounds
     found = []
     for figure in figures:
-        first, last = [
-            (figure.top * side.bottom - side.top * figure.bottom) * scale // (figure.bottom * side.bottom) + 1
-            for side in (high, low)
-        ]
+        first = (figure * high.bottom - high.top * many) * scale // (high.bottom * many) + 1
+        last = (figure * low.bottom - low.top * many) * scale // (low.bottom * many) + 1
         found.append((min(max(0, first), int(end)), min(max(0, last), int(end))))
     return found
 
@@ -81,15 +92,12 @@ def counts_of(grid, across, upward, ends):
     return found
 
 
-def picture_of(marks):
+def seen_from_first(marks):
     """The triples (letter, dx, dy) of marks, the differences to the first one."""
-    steps = [(letter, point - marks[0][1]) for letter, point in marks]
-    return tuple([(letter, step.x, step.y) for letter, step in steps])
-
-
-def key_by(picture):
-    """What tells a picture, as a key of a dict."""
-    return tuple([(letter, x.top, x.bottom, y.top, y.bottom) for letter, x, y in picture])
+    if len(marks) == 0:
+        return ()
+    _, left, low = marks[0]
+    return tuple([(letter, x - left, y - low) for letter, x, y in marks])
 
 
 def spots(layer, floor, window):
@@ -97,20 +105,22 @@ def spots(layer, floor, window):
     if len(floor.laid) == 0:
         return [((), layer.thickness)]
     common = common_lattice(floor)
-    marks = marks_in(floor, Window(window.left, window.right + common.a, window.low, window.high + common.d))
+    sight = Window(window.left, window.right + common.a, window.low, window.high + common.d)
+    first, second, marks = marks_in(floor, sight)
     # What is seen from a point is seen again from all points a common step away, so points
     # count that lead to one another by steps of the layer and of the floor, in one oblong.
     joint = Layer(layer.point, layer.lattice + common)
     wide, high, grid = mesh_of(joint)
     ends = common.a.top * (wide // common.a.bottom), common.d.top * (high // common.d.bottom)
-    across = spans_of([point.x for _, point in marks], window.left, window.right, wide, ends[0])
-    upward = spans_of([point.y for _, point in marks], window.low, window.high, high, ends[1])
+    across = spans_of([x for _, x, _ in marks], first, (window.left, window.right), wide, ends[0])
+    upward = spans_of([y for _, _, y in marks], second, (window.low, window.high), high, ends[1])
     counts = counts_of(grid, across, upward, ends)
     unit = layer.thickness.over(common.cell.over(joint.lattice.cell))
-    pictures, many = {}, {}
+    many = {}
     for seen in counts:
-        picture = picture_of([marks[index] for index in seen])
-        key = key_by(picture)
-        pictures[key] = picture
-        many[key] = many.get(key, 0) + counts[seen]
-    return [(pictures[key], unit * many[key]) for key in pictures]
+        picture = seen_from_first([marks[index] for index in seen])
+        many[picture] = many.get(picture, 0) + counts[seen]
+    return [
+        (tuple([(letter, Ratio(x, first), Ratio(y, second)) for letter, x, y in picture]), unit * many[picture])
+        for picture in many
+    ]

@@ -1,8 +1,7 @@
 """Windows: how many places of a set they hold, and which ones, however many columns there are."""
 
 from overfloors.meshes import mesh_of
-from overfloors.points import Point
-from overfloors.ratios import Ratio, ratio_of
+from overfloors.ratios import ratio_of
 
 
 class Window:
@@ -154,12 +153,9 @@ class View:
             self.many = self.trail.many_between(self.first, self.end)
 
     def places(self):
-        """The places, ordered by x, then by y."""
+        """The places, as pairs (x, y) of integers, so many times as great: ordered by x, then by y."""
         # Where the strip itself has no place the trail may still have very many beside it.
-        if self.many == 0:
-            return []
-        pairs = self.trail.places_between(self.first, self.end)
-        return [Point(Ratio(x, self.across), Ratio(y, self.upward)) for x, y in pairs]
+        return [] if self.many == 0 else self.trail.places_between(self.first, self.end)
 
 
 def count_layer(layer, window):

@@ -162,7 +162,8 @@ class TrailTest(unittest.TestCase):
             left, low = draw.ratio(5), draw.ratio(5)
             window = Window(left, left + abs(draw.ratio(3)), low, low + abs(draw.ratio(9)))
             found = walk_points(layer, window)
-            self.assertEqual(View(layer, window).places(), found)
+            view = View(layer, window)
+            self.assertEqual([Point(Ratio(x, view.across), Ratio(y, view.upward)) for x, y in view.places()], found)
             self.assertEqual(count_in(Places([layer]), window), len(found))
         # A strip between the lines of a layer, as long as can be.
         rows = Layer(Point(0, 0), Lattice.square(1))
